@@ -1,0 +1,1 @@
+"""Formulas over binary digits, with counts over ranges."""

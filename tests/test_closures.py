@@ -1,0 +1,35 @@
+import unittest
+
+from bitcounts.closures import closure
+from bitcounts.errors import TooMany
+from bitcounts.rules import widened
+from bitcounts.words import formula, var
+from tests.support import raised
+
+M, N = var("m"), var("n")
+
+
+def points(made):
+    """The labels at which a formula's basic parts tell all of their values."""
+    rule = made._rule
+    found, _ = closure(widened(rule, rule.variables), rule.starts, True, len(rule.starts))
+    return [(places, label) for places, label, _ in found]
+
+
+class Points(unittest.TestCase):
+    def test_the_tuples_come_by_their_places_then_from_the_first_number_on(self):
+        self.assertEqual(points(formula(0)), [])
+        self.assertEqual(points(formula(5)), [(0, ())])
+        self.assertEqual(points(M ** 3), [(0, (0,)), (1, (1,)), (2, (2,)), (2, (3,))])
+        self.assertEqual(points(M + N), [(0, (0, 0)), (1, (0, 1))])
+        self.assertEqual(points(M * N), [(0, (0, 0)), (1, (0, 1)), (1, (1, 0)), (1, (1, 1))])
+        self.assertEqual(points(M + N * N), [(0, (0, 0)), (1, (0, 1)), (1, (1, 0)), (2, (0, 2))])
+
+    def test_too_many(self):
+        rule = (M ** 3)._rule
+        self.assertEqual(len(closure(rule.sides, rule.starts, True, 4)[0]), 4)
+        raised(self, TooMany, closure, rule.sides, rule.starts, True, 3)
+
+
+if __name__ == "__main__":
+    unittest.main()
