@@ -71,7 +71,8 @@ def united(names, others):
 
 def widened(rule, names):
     """The sides of the rule for the digit rows of these names, among which are its own."""
-    places = [names.index(name) for name in rule.variables]
+    # Not `names.index`: what operators run calls no method that is the name of an attribute of the package.
+    places = [place for name in rule.variables for place, other in enumerate(names) if other == name]
     rows = [digit_row(index, len(names)) for index in range(1 << len(names))]
     return [rule.sides[digit_index([row[place] for place in places])] for row in rows]
 

@@ -134,6 +134,13 @@ class Names(unittest.TestCase):
             if isinstance(node.func, ast.Attribute):
                 self.assertIn(node.func.attr, METHODS | own, name)
 
+    def test_no_called_method_has_the_name_of_an_attribute(self):
+        attributes = {node.attr for _, node in nodes(ast.Attribute) if isinstance(node.ctx, ast.Store)}
+        self.assertTrue({"name", "number", "index", "text", "command", "value", "pairs"} <= attributes)
+        for name, node in nodes(ast.Call):
+            if isinstance(node.func, ast.Attribute):
+                self.assertNotIn(node.func.attr, attributes, (name, node.lineno))
+
 
 class Statements(unittest.TestCase):
     def test_barred_nodes(self):
