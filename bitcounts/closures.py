@@ -4,26 +4,9 @@ A side is a tuple of rows of fractions, one for each place of the vectors. Tuple
 numbers, are told by their sides: digit rows are numbered in the order of the tuples.
 """
 
-from bitcounts.errors import TooMany
+from bitcounts.digit_rows import digit_row, names_told
 from bitcounts.rows import applied, row_of, shortest
 from math import gcd
-
-
-def digit_row(index, size):
-    """The digits of the digit row with this number, for so many names."""
-    return tuple([index >> (size - 1 - at) & 1 for at in range(size)])
-
-
-def digit_index(digits):
-    index = 0
-    for digit in digits:
-        index = 2 * index + digit
-    return index
-
-
-def names_told(sides):
-    """For how many names these are the sides, one for each digit row."""
-    return len(sides).bit_length() - 1
 
 
 def first_place(vector, width):
@@ -86,7 +69,8 @@ def closure(sides, first, lowest, most):
     them: at the lowest place (the vectors belong to tuples of numbers), or in front (to parts). The order
     is that of the number of places, then that of the labels. Returned are the list of the vectors, each
     as (places, label, vector), and for each side the tuple of the rows by which what it makes of each of
-    these vectors is a combination of them. TooMany is raised for more than `most` of them.
+    these vectors is a combination of them. If there are more than `most` vectors, only so many are returned,
+    and no rows.
     """
     width = len(first)
     found = []
@@ -103,7 +87,7 @@ def closure(sides, first, lowest, most):
             if place is None:
                 rows[source, index] = share_row(rest, width)
             elif len(found) == most:
-                raise TooMany()
+                return found, None
             else:
                 rows[source, index] = (((len(found), 1),), 1)
                 fresh.append(len(found))

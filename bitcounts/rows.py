@@ -5,7 +5,7 @@ its top, in ascending places, and the bottom that all of them share, above 0. Th
 no common divisor above 1, so that equal rows of fractions are equal as values.
 """
 
-from math import gcd
+from math import gcd, lcm
 
 
 def common_divisor(vector):
@@ -51,7 +51,23 @@ def combined(row, vector):
 
 
 def applied(side, vector):
-    return [combined(row, vector) for row in side]
+    """What the rows of the side make of the vector, as `combined` does."""
+    return [sum([top * vector[place] for place, top in pairs]) // bottom for pairs, bottom in side]
+
+
+def row_behind(row, side):
+    """The row that tells of a vector what the row tells of what the side makes of it."""
+    common = 1
+    for place, _ in row[0]:
+        common = lcm(common, side[place][1])
+    tops = {}
+    for place, top in row[0]:
+        pairs, bottom = side[place]
+        for beside, factor in pairs:
+            tops[beside] = tops.get(beside, 0) + top * factor * (common // bottom)
+    places = sorted([int(place) for place in tops])
+    divisor = common_divisor([common * row[1], *[tops[place] for place in places]])
+    return tuple([(place, tops[place] // divisor) for place in places if tops[place] != 0]), common * row[1] // divisor
 
 
 def moved(row, by):

@@ -1,10 +1,8 @@
 import unittest
 
 from bitcounts.closures import closure
-from bitcounts.errors import TooMany
 from bitcounts.rules import widened
 from bitcounts.words import formula, var
-from tests.support import raised
 
 M, N = var("m"), var("n")
 
@@ -25,10 +23,11 @@ class Points(unittest.TestCase):
         self.assertEqual(points(M * N), [(0, (0, 0)), (1, (0, 1)), (1, (1, 0)), (1, (1, 1))])
         self.assertEqual(points(M + N * N), [(0, (0, 0)), (1, (0, 1)), (1, (1, 0)), (2, (0, 2))])
 
-    def test_too_many(self):
+    def test_more_than_the_most(self):
         rule = (M ** 3)._rule
-        self.assertEqual(len(closure(rule.sides, rule.starts, True, 4)[0]), 4)
-        raised(self, TooMany, closure, rule.sides, rule.starts, True, 3)
+        found, spans = closure(rule.sides, rule.starts, True, 4)
+        self.assertEqual((len(found), len(spans)), (4, 2))
+        self.assertEqual(closure(rule.sides, rule.starts, True, 3), (found[:3], None))
 
 
 if __name__ == "__main__":

@@ -4,7 +4,9 @@ import doctest
 import unittest
 from pathlib import Path
 
-from bitcounts.words import formula, var
+from bitcounts.conditions import always
+from bitcounts.counting import length, one_if, ones, raised
+from bitcounts.words import formula, rests, same, var
 
 
 class Examples(unittest.TestCase):
@@ -20,7 +22,23 @@ class Examples(unittest.TestCase):
 
     def test_words(self):
         m, n = var("m"), var("n")
-        self.assertEqual([(m - n).of(m=3, n=9), (m - m).names, (m + n).rank], [-6, (), 2])
+        shown = [m + n == (m ^ n) + 2 * (m & n), (m & ~n).of(m=12, n=10), (m - n).of(m=3, n=9), (m ^ m >> 1).of(m=6),
+                 (m - m).names, (m + n).rank, (m & m - 1).of(m=0)]
+        self.assertEqual(shown, [True, 4, -6, 5, (), 2, 0])
+
+    def test_conditions(self):
+        m, n = var("m"), var("n")
+        apart = same(m & n, 0)
+        shown = [apart == same(m + n, m | n), apart.of(m=5, n=2), (apart & (n < m)).least, rests(m, 3, 1).classes,
+                 (m < 5).is_finite, ((m < n) | (m >= n)) == always(), apart <= (m <= n)]
+        self.assertEqual(shown, [True, True, (("m", 1), ("n", 0)), 3, True, True, False])
+
+    def test_counting(self):
+        m, n = var("m"), var("n")
+        carries = ones(m) + ones(n) - ones(m + n)
+        shown = [carries.of(m=7, n=1), ones(m) + ones(n) == ones(m ^ n) + 2 * ones(m & n), length(m).of(m=9),
+                 ones(-m) == ones(m), raised(2, m).of(m=5), one_if(m < n).of(m=1, n=4)]
+        self.assertEqual(shown, [3, True, 4, True, 4, 1])
 
     def test_readme(self):
         readme = Path(__file__).parent.parent / "README.md"

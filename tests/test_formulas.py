@@ -223,7 +223,7 @@ class Limits(unittest.TestCase):
 
 class WrongPairs(unittest.TestCase):
     def check(self, pairs, index):
-        for made in (FM, formula(7), FM * N):
+        for made in (FM, formula(7), FM * N, M, word(7), M & ~N):
             self.assertEqual(raised(self, InvalidValues, made.at, pairs).index, index)
 
     def test_no_tuple(self):
@@ -261,12 +261,12 @@ class WrongPairs(unittest.TestCase):
 class WrongKeywords(unittest.TestCase):
     def test_keywords_that_are_no_names(self):
         for keyword in ("M", "", "m1", "abcdefghi", "m ", " ", "\u00e4", "_m"):
-            for made in (FM, formula(7)):
+            for made in (FM, formula(7), M | N, word(7)):
                 self.assertEqual(raised(self, InvalidName, made.of, **{"m": 1, keyword: 1}).name, keyword)
 
     def test_values_that_are_no_numbers(self):
         for wrong in (-1, GREATEST + 1, True, False, None, "1", (1,), [1]):
-            for made in (FM, formula(7), FM * N):
+            for made in (FM, formula(7), FM * N, M, word(7), M ^ N):
                 number = raised(self, InvalidNumber, made.of, m=wrong).number
                 self.assertIs(number, wrong)
                 self.assertIs(raised(self, InvalidNumber, made.of, m=1, n=1, z=wrong).number, wrong)

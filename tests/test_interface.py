@@ -5,14 +5,25 @@ import inspect
 import unittest
 from pathlib import Path
 
-from bitcounts import errors, formulas, words
+from bitcounts import conditions, counting, errors, formulas, words
 
 FOLDER = Path(__file__).parent.parent / "bitcounts"
-FUNCTIONS = {words: {"var": ["name"], "word": ["c"], "formula": ["f"]}}
+FUNCTIONS = {
+    words: {"var": ["name"], "word": ["c"], "formula": ["f"], "same": ["u", "v"], "rests": ["u", "modulus", "rest"]},
+    conditions: {"always": []},
+    counting: {"ones": ["u"], "length": ["u"], "raised": ["base", "u"], "one_if": ["t"]},
+}
 PROPERTIES = ["names", "rank", "basis", "equations", "firsts"]
-METHODS = ["at", "of", "__add__", "__radd__", "__sub__", "__rsub__", "__neg__", "__mul__", "__rmul__",
-           "__pow__", "__eq__", "__bool__", "__repr__"]
-CLASSES = {formulas: "Formula", words: "Word"}
+FORMULA = ["at", "of", "__add__", "__radd__", "__sub__", "__rsub__", "__neg__", "__mul__", "__rmul__", "__pow__",
+           "__eq__", "__bool__", "__repr__"]
+WORD = FORMULA + ["__and__", "__rand__", "__or__", "__ror__", "__xor__", "__rxor__", "__invert__", "__lshift__",
+                  "__rshift__", "__lt__", "__le__", "__gt__", "__ge__"]
+TEST = ["holds", "of", "__and__", "__or__", "__xor__", "__invert__", "__le__", "__eq__", "__bool__", "__repr__"]
+CLASSES = {
+    "Formula": (formulas, PROPERTIES, FORMULA, "at"),
+    "Word": (words, PROPERTIES, WORD, "at"),
+    "Test": (conditions, ["names", "classes", "least", "is_finite"], TEST, "holds"),
+}
 ERRORS = ["InputError", "StateError", "LimitError", "InvalidName", "InvalidNumber", "InvalidValues", "InvalidDeeds",
           "InvalidText", "InvalidCommand", "NotAWord", "NotAFormula", "NotATest", "NotAVariable", "WrongNames",
           "UnknownName", "Refused", "Parted", "Busy", "NothingToUndo", "TooMany", "TooManyNames", "TooManyClasses"]
@@ -31,12 +42,14 @@ class Interface(unittest.TestCase):
                 self.assertEqual(list(inspect.signature(getattr(module, name)).parameters), parameters)
 
     def test_classes(self):
-        for module, name in CLASSES.items():
+        for name, (module, properties, methods, asking) in CLASSES.items():
             self.assertIn(name, defined(module))
             own = vars(getattr(module, name))
-            for method in PROPERTIES + METHODS:
-                self.assertIn(method, own)
-            self.assertEqual(str(inspect.signature(own["at"])), "(self, pairs)")
+            for part in properties:
+                self.assertIsInstance(own[part], property)
+            for part in methods:
+                self.assertTrue(callable(own[part]))
+            self.assertEqual(str(inspect.signature(own[asking])), "(self, pairs)")
             self.assertEqual(inspect.signature(own["of"]).parameters["numbers"].kind, inspect.Parameter.VAR_KEYWORD)
 
     def test_errors(self):

@@ -128,6 +128,32 @@ class Names(unittest.TestCase):
                         if word not in SPECIAL:
                             self.assertRegex(word, r"\A_?[A-Za-z][A-Za-z0-9_]*\Z|\A_\Z", name)
 
+    def test_locals_have_no_names_of_the_file(self):
+        for name, tree in trees():
+            known = set(module_names(tree)) | {
+                alias.name for node in tree.body if isinstance(node, ast.ImportFrom) for alias in node.names}
+            for function in [node for node in ast.walk(tree) if isinstance(node, ast.FunctionDef)]:
+                for node in ast.walk(function):
+                    if isinstance(node, ast.arg):
+                        self.assertNotIn(node.arg, known, (name, node.lineno))
+                    if isinstance(node, ast.Name) and isinstance(node.ctx, ast.Store):
+                        self.assertNotIn(node.id, known, (name, node.lineno))
+
+    def test_only_functions_and_classes_are_called_by_name(self):
+        for name, tree in trees():
+            known = set(module_names(tree)) | BUILTINS | {
+                alias.name for node in tree.body if isinstance(node, ast.ImportFrom) for alias in node.names}
+            for node in ast.walk(tree):
+                if isinstance(node, ast.Call):
+                    self.assertIsInstance(node.func, (ast.Name, ast.Attribute), (name, node.lineno))
+                    if isinstance(node.func, ast.Name):
+                        self.assertIn(node.func.id, known, (name, node.lineno))
+
+    def test_no_attribute_has_the_name_of_a_property_or_a_method(self):
+        attributes = {node.attr for _, node in nodes(ast.Attribute) if isinstance(node.ctx, ast.Store)}
+        parts = [part for _, node in nodes(ast.ClassDef) for part in node.body]
+        self.assertEqual(attributes & {part.name for part in parts if isinstance(part, ast.FunctionDef)}, set())
+
     def test_methods_of_builtin_values(self):
         own = {node.name for _, node in functions()}
         for name, node in nodes(ast.Call):

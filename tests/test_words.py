@@ -1,4 +1,4 @@
-"""What of words is there: variables, integers, their sums and multiples, and their way into formulas."""
+"""Variables, integers, their sums and multiples, and their way into formulas; other words are in test_bits."""
 
 import operator
 import unittest

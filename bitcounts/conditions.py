@@ -1,0 +1,79 @@
+"""Tests: what holds or not for all values of at most three variables."""
+
+from bitcounts.checks import numbers_by_name, numbers_by_pairs
+from bitcounts.digit_rows import digit_indexes
+from bitcounts.machines import (
+    everywhere, holds_at, holds_finitely, is_within, joined, least_numbers, opposite, same_machines,
+)
+
+# Whether a joined test holds, by whether the one and whether the other one does.
+BOTH = ((False, False), (False, True))
+AT_LEAST_ONE = ((False, True), (True, True))
+JUST_ONE = ((False, True), (True, False))
+
+
+class Test:
+    def __init__(self, machine):
+        self._machine = machine
+
+    @property
+    def names(self):
+        return self._machine.variables
+
+    @property
+    def classes(self):
+        return len(self._machine.marks)
+
+    @property
+    def least(self):
+        numbers = least_numbers(self._machine)
+        return None if numbers is None else tuple(zip(self._machine.variables, numbers))
+
+    @property
+    def is_finite(self):
+        return holds_finitely(self._machine)
+
+    def holds(self, pairs):
+        return holds_at(self._machine, digit_indexes(numbers_by_pairs(self._machine.variables, pairs)))
+
+    def of(self, **numbers):
+        return holds_at(self._machine, digit_indexes(numbers_by_name(self._machine.variables, numbers)))
+
+    def __and__(self, other):
+        if not isinstance(other, Test):
+            return NotImplemented
+        return Test(joined(self._machine, other._machine, BOTH))
+
+    def __or__(self, other):
+        if not isinstance(other, Test):
+            return NotImplemented
+        return Test(joined(self._machine, other._machine, AT_LEAST_ONE))
+
+    def __xor__(self, other):
+        if not isinstance(other, Test):
+            return NotImplemented
+        return Test(joined(self._machine, other._machine, JUST_ONE))
+
+    def __invert__(self):
+        return Test(opposite(self._machine))
+
+    def __le__(self, other):
+        if not isinstance(other, Test):
+            return NotImplemented
+        return is_within(self._machine, other._machine)
+
+    def __eq__(self, other):
+        if not isinstance(other, Test):
+            return NotImplemented
+        return same_machines(self._machine, other._machine)
+
+    def __bool__(self):
+        return any([mark for mark in self._machine.marks])
+
+    def __repr__(self):
+        return f"Test({len(self._machine.marks)})"
+
+
+def always():
+    """The test that holds everywhere."""
+    return Test(everywhere())
