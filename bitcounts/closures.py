@@ -77,12 +77,12 @@ def closure(sides, first, lowest, most):
     # Each vector is kept with its shares of those found, so that what vanishes tells its combination.
     echelon = []
     rows = {}
-    waiting = [(tuple([0] * names_told(sides)), -1, 0, first)]
+    waiting = [(tuple([0 for _ in range(names_told(sides))]), -1, 0, first)]
     level = 0
     while waiting:
         fresh = []
         for label, source, index, vector in waiting:
-            rest = reduced([*vector, *[0] * len(found), 1], echelon)
+            rest = reduced([*vector, *[0 for _ in found], 1], echelon)
             place = first_place(rest, width)
             if place is None:
                 rows[source, index] = share_row(rest, width)

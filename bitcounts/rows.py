@@ -37,7 +37,7 @@ def row_of(tops, bottom):
 def fractions(row, size):
     """The fractions of a row with this many places, as pairs (top, bottom)."""
     pairs, bottom = row
-    told = [(0, 1)] * size
+    told = [(0, 1) for _ in range(size)]
     for place, top in pairs:
         common = gcd(top, bottom)
         told[place] = (top // common, bottom // common)

@@ -48,7 +48,7 @@ def halved(name, times):
     one = ((times + 1, 1),), 1
     even = (*fewer, (((times, 2),), 1), one)
     odd = (*fewer, (((times, 2), (times + 1, 1)), 1), one)
-    starts = (*[0 for place in range(times)], 0, 1)
+    starts = (*[0 for _ in range(times)], 0, 1)
     return minimal_rule((name,), (even, odd), starts, told_first(starts), len(starts))
 
 

@@ -51,8 +51,8 @@ def created(function):
     new, other = set(), {argument.arg for argument in function.args.args}
     for node in ast.walk(function):
         if isinstance(node, ast.Assign):
+            # No `[0] * n`: beside classes with `__mul__` the sign does not make a new list plain.
             fresh = isinstance(node.value, (ast.List, ast.Dict, ast.ListComp, ast.DictComp))
-            fresh = fresh or isinstance(node.value, ast.BinOp) and isinstance(node.value.left, ast.List)
             for target in node.targets:
                 if isinstance(target, ast.Name):
                     (new if fresh else other).add(target.id)
