@@ -85,3 +85,14 @@ def crossed(row, other, size):
     bottom = row[1] * other[1]
     common = common_divisor([bottom, *list(tops.values())])
     return tuple([(place, tops[place] // common) for place in tops]), bottom // common
+
+
+def row_sum(row, other):
+    """The row of the sums of both rows' factors."""
+    bottom = lcm(row[1], other[1])
+    tops = {place: top * (bottom // row[1]) for place, top in row[0]}
+    for place, top in other[0]:
+        tops[place] = tops.get(place, 0) + top * (bottom // other[1])
+    places = sorted([int(place) for place in tops])
+    common = common_divisor([bottom, *[tops[place] for place in places]])
+    return tuple([(place, tops[place] // common) for place in places if tops[place] != 0]), bottom // common

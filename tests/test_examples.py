@@ -6,6 +6,9 @@ from pathlib import Path
 
 from bitcounts.conditions import always
 from bitcounts.counting import length, one_if, ones, raised
+from bitcounts.relations import new_tuples, parting, relations
+from bitcounts.texts import read_formula, read_test, read_word
+from bitcounts.totals import count, total
 from bitcounts.words import formula, rests, same, var
 
 
@@ -39,6 +42,26 @@ class Examples(unittest.TestCase):
         shown = [carries.of(m=7, n=1), ones(m) + ones(n) == ones(m ^ n) + 2 * ones(m & n), length(m).of(m=9),
                  ones(-m) == ones(m), raised(2, m).of(m=5), one_if(m < n).of(m=1, n=4)]
         self.assertEqual(shown, [3, True, 4, True, 4, 1])
+
+    def test_totals(self):
+        m, n = var("m"), var("n")
+        odd = count(same(m & (n - m), 0), "m", n + 1)
+        shown = [odd == raised(2, n), odd.of(n=10), 2 * total(m, "m", n) == n * n - n, total(ones(m), "m", n).of(n=8),
+                 total(1, "m", n - 3).of(n=2), total(m & n, "m", n).of(n=4)]
+        self.assertEqual(shown, [True, 4, True, 12, 0, 0])
+
+    def test_relations(self):
+        m, n = var("m"), var("n")
+        shown = [parting(m + n, m | n), parting(m, m), parting(ones(m), m), relations(m & n, m | n, m, n),
+                 new_tuples(m + n), new_tuples(0)]
+        self.assertEqual(shown, [
+            (("m", 1), ("n", 1)), None, (("m", 2),), ((-1, -1, 1, 1),), ((0, 0), (0, 1)), ()])
+
+    def test_texts(self):
+        m, n = var("m"), var("n")
+        shown = [read_word("((m ^ n) + (2 * (m & n)))") == m + n, read_formula("(ones(m) * (n - 1))").of(m=3, n=5),
+                 read_test("((m < n) or (m == n))") == (m <= n)]
+        self.assertEqual(shown, [True, 8, True])
 
     def test_readme(self):
         readme = Path(__file__).parent.parent / "README.md"

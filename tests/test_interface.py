@@ -5,13 +5,16 @@ import inspect
 import unittest
 from pathlib import Path
 
-from bitcounts import conditions, counting, errors, formulas, words
+from bitcounts import conditions, counting, errors, formulas, relations, texts, totals, words
 
 FOLDER = Path(__file__).parent.parent / "bitcounts"
 FUNCTIONS = {
     words: {"var": ["name"], "word": ["c"], "formula": ["f"], "same": ["u", "v"], "rests": ["u", "modulus", "rest"]},
     conditions: {"always": []},
     counting: {"ones": ["u"], "length": ["u"], "raised": ["base", "u"], "one_if": ["t"]},
+    totals: {"total": ["f", "name", "below"], "count": ["t", "name", "below"]},
+    relations: {"parting": ["f", "g"], "relations": ["formulas"], "new_tuples": ["formulas"]},
+    texts: {"read_word": ["text"], "read_formula": ["text"], "read_test": ["text"]},
 }
 PROPERTIES = ["names", "rank", "basis", "equations", "firsts"]
 FORMULA = ["at", "of", "__add__", "__radd__", "__sub__", "__rsub__", "__neg__", "__mul__", "__rmul__", "__pow__",
@@ -39,7 +42,10 @@ class Interface(unittest.TestCase):
         for module, functions in FUNCTIONS.items():
             for name, parameters in functions.items():
                 self.assertIn(name, defined(module))
-                self.assertEqual(list(inspect.signature(getattr(module, name)).parameters), parameters)
+                signature = inspect.signature(getattr(module, name)).parameters
+                self.assertEqual(list(signature), parameters)
+                starred = [part.kind == inspect.Parameter.VAR_POSITIONAL for part in signature.values()]
+                self.assertEqual(any(starred), parameters == ["formulas"], name)
 
     def test_classes(self):
         for name, (module, properties, methods, asking) in CLASSES.items():
