@@ -1,7 +1,7 @@
 """Where formulas part, which of their multiples add up to 0, and the new tuples for them."""
 
 from bitcounts.errors import InvalidValues
-from bitcounts.ties import least_difference, relation_rows, tuples_together
+from bitcounts.ties import least_difference, lines_together, new_points, relation_rows
 from bitcounts.words import formula
 
 MOST_FORMULAS = 6
@@ -23,9 +23,11 @@ def parting(f, g):
 
 def relations(*formulas):
     """For each formula that is a combination of those before it, the integers by which they add up to 0."""
-    return relation_rows(checked_rules(formulas))
+    lines = lines_together(checked_rules(formulas))
+    return relation_rows(lines, new_points(lines))
 
 
 def new_tuples(*formulas):
     """The new tuples for these formulas, in their order."""
-    return tuples_together(checked_rules(formulas))
+    lines = lines_together(checked_rules(formulas))
+    return tuple([numbers for _, numbers, _ in new_points(lines)])

@@ -4,8 +4,13 @@ import doctest
 import unittest
 from pathlib import Path
 
+from bitcounts.certificates import certify_parting, certify_within, plain_machine, plain_rule
+from bitcounts.checker import accepts
 from bitcounts.conditions import always
+from bitcounts.console import Console
 from bitcounts.counting import length, one_if, ones, raised
+from bitcounts.desks import Desk
+from bitcounts.errors import Refused
 from bitcounts.relations import new_tuples, parting, relations
 from bitcounts.texts import read_formula, read_test, read_word
 from bitcounts.totals import count, total
@@ -62,6 +67,36 @@ class Examples(unittest.TestCase):
         shown = [read_word("((m ^ n) + (2 * (m & n)))") == m + n, read_formula("(ones(m) * (n - 1))").of(m=3, n=5),
                  read_test("((m < n) or (m == n))") == (m <= n)]
         self.assertEqual(shown, [True, 8, True])
+
+    def test_desks(self):
+        desk, m, n = Desk(), var("m"), var("n")
+        done = desk.do_all(("keep", "sum", m + n), ("keep", "both", m & n), ("keep", "one", m ^ n),
+                           ("claim", ((1, "sum"), (-2, "both"), (-1, "one"))))
+        desk.undo(times=2)
+        shown = [done, desk.names, desk.claims, desk["sum"].of(m=2, n=3), len(desk.history)]
+        self.assertEqual(shown, [4, ("both", "sum"), (), 5, 2])
+
+    def test_a_claim_that_is_refused(self):
+        desk, m, n = Desk(), var("m"), var("n")
+        self.assertEqual(desk.do_all(("keep", "a", m | n), ("keep", "b", m + n)), 2)
+        with self.assertRaises(Refused) as caught:
+            desk.claim(((1, "a"), (-1, "b")))
+        self.assertEqual(caught.exception.index, 0)
+
+    def test_certificates(self):
+        m, n = var("m"), var("n")
+        claim, paper = certify_parting(m + n, m | n)
+        shown = [claim[0], claim[3], accepts(claim, paper), accepts(claim, ()), certify_within(m < n, m <= n)[0][0],
+                 plain_machine(m < 1), plain_rule(formula(3))]
+        self.assertEqual(shown, [
+            "parting", (("m", 1), ("n", 1)), True, False, "within", (("m",), ((0, 1), (1, 1)), (True, False)),
+            ((), ((((1, 1),),),), (3,), ((1, 1),))])
+
+    def test_the_console(self):
+        console = Console()
+        shown = [console.say("s := (m + n)"), console.say("o := (m | n)"), console.say("s and o"),
+                 console.say("where ((m & n) == 3)"), console.say("claim 1 s + -1 s")]
+        self.assertEqual(shown, ["rank 2", "rank 2", "apart at m=1, n=1", "at m=3, n=3", "ok"])
 
     def test_readme(self):
         readme = Path(__file__).parent.parent / "README.md"

@@ -5,7 +5,9 @@ import inspect
 import unittest
 from pathlib import Path
 
-from bitcounts import conditions, counting, errors, formulas, relations, texts, totals, words
+from bitcounts import (
+    certificates, checker, conditions, console, counting, desks, errors, formulas, relations, texts, totals, words,
+)
 
 FOLDER = Path(__file__).parent.parent / "bitcounts"
 FUNCTIONS = {
@@ -15,6 +17,9 @@ FUNCTIONS = {
     totals: {"total": ["f", "name", "below"], "count": ["t", "name", "below"]},
     relations: {"parting": ["f", "g"], "relations": ["formulas"], "new_tuples": ["formulas"]},
     texts: {"read_word": ["text"], "read_formula": ["text"], "read_test": ["text"]},
+    checker: {"accepts": ["claim", "certificate"]},
+    certificates: {"certify_parting": ["f", "g"], "certify_relations": ["formulas"], "certify_within": ["t", "s"],
+                   "plain_rule": ["f"], "plain_machine": ["t"]},
 }
 PROPERTIES = ["names", "rank", "basis", "equations", "firsts"]
 FORMULA = ["at", "of", "__add__", "__radd__", "__sub__", "__rsub__", "__neg__", "__mul__", "__rmul__", "__pow__",
@@ -57,6 +62,21 @@ class Interface(unittest.TestCase):
                 self.assertTrue(callable(own[part]))
             self.assertEqual(str(inspect.signature(own[asking])), "(self, pairs)")
             self.assertEqual(inspect.signature(own["of"]).parameters["numbers"].kind, inspect.Parameter.VAR_KEYWORD)
+
+    def test_desk_and_console(self):
+        own = vars(desks.Desk)
+        self.assertIn("Desk", defined(desks))
+        for part in ("names", "claims", "busy", "history"):
+            self.assertIsInstance(own[part], property)
+        for part, shown in (("drop", "(self, name)"), ("claim", "(self, row)"), ("release", "(self, index)"),
+                            ("do_all", "(self, *deeds, watch=None)"), ("undo", "(self, *, times=1)")):
+            self.assertEqual(str(inspect.signature(own[part])), shown)
+        for part in ("__getitem__", "__setitem__", "__contains__"):
+            self.assertTrue(callable(own[part]))
+        own = vars(console.Console)
+        self.assertIn("Console", defined(console))
+        self.assertIsInstance(own["desk"], property)
+        self.assertEqual(str(inspect.signature(own["say"])), "(self, line)")
 
     def test_errors(self):
         self.assertEqual(sorted(defined(errors)), sorted(ERRORS))
