@@ -127,4 +127,4 @@ def blended(sign, rule, lag, other, lag_beside):
         look_at_rank(sign, first, second, names)
     pairs = paired_words(first, second, names, depth)
     sides, starts = all_sides(sign, pairs, second, names), all_starts(sign, pairs, first, second)
-    return minimal_rule(names, sides, starts, told_in_front(sign, pairs, first, second), len(starts))
+    return minimal_rule(names, sides, starts, told_in_front(sign, pairs, first, second))

@@ -10,7 +10,7 @@ from bitcounts.words import formula
 def plain_rule(f):
     """The least rule, with its first line told."""
     checked = formula(f)
-    return plain_lines(checked._rule)
+    return plain_lines(checked.rule)
 
 
 def plain_machine(t):
@@ -29,7 +29,7 @@ def checked_machine(value):
 def certify_parting(f, g):
     """That they are the same, or at which least tuple they part."""
     one, other = formula(f), formula(g)
-    return rule_paper(one._rule, other._rule)
+    return rule_paper(one, other)
 
 
 def certify_relations(*formulas):

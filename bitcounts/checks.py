@@ -18,11 +18,11 @@ def is_integer_within(value, low, high):
 def is_name(value):
     if not isinstance(value, str) or not 1 <= len(value) <= LONGEST_NAME:
         return False
-    return all([letter in LETTERS for letter in value])
+    return value.isascii() and value.isalpha() and value.islower()
 
 
 def is_number(value):
-    return is_integer_within(value, 0, GREATEST)
+    return isinstance(value, int) and not isinstance(value, bool) and 0 <= value <= GREATEST
 
 
 def check_name(name):
@@ -58,21 +58,31 @@ def check_numbers(numbers):
         check_within(numbers[name], 0, GREATEST)
 
 
-def picked(names, numbers):
-    """The numbers of these names, which the dict must have."""
+def check_names(names, numbers):
+    """The dict must have all these names."""
     for name in names:
         if name not in numbers:
             raise WrongNames(name)
-    return [numbers[name] for name in names]
 
 
-def numbers_by_pairs(names, pairs):
-    """What a method `at` is passed, as the list of the numbers of these names."""
+def filled(whole, names, numbers):
+    """The numbers of all these names, by name; those on which nothing hangs may be missing, and are 0 then.
+
+    `whole` is the formula, word or test, whose own names are looked at only if a name is missing.
+    """
+    if all([name in numbers for name in names]):
+        return numbers
+    check_names(whole.names, numbers)
+    return {name: numbers.get(name, 0) for name in names}
+
+
+def numbers_by_pairs(whole, names, pairs):
+    """What a method `at` is passed, by name."""
     check_pairs(pairs)
-    return picked(names, {name: number for name, number in pairs})
+    return filled(whole, names, {name: number for name, number in pairs})
 
 
-def numbers_by_name(names, numbers):
-    """What a method `of` is passed, as the list of the numbers of these names."""
+def numbers_by_name(whole, names, numbers):
+    """What a method `of` is passed, by name."""
     check_numbers(numbers)
-    return picked(names, numbers)
+    return filled(whole, names, numbers)

@@ -12,6 +12,11 @@ AT_LEAST_ONE = ((False, True), (True, True))
 JUST_ONE = ((False, True), (True, False))
 
 
+def holds_with(machine, numbers):
+    """Whether the machine holds at the numbers by their names."""
+    return holds_at(machine, digit_indexes([numbers[name] for name in machine.variables]))
+
+
 class Test:
     def __init__(self, machine):
         self._machine = machine
@@ -34,10 +39,10 @@ class Test:
         return holds_finitely(self._machine)
 
     def holds(self, pairs):
-        return holds_at(self._machine, digit_indexes(numbers_by_pairs(self._machine.variables, pairs)))
+        return holds_with(self._machine, numbers_by_pairs(self, self._machine.variables, pairs))
 
     def of(self, **numbers):
-        return holds_at(self._machine, digit_indexes(numbers_by_name(self._machine.variables, numbers)))
+        return holds_with(self._machine, numbers_by_name(self, self._machine.variables, numbers))
 
     def __and__(self, other):
         if not isinstance(other, Test):

@@ -4,33 +4,53 @@ from bitcounts.checks import check_within
 from bitcounts.conditions import Test
 from bitcounts.errors import NotATest
 from bitcounts.formulas import Formula
-from bitcounts.measures import held_rule, length_measure, measured, ones_measure, raised_rule
+from bitcounts.measures import bulky_measure, held_rule
+from bitcounts.measuring import measured_numbers
+from bitcounts.mixed_rules import measured_system, word_rule
+from bitcounts.mixtures import is_bulky, mixture_lag, simplest
+from bitcounts.piles import pile_of_integer, pile_of_rule, pile_of_system
+from bitcounts.walks import spelt
 from bitcounts.words import checked_word
 
 GREATEST_BASE = 4
+MOST_STATES = 300
+
+
+def measured(kind, checked):
+    """The formula of what is measured of the word."""
+    mixture = simplest(checked._mixture, kind)
+    if not mixture.parts:
+        return Formula(pile_of_integer(measured_numbers(kind, [mixture.constant])[0]))
+    if is_bulky(mixture):
+        return Formula(pile_of_rule(bulky_measure(kind, word_rule(mixture), mixture_lag(mixture)), None))
+    spelling = spelt(mixture, MOST_STATES)
+    if spelling.steps is None:
+        rule = bulky_measure(kind, word_rule(mixture), mixture_lag(mixture))
+        return Formula(pile_of_rule(rule, (kind, mixture)))
+    return Formula(pile_of_system(measured_system(kind, spelling), spelling.letters, (kind, mixture)))
 
 
 def ones(u):
     """The number of ones among the binary digits of u, if u is less than 0 of -u."""
-    checked = checked_word(u)
-    return Formula(measured(ones_measure(), checked._rule, checked._lag, 0))
+    return measured("ones", checked_word(u))
 
 
 def length(u):
     """How many binary digits u has, if it is less than 0 -u; 0 for 0."""
-    checked = checked_word(u)
-    return Formula(measured(length_measure(), checked._rule, checked._lag, 0))
+    return measured("length", checked_word(u))
 
 
 def raised(base, u):
     """The integer to the power ones(u); 0 to the power 0 is 1."""
     check_within(base, -GREATEST_BASE, GREATEST_BASE)
     checked = checked_word(u)
-    return Formula(raised_rule(base, checked._rule, checked._lag))
+    if base == 1:
+        return Formula(pile_of_integer(1))
+    return measured(base if base else "zero", checked)
 
 
 def one_if(t):
     """The formula that is 1 where the test holds, 0 elsewhere."""
     if not isinstance(t, Test):
         raise NotATest(t)
-    return Formula(held_rule(t._machine))
+    return Formula(pile_of_rule(held_rule(t._machine), ("held", t._machine)))

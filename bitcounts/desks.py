@@ -62,7 +62,7 @@ def has_name(row, name):
 
 def check_claim(table, row, index):
     """Refused is raised if the claim with this index fails."""
-    pairs = least_failure([(factor, table[name]._rule) for factor, name in row])
+    pairs = least_failure([(factor, table[name]) for factor, name in row])
     if pairs is not None:
         raise Refused(index) from Parted(pairs)
 

@@ -40,10 +40,15 @@ def united(names, others):
 
 def own_rows(own, names):
     """For each digit row of these names the number of the row of the digits of its own names among them."""
-    # Not `names.index`: what operators run calls no method that is the name of an attribute of the package.
-    places = [place for name in own for place, other in enumerate(names) if other == name]
-    rows = [digit_row(index, len(names)) for index in range(1 << len(names))]
-    return [digit_index([row[place] for place in places]) for row in rows]
+    if own == names:
+        return list(range(1 << len(names)))
+    rows = [0]
+    for name in names:
+        if name in own:
+            rows = [2 * row + digit for row in rows for digit in (0, 1)]
+        else:
+            rows = [row for row in rows for _ in (0, 1)]
+    return rows
 
 
 def matters(sides, size, place):

@@ -1,74 +1,134 @@
 """Formulas: an integer for all values of at most three variables."""
 
-from bitcounts.checks import is_integer, numbers_by_name, numbers_by_pairs
-from bitcounts.rules import added, constant, multiplied, power, rule_equations, rule_value, same_rules, scaled
+from bitcounts.checks import check_within, is_integer, numbers_by_name, numbers_by_pairs
+from bitcounts.digit_rows import united
+from bitcounts.limits import NAMES, RANK
+from bitcounts.mixtures import is_spread
+from bitcounts.piles import (
+    MOST_TERMS, most_rank, pile_names, pile_of_integer, pile_of_rule, pile_rule, pile_value, piled,
+    scaled_pile,
+)
+from bitcounts.rules import HIGHEST_POWER, multiplied, rule_equations, same_rules
 
 
 def formula_operand(operand):
-    """The rule of a formula or an integer, None for other kinds: words know formulas, not the reverse."""
+    """The formula or the integer as a formula, None for other kinds: words know formulas, not the reverse."""
     if isinstance(operand, Formula):
-        return operand._rule
+        return operand
     if is_integer(operand):
-        return constant(operand)
+        return Formula(pile_of_integer(operand))
     return None
 
 
+def added(one, other, factor):
+    """The first formula and so many times the other one."""
+    pile, beside = one._pile, other._pile
+    if len(united_names(pile, beside)) > NAMES:
+        # Some names may have dropped out.
+        united(one.names, other.names)
+        pile, beside = pile_of_rule(one.rule, None), pile_of_rule(other.rule, None)
+    made = Formula(piled(pile, beside, factor))
+    if most_rank(made._pile) > RANK or len(made._pile.terms) > MOST_TERMS:
+        return Formula(pile_of_rule(made.rule, None))
+    return made
+
+
+def united_names(pile, other):
+    names = pile_names(pile)
+    return [*names, *[name for name in pile_names(other) if name not in names]]
+
+
+def is_integer_pile(pile):
+    return not pile.terms and not pile.mixture.parts
+
+
+def times(one, other):
+    """The product of two formulas."""
+    if is_integer_pile(other._pile):
+        return Formula(scaled_pile(one._pile, other._pile.mixture.constant))
+    if is_integer_pile(one._pile):
+        return Formula(scaled_pile(other._pile, one._pile.mixture.constant))
+    return Formula(pile_of_rule(multiplied(one.rule, other.rule), None))
+
+
+def power_of(one, exponent):
+    """The product of so many of them, multiplied one by one."""
+    check_within(exponent, 0, HIGHEST_POWER)
+    if exponent == 0:
+        return Formula(pile_of_integer(1))
+    result = one
+    for _ in range(exponent - 1):
+        result = times(result, one)
+    return result
+
+
 class Formula:
-    def __init__(self, rule):
-        self._rule = rule
+    """A formula is kept as a pile; its least rule is worked out when it is asked for."""
+
+    def __init__(self, pile):
+        self._pile = pile
+        self._formula_rule = None
+
+    @property
+    def rule(self):
+        if self._formula_rule is None:
+            self._formula_rule = pile_rule(self._pile)
+        return self._formula_rule
 
     @property
     def names(self):
-        return self._rule.variables
+        if not self._pile.terms and is_spread(self._pile.mixture):
+            return pile_names(self._pile)
+        return self.rule.variables
 
     @property
     def rank(self):
-        return len(self._rule.parts)
+        return len(self.rule.parts)
 
     @property
     def basis(self):
-        return self._rule.parts
+        return self.rule.parts
 
     @property
     def equations(self):
-        return rule_equations(self._rule)
+        return rule_equations(self.rule)
 
     @property
     def firsts(self):
-        return self._rule.starts
+        return self.rule.starts
 
     def at(self, pairs):
-        return rule_value(self._rule, numbers_by_pairs(self._rule.variables, pairs))
+        return pile_value(self._pile, numbers_by_pairs(self, pile_names(self._pile), pairs))
 
     def of(self, **numbers):
-        return rule_value(self._rule, numbers_by_name(self._rule.variables, numbers))
+        return pile_value(self._pile, numbers_by_name(self, pile_names(self._pile), numbers))
 
     def __add__(self, other):
-        rule = formula_operand(other)
-        if rule is None:
+        beside = formula_operand(other)
+        if beside is None:
             return NotImplemented
-        return Formula(added(self._rule, rule))
+        return added(self, beside, 1)
 
     def __radd__(self, other):
         return self + other
 
     def __neg__(self):
-        return Formula(scaled(self._rule, -1))
+        return Formula(scaled_pile(self._pile, -1))
 
     def __sub__(self, other):
-        rule = formula_operand(other)
-        if rule is None:
+        beside = formula_operand(other)
+        if beside is None:
             return NotImplemented
-        return Formula(added(self._rule, scaled(rule, -1)))
+        return added(self, beside, -1)
 
     def __rsub__(self, other):
         return -self + other
 
     def __mul__(self, other):
-        rule = formula_operand(other)
-        if rule is None:
+        beside = formula_operand(other)
+        if beside is None:
             return NotImplemented
-        return Formula(multiplied(self._rule, rule))
+        return times(self, beside)
 
     def __rmul__(self, other):
         return self * other
@@ -76,15 +136,15 @@ class Formula:
     def __pow__(self, other):
         if not is_integer(other):
             return NotImplemented
-        return Formula(power(self._rule, other))
+        return power_of(self, other)
 
     def __eq__(self, other):
         if not isinstance(other, Formula):
             return NotImplemented
-        return same_rules(self._rule, other._rule)
+        return same_rules(self.rule, other.rule)
 
     def __bool__(self):
-        return bool(self._rule.parts)
+        return bool(self.rule.parts)
 
     def __repr__(self):
-        return f"Formula({len(self._rule.parts)})"
+        return f"Formula({len(self.rule.parts)})"

@@ -5,6 +5,8 @@ from bitcounts.errors import TooManyClasses
 from bitcounts.limits import CLASSES
 
 GREATEST_PAIRS = 4096
+# Whether the second one holds, or the first one does not, by both.
+ONLY_IF = ((True, True), (False, True))
 
 
 class Machine:
@@ -26,6 +28,11 @@ def everywhere():
     return Machine((), ((0,),), (True,))
 
 
+def never():
+    """The machine of the test that holds nowhere."""
+    return Machine((), ((0,),), (False,))
+
+
 def leading(ways, bound):
     """How many of the first states are followed only by states below the bound."""
     for at in range(len(ways)):
@@ -35,12 +42,58 @@ def leading(ways, bound):
 
 
 def numbered(rows):
-    """Numbers from 0 on for rows, the same for equal ones."""
-    numbers = {}
-    for row in rows:
-        if row not in numbers:
-            numbers[row] = len(numbers)
+    """Numbers for rows, the same for equal ones, and how many there are."""
+    numbers = {row: at for at, row in enumerate(rows)}
     return [numbers[row] for row in rows], len(numbers)
+
+
+def leading_in(ways):
+    """The states that no circle leads to, each ahead of those that follow it, and all others."""
+    sources = [0 for _ in ways]
+    for way in ways:
+        for follower in way:
+            sources[follower] = sources[follower] + 1
+    free = [at for at, many in enumerate(sources) if many == 0]
+    at = 0
+    while at < len(free):
+        for follower in ways[free[at]]:
+            sources[follower] = sources[follower] - 1
+            if sources[follower] == 0:
+                free.append(follower)
+        at += 1
+    return free, [at for at, many in enumerate(sources) if many > 0]
+
+
+def grouped_circles(ways, marks, states):
+    """For each state the number of its class, right for these states, which only such states follow."""
+    groups = [int(mark) for mark in marks]
+    own = [ways[state] for state in states]
+    many = 0
+    while states:
+        rows = [tuple([groups[follower] for follower in way]) for way in own]
+        numbers = {row: at for at, row in enumerate(rows)}
+        for state, row in zip(states, rows):
+            groups[state] = numbers[row]
+        if len(numbers) == many or len(numbers) == len(states):
+            break
+        many = len(numbers)
+        if many > CLASSES:
+            raise TooManyClasses()
+    return groups
+
+
+def grouped_whole(ways, marks):
+    """For each state the number of its class; TooManyClasses is raised if there are more than 256."""
+    free, others = leading_in(ways)
+    groups = list(grouped_circles(ways, marks, others))
+    rows = {tuple([groups[follower] for follower in ways[state]]): groups[state] for state in others}
+    for state in free[::-1]:
+        row = tuple([groups[follower] for follower in ways[state]])
+        rows[row] = rows.get(row, len(ways) + state)
+        groups[state] = rows[row]
+    if len(rows) > CLASSES:
+        raise TooManyClasses()
+    return groups
 
 
 def grouped(ways, marks):
@@ -49,18 +102,14 @@ def grouped(ways, marks):
     The states are told apart by what comes of them, digit row by digit row, as far as the ways are known.
     TooManyClasses is raised as soon as there are more than 256 that are told apart.
     """
-    complete = len(ways) == len(marks)
+    if len(ways) == len(marks):
+        return grouped_whole(ways, marks)
     groups = [int(mark) for mark in marks]
-    many = 0
     while groups:
-        known = len(ways) if complete else leading(ways, len(groups))
-        rows = [tuple([groups[follower] for follower in row]) for row in ways[:known]]
-        before = many
-        groups, many = numbered(rows)
+        known = leading(ways, len(groups))
+        groups, many = numbered([tuple([groups[follower] for follower in way]) for way in ways[:known]])
         if many > CLASSES:
             raise TooManyClasses()
-        if complete and many == before:
-            return groups
     return None
 
 
@@ -70,11 +119,18 @@ def without_idle(names, ways, marks):
     places = places_that_matter(columns)
     kept = rows_of_places(len(names), places)
     used = tuple([names[place] for place in places])
+    if len(places) == len(names):
+        return Machine(names, tuple([tuple(row) for row in ways]), tuple(marks))
     return Machine(used, tuple([tuple([row[index] for index in kept]) for row in ways]), tuple(marks))
 
 
 def least_machine(names, ways, marks, groups):
-    """The least machine of the test that is the state 0, by the numbers of the states' classes."""
+    """The least machine of the test that is the state 0, by the numbers of the states' classes.
+
+    If no class comes twice, the states are numbered as they come already.
+    """
+    if len({group: True for group in groups}) == len(groups):
+        return without_idle(names, ways, marks)
     found = [0]
     places = {groups[0]: 0}
     links = []
@@ -89,35 +145,87 @@ def least_machine(names, ways, marks, groups):
     return without_idle(names, links, [marks[at] for at in found])
 
 
-def paired(machine, other, names, most):
-    """The pairs of states, one of each machine, that come of the first ones, and those that follow them.
+def settled_ways(ways, marks, table, rows, factor, code):
+    """For each state those that follow, times the factor, by these digit rows; or the code of what is settled.
 
-    TooManyClasses is raised if there are more than `most`.
+    That is settled where a state holds or does not hold wherever it comes up, if the table's row for it says the same
+    whether the other machine's state holds or not.
+    """
+    told = [factor * state for state in range(len(ways))]
+    for state, (way, mark) in enumerate(zip(ways, marks)):
+        if table and table[int(mark)][0] == table[int(mark)][1] and all([follower == state for follower in way]):
+            told[state] = code
+    return [[told[way[index]] for index in rows] for way in ways], told[0]
+
+
+def pairs_of(machine, other, names, table):
+    """The codes of the pairs of states that come of the first ones, and the codes of those that follow them.
+
+    The code of a pair is that of the second state and the first one times how many there are of the second. The code
+    of all pairs that are settled is the product of both numbers. If there is no table, none are settled, and
+    TooManyClasses is raised if there are more than 4096 pairs.
     """
     own, beside = own_rows(machine.variables, names), own_rows(other.variables, names)
-    found = [(0, 0)]
-    places = {(0, 0): 0}
-    links = []
-    while len(links) < len(found):
-        state, against = found[len(links)]
-        row = []
-        for index, index_beside in zip(own, beside):
-            follower = machine.ways[state][index], other.ways[against][index_beside]
-            if follower not in places:
-                places[follower] = len(found)
+    size = len(other.marks)
+    many = size * len(machine.marks)
+    swapped = tuple(zip(table[0], table[1])) if table else None
+    first, start = settled_ways(machine.ways, machine.marks, table, own, size, many)
+    second, start_beside = settled_ways(other.ways, other.marks, swapped, beside, 1, many)
+    found = [start + start_beside if start + start_beside < many else many]
+    seen = {found[0]: True}
+    rows = []
+    while len(rows) < len(found):
+        code = found[len(rows)]
+        if code == many:
+            rows.append([many for _ in own])
+            continue
+        row = [way + ahead if way + ahead < many else many
+               for way, ahead in zip(first[code // size], second[code % size])]
+        rows.append(row)
+        for follower in row:
+            if follower not in seen:
+                seen[follower] = True
                 found.append(follower)
-            row.append(places[follower])
-        if len(found) > most:
+        if not table and len(found) > GREATEST_PAIRS:
             raise TooManyClasses()
-        links.append(row)
-    return found, links
+    return found, rows
+
+
+def paired(machine, other, names):
+    """The pairs of states, one of each machine, that come of the first ones, and those that follow them."""
+    size = len(other.marks)
+    codes, rows = pairs_of(machine, other, names, None)
+    return [(code // size, code % size) for code in codes], linked(codes, rows)
+
+
+def linked(codes, rows):
+    """The rows with the places of the codes in their stead."""
+    places = {code: place for place, code in enumerate(codes)}
+    return [[places[code] for code in row] for row in rows]
+
+
+def joined_marks(machine, other, codes, table):
+    """Whether both joined hold at the pairs with these codes."""
+    size = len(other.marks)
+    many = size * len(machine.marks)
+    settled = any([row[0] and row[1] for row in table])
+    return [settled if code == many else
+            table[int(machine.marks[code // size])][int(other.marks[code % size])] for code in codes]
 
 
 def joined(machine, other, table):
     """The machine that holds where the table says so, by whether the one and whether the other one holds."""
     names = united(machine.variables, other.variables)
-    found, ways = paired(machine, other, names, GREATEST_PAIRS)
-    marks = [table[int(machine.marks[state])][int(other.marks[against])] for state, against in found]
+    if len(machine.marks) * len(other.marks) > GREATEST_PAIRS:
+        # All pairs are to be counted, also those that are settled.
+        _ = pairs_of(machine, other, names, None)
+    codes, rows = pairs_of(machine, other, names, table)
+    marks = joined_marks(machine, other, codes, table)
+    if not any(marks):
+        return never()
+    if all(marks):
+        return everywhere()
+    ways = linked(codes, rows)
     return least_machine(names, ways, marks, grouped(ways, marks))
 
 
@@ -128,8 +236,8 @@ def opposite(machine):
 def is_within(machine, other):
     """Whether the other one holds wherever the first one does."""
     names = united(machine.variables, other.variables)
-    found, _ = paired(machine, other, names, CLASSES * CLASSES)
-    return all([other.marks[against] or not machine.marks[state] for state, against in found])
+    codes, _ = pairs_of(machine, other, names, ONLY_IF)
+    return all(joined_marks(machine, other, codes, ONLY_IF))
 
 
 def same_machines(machine, other):

@@ -1,7 +1,6 @@
 """The least rules of what is counted: ones and lengths of words, powers by their ones, and where tests hold."""
 
 from bitcounts.glances import FEW, look_at_rank
-from bitcounts.limits import RANK
 from bitcounts.readings import lines_of_zero
 from bitcounts.rows import applied, moved, row_behind
 from bitcounts.rules import constant, minimal_rule, told_first
@@ -79,17 +78,19 @@ def measured(measure, rule, lag, beside):
     told = ((0, 1),), 1
     for place in range(spelling.known):
         told = row_behind(told, measure.sides[spelling.low >> place & 1])
-    return minimal_rule(rule.variables, sides, starts, told, len(starts))
+    return minimal_rule(rule.variables, sides, starts, told)
 
 
-def raised_rule(base, rule, lag):
-    """The least rule of the base to the power of the ones of the word."""
-    if base == 1:
-        return constant(1)
-    if base == 0:
+def bulky_measure(kind, rule, lag):
+    """The least rule of what is measured of the word with this least rule and lag, by the kinds of `measuring`."""
+    if kind == "ones":
+        return measured(ones_measure(), rule, lag, 0)
+    if kind == "length":
+        return measured(length_measure(), rule, lag, 0)
+    if kind == "zero":
         sides, starts = lines_of_zero(rule, lag)
-        return minimal_rule(rule.variables, sides, starts, told_first(starts), RANK)
-    return measured(power_measure(base), rule, lag, base)
+        return minimal_rule(rule.variables, sides, starts, told_first(starts))
+    return measured(power_measure(kind), rule, lag, kind)
 
 
 def held_rule(machine):
@@ -99,4 +100,4 @@ def held_rule(machine):
         sides.append([(((row[index], 1),), 1) for row in machine.ways])
     starts = [int(mark) for mark in machine.marks]
     # All lines are parts of the first one here, so the rank is the number of those that are no combinations.
-    return minimal_rule(machine.variables, sides, starts, told_first(starts), RANK)
+    return minimal_rule(machine.variables, sides, starts, told_first(starts))

@@ -2,9 +2,10 @@
 
 from bitcounts.digit_rows import digit_row, united
 from bitcounts.machines import GREATEST_PAIRS, Machine, least_numbers, paired
+from bitcounts.points import points_of, rows_between, tuples_of
 from bitcounts.rows import fractions
 from bitcounts.rules import rule_equations
-from bitcounts.ties import first_difference, lines_together, points_of, relation_rows
+from bitcounts.ties import least_difference, lines_together, relations_together
 
 
 def plain_lines(rule):
@@ -30,8 +31,12 @@ def behind(numbers, index):
     return tuple([2 * number + digit for number, digit in zip(numbers, digit_row(index, len(numbers)))])
 
 
-def span_rows(points, spans, last):
-    """For each point, for each digit row, the fractions of the points, or None from the last tuple on."""
+def span_of(lines, last):
+    """The span of the lines up to a tuple, or for all tuples if it is None."""
+    size = len(lines.letters)
+    found = points_of(lines.system, size)
+    spans = rows_between(found, size)
+    points = [numbers for numbers in tuples_of(found, size) if last is None or is_ahead(numbers, last)]
     rows = []
     for at, point in enumerate(points):
         row = []
@@ -39,39 +44,31 @@ def span_rows(points, spans, last):
             known = last is None or is_ahead(behind(point, index), last)
             row.append(fractions(span[at], len(points)) if known else None)
         rows.append(tuple(row))
-    return tuple(rows)
+    return tuple(points), tuple(rows)
 
 
-def span_up_to(found, spans, last):
-    """The span by what is found for lines, up to a tuple, or for all tuples if it is None."""
-    points = tuple([numbers for _, numbers, _ in found if last is None or is_ahead(numbers, last)])
-    return points, span_rows(points, spans, last)
-
-
-def rule_paper(rule, other):
-    """Whether both rules tell the same, with the least tuple at which they part."""
-    lines = lines_together([rule, other])
-    found, spans = points_of(lines)
-    least = first_difference(lines, found)
-    claim = plain_lines(rule), plain_lines(other)
-    if least is None:
-        return ("same", *claim), span_up_to(found, spans, None)
-    return ("parting", *claim, tuple(zip(lines.variables, least))), span_up_to(found, spans, least)
+def rule_paper(one, other):
+    """Whether both formulas are the same, with the least tuple at which they part."""
+    pairs = least_difference(one, other)
+    lines = lines_together([one.rule, other.rule])
+    claim = plain_lines(one.rule), plain_lines(other.rule)
+    if pairs is None:
+        return ("same", *claim), span_of(lines, None)
+    return ("parting", *claim, pairs), span_of(lines, tuple([number for _, number in pairs]))
 
 
 def relation_papers(rules):
     """That the formulas add up to 0 by each row of their relations."""
-    lines = lines_together(rules)
-    found, spans = points_of(lines)
+    rows = relations_together(rules)
     plain = tuple([plain_lines(rule) for rule in rules])
-    paper = span_up_to(found, spans, None)
-    return tuple([(("relation", plain, row), paper) for row in relation_rows(lines, found)])
+    paper = span_of(lines_together(rules), None) if rows else None
+    return tuple([(("relation", plain, row), paper) for row in rows])
 
 
 def states_paper(machine, other):
     """Whether the second machine holds wherever the first one does, with the least tuple at which it does not."""
     names = united(machine.variables, other.variables)
-    found, ways = paired(machine, other, names, GREATEST_PAIRS)
+    found, ways = paired(machine, other, names)
     claim = plain_states(machine), plain_states(other)
     marks = [machine.marks[state] and not other.marks[against] for state, against in found]
     least = least_numbers(Machine(names, ways, marks))

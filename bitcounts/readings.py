@@ -33,10 +33,6 @@ def below_zero():
     return Reading(((0, 0),), ((False, True),))
 
 
-def from_zero_on():
-    return Reading(((0, 0),), ((True, False),))
-
-
 def equal_to_zero():
     return Reading(((0, 1), ()), ((True, False), (False, False)))
 

@@ -1,7 +1,7 @@
 """Where formulas part, which of their multiples add up to 0, and the new tuples for them."""
 
 from bitcounts.errors import InvalidValues
-from bitcounts.ties import least_difference, lines_together, new_points, relation_rows
+from bitcounts.ties import least_difference, relations_together, tuples_together
 from bitcounts.words import formula
 
 MOST_FORMULAS = 6
@@ -12,22 +12,20 @@ def checked_rules(formulas):
     if not 1 <= len(formulas) <= MOST_FORMULAS:
         raise InvalidValues(None)
     checked = [formula(value) for value in formulas]
-    return [one._rule for one in checked]
+    return [one.rule for one in checked]
 
 
 def parting(f, g):
     """The least tuple at which they differ, as pairs for the names of both; None if they are the same."""
     one, other = formula(f), formula(g)
-    return least_difference(one._rule, other._rule)
+    return least_difference(one, other)
 
 
 def relations(*formulas):
     """For each formula that is a combination of those before it, the integers by which they add up to 0."""
-    lines = lines_together(checked_rules(formulas))
-    return relation_rows(lines, new_points(lines))
+    return relations_together(checked_rules(formulas))
 
 
 def new_tuples(*formulas):
     """The new tuples for these formulas, in their order."""
-    lines = lines_together(checked_rules(formulas))
-    return tuple([numbers for _, numbers, _ in new_points(lines)])
+    return tuples_together(checked_rules(formulas))

@@ -1,16 +1,12 @@
 """Least rules of formulas, and how they are worked out for sums and products."""
 
-from bitcounts.checks import check_within
-from bitcounts.closures import closure, first_place, reduced
-from bitcounts.digit_rows import digit_indexes, own_rows, places_that_matter, rows_of_places, united
+from bitcounts.digit_rows import digit_indexes, own_rows, united
 from bitcounts.errors import TooMany
-from bitcounts.limits import RANK, TOGETHER
-from bitcounts.rows import applied, combined, crossed, fractions, moved, row_behind
+from bitcounts.limits import TOGETHER
+from bitcounts.rows import applied, fractions, moved
+from bitcounts.solving import Columns, System, all_columns, least_lines
 
 HIGHEST_POWER = 3
-# How many tuples are found before the rank is looked at, and how many times more before it is looked at again.
-SOME_POINTS = 40
-MORE_POINTS = 3
 
 
 class Rule:
@@ -39,17 +35,6 @@ def variable(name):
     even = (((0, 2),), 1), (((0, 2), (1, 1)), 1)
     odd = (((1, 1),), 1), (((0, -2), (1, 3)), 1)
     return Rule((name,), ((0, (0,)), (1, (1,))), (even, odd), (0, 1))
-
-
-def halved(name, times):
-    """The least rule of a variable without so many of its lowest digits."""
-    # The lines are the variable without so many digits, one fewer and so on, the variable itself, and 1.
-    fewer = [(((place + 1, 1),), 1) for place in range(times)]
-    one = ((times + 1, 1),), 1
-    even = (*fewer, (((times, 2),), 1), one)
-    odd = (*fewer, (((times, 2), (times + 1, 1)), 1), one)
-    starts = (*[0 for _ in range(times)], 0, 1)
-    return minimal_rule((name,), (even, odd), starts, told_first(starts), len(starts))
 
 
 def is_variable(rule):
@@ -81,69 +66,19 @@ def widened(rule, names):
     return [rule.sides[index] for index in own_rows(rule.variables, names)]
 
 
-def without_idle(names, parts, sides, starts):
-    """The least rule without the names on which nothing hangs; the parts have 0 there."""
-    places = places_that_matter(sides)
-    kept = rows_of_places(len(names), places)
-    labels = [(level, tuple([label[place] for place in places])) for level, label in parts]
-    used = tuple([names[place] for place in places])
-    return Rule(used, tuple(labels), tuple([sides[index] for index in kept]), starts)
-
-
-def look_at_parts(told, sides, points):
-    """TooMany is raised if more than 16 parts are no combinations of those before them at these points.
-
-    Parts are told by rows, and no part is looked at that comes of one that is a combination of others.
-    """
-    waiting = [told]
-    echelon = []
-    at = 0
-    while at < len(waiting):
-        row = waiting[at]
-        at += 1
-        rest = reduced([sum([top * point[2][place] for place, top in row[0]]) for point in points], echelon)
-        place = first_place(rest, len(points))
-        if place is not None:
-            echelon.append((place, rest))
-            waiting.extend([row_behind(row, side) for side in sides])
-        if len(echelon) > RANK:
-            raise TooMany()
-
-
-def points_and_spans(sides, starts, told, most):
-    """The tuples at which the lines tell all of their values, as `closure` returns them.
-
-    TooMany is raised if there are more than `most`, or if it is seen that the rank of what is told is greater
-    than 16: where there are very many lines, it is looked at before all tuples are found.
-    """
-    tried = SOME_POINTS
-    while tried < most:
-        points, spans = closure(sides, starts, True, tried)
-        if spans is not None:
-            return points, spans
-        look_at_parts(told, sides, points)
-        tried = MORE_POINTS * tried
-    points, spans = closure(sides, starts, True, most)
-    if spans is None:
-        raise TooMany()
-    return points, spans
-
-
-def minimal_rule(names, sides, starts, told, most):
+def minimal_rule(names, sides, starts, told):
     """The least rule of the sum of lines by the row `told`.
 
     The lines have integers as values, `starts` at 0, and those at 2 * x + e are made of those at x by the
-    side of e. First come the tuples at which the lines tell all of their values, then the parts by their
-    values at these. TooMany is raised if the rank is greater than 16, or if there are more than `most` lines
-    that are no combinations of others.
+    side of e. TooMany is raised if the rank is greater than 16.
     """
-    points, spans = points_and_spans(sides, starts, told, most)
-    found, links = closure(spans, [combined(told, point[2]) for point in points], False, RANK)
-    if links is None:
-        raise TooMany()
-    parts = [(level, label) for level, label, _ in found]
-    # The first of the points is the tuple of zeros, unless all lines are 0 everywhere.
-    return without_idle(names, parts, links, tuple([line[2][0] for line in found]))
+    return solved_rule(System("rows", list(starts), sides, told, None), None, names)
+
+
+def solved_rule(system, known, names):
+    """The least rule that the system tells, by its columns if they are known."""
+    used, labels, sides, starts = least_lines(system, known, names)
+    return Rule(used, labels, sides, starts)
 
 
 def told_first(starts):
@@ -171,7 +106,25 @@ def side_by_side(rule, other):
 def added(rule, other):
     """The least rule of the sum."""
     names, sides, starts = side_by_side(rule, other)
-    return minimal_rule(names, sides, starts, told_both(rule, other, 1), len(starts))
+    return minimal_rule(names, sides, starts, told_both(rule, other, 1))
+
+
+def all_added(summands):
+    """The least rule of the sum of multiples, pairs of factor and rule."""
+    names = ()
+    for _, rule in summands:
+        names = united(names, rule.variables)
+    sides = [[] for _ in range(1 << len(names))]
+    told = []
+    size = 0
+    for factor, rule in summands:
+        for index, side in enumerate(widened(rule, names)):
+            sides[index] = [*sides[index], *[moved(row, size) for row in side]]
+        if rule.starts:
+            told.append((size, factor))
+        size = size + len(rule.starts)
+    starts = [start for _, rule in summands for start in rule.starts]
+    return minimal_rule(names, sides, starts, (tuple(told), 1))
 
 
 def scaled(rule, factor):
@@ -182,25 +135,22 @@ def scaled(rule, factor):
     return Rule(rule.variables, rule.parts, rule.sides, tuple(starts))
 
 
+def rows_system(rule):
+    return System("rows", list(rule.starts), rule.sides, told_first(rule.starts), None)
+
+
 def multiplied(rule, other):
     """The least rule of the product."""
     names = united(rule.variables, other.variables)
-    size = len(other.starts)
-    if len(rule.starts) * size > TOGETHER:
+    if len(rule.starts) * len(other.starts) > TOGETHER:
         raise TooMany()
-    sides = []
-    for side, beside in zip(widened(rule, names), widened(other, names)):
-        sides.append(tuple([crossed(row, against, size) for row in side for against in beside]))
-    starts = [start * beside for start in rule.starts for beside in other.starts]
-    return minimal_rule(names, sides, tuple(starts), told_first(starts), len(starts))
-
-
-def power(rule, exponent):
-    """The least rule of the product of so many of them, multiplied one by one."""
-    check_within(exponent, 0, HIGHEST_POWER)
-    if exponent == 0:
-        return constant(1)
-    result = rule
-    for _ in range(exponent - 1):
-        result = multiplied(result, rule)
-    return result
+    if not rule.variables:
+        return scaled(other, rule.starts[0] if rule.starts else 0)
+    if not other.variables:
+        return scaled(rule, other.starts[0] if other.starts else 0)
+    moves = list(zip(widened(rule, names), widened(other, names)))
+    part = told_first(rule.starts), told_first(other.starts)
+    if len(names) < len(rule.variables) + len(other.variables):
+        return solved_rule(System("product", (rule.starts, other.starts), moves, part, None), None, names)
+    columns = all_columns(rows_system(rule)), all_columns(rows_system(other))
+    return solved_rule(System("grid", None, moves, part, None), Columns(columns, None, []), names)

@@ -38,4 +38,4 @@ def summed(rule, name):
         sides.append(tuple([row_sum(row, beside) for row, beside in zip(rule.sides[even], rule.sides[odd])]))
     starts = settled(sides[0], rule.starts)
     names = tuple([other for other in rule.variables if other != name])
-    return minimal_rule(names, sides, starts, told_first(starts), len(starts))
+    return minimal_rule(names, sides, starts, told_first(starts))

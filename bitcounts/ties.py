@@ -1,23 +1,28 @@
-"""What ties the rules of several formulas together: the tuples that are new for them, and the sums that are 0."""
+"""What ties several formulas together: the tuples that are new for them, and the sums that are 0."""
 
-from bitcounts.closures import closure, first_place, reduced
+from bitcounts.closures import first_place, reduced
 from bitcounts.digit_rows import united
 from bitcounts.errors import TooMany
 from bitcounts.limits import TOGETHER
+from bitcounts.piles import pile_names, pile_of_integer, pile_value, piled
+from bitcounts.points import points_of, tuples_of
 from bitcounts.rows import moved, shortest
 from bitcounts.rules import same_rules, widened
+from bitcounts.solving import System, all_columns
+
+# How many binary digits the numbers have that are tried one by one, for so many names.
+TRIED = (0, 2, 2, 1)
 
 
 class Lines:
-    """The lines of several rules, one rule behind the other, as functions of the names of all.
+    """The lines of several rules, each rule once, as functions of the names of all.
 
-    `heads` has for each rule the place of its first line, None for a rule without lines.
+    `heads` has for each of the rules the place of its first line, None for a rule without lines.
     """
 
-    def __init__(self, names, sides, starts, heads):
-        self.variables = names
-        self.sides = sides
-        self.starts = starts
+    def __init__(self, names, system, heads):
+        self.letters = names
+        self.system = system
         self.heads = heads
 
 
@@ -31,28 +36,33 @@ def names_together(rules):
     return names
 
 
+def place_of(rule, rules):
+    """The place of the first of these rules that is the same, their number if there is none."""
+    for place, other in enumerate(rules):
+        if same_rules(rule, other):
+            return place
+    return len(rules)
+
+
 def lines_together(rules):
     """The lines of all."""
     names = names_together(rules)
-    starts = [start for rule in rules for start in rule.starts]
-    sides = [[] for _ in range(1 << len(names))]
+    once = []
+    ends = []
     heads = []
-    at = 0
+    sides = [[] for _ in range(1 << len(names))]
+    size = 0
     for rule in rules:
-        heads.append(at if rule.starts else None)
-        for index, side in enumerate(widened(rule, names)):
-            sides[index] = [*sides[index], *[moved(row, at) for row in side]]
-        at = at + len(rule.starts)
-    return Lines(names, sides, starts, heads)
-
-
-def points_of(lines):
-    """The new tuples for the lines, each as (places, tuple, values of the lines), and their rows."""
-    return closure(lines.sides, lines.starts, True, len(lines.starts))
-
-
-def new_points(lines):
-    return points_of(lines)[0]
+        place = place_of(rule, once)
+        if place == len(once):
+            once.append(rule)
+            ends.append(size)
+            for index, side in enumerate(widened(rule, names)):
+                sides[index] = [*sides[index], *[moved(row, size) for row in side]]
+            size = size + len(rule.starts)
+        heads.append(ends[place] if rule.starts else None)
+    starts = [start for rule in once for start in rule.starts]
+    return Lines(names, System("rows", starts, sides, None, None), heads)
 
 
 def head_values(lines, values):
@@ -60,37 +70,82 @@ def head_values(lines, values):
     return [0 if head is None else values[head] for head in lines.heads]
 
 
-def first_difference(lines, found):
-    """The first of the points found for the lines of two formulas at which they differ, None if they are the same."""
-    for _, numbers, values in found:
-        own, beside = head_values(lines, values)
-        if own != beside:
+def small_tuples(size):
+    """The least tuples, in their order."""
+    found = [tuple([0 for _ in range(size)])]
+    for places in range(1, TRIED[size] + 1):
+        mask = (1 << places) - 1
+        for code in range(1 << (places * size)):
+            numbers = tuple([code >> (places * (size - 1 - at)) & mask for at in range(size)])
+            if any([number >> (places - 1) for number in numbers]):
+                found.append(numbers)
+    return found
+
+
+def least_small(pile, names):
+    """The first of the least tuples of these names at which the pile is not 0, None if it is 0 at all of them."""
+    for numbers in small_tuples(len(names)):
+        table = {name: 0 for name in pile_names(pile)}
+        if pile_value(pile, {**table, **{name: number for name, number in zip(names, numbers)}}) != 0:
             return numbers
     return None
 
 
-def least_difference(rule, other):
-    """The least tuple at which both differ, as pairs for the names of both; None if they are the same."""
-    lines = lines_together([rule, other])
-    numbers = first_difference(lines, new_points(lines))
-    return None if numbers is None else tuple(zip(lines.variables, numbers))
+def first_failure(lines, factors):
+    """The least tuple at which the multiples of the formulas do not add up to 0, None if they always do."""
+    size = len(lines.letters)
+    points = points_of(lines.system, size)
+    for numbers, values in zip(tuples_of(points, size), points.vectors):
+        if sum([factor * head for factor, head in zip(factors, head_values(lines, values))]) != 0:
+            return numbers
+    return None
 
 
-def relation_rows(lines, found):
-    """The rows by which the formulas add up to 0, one for each that is a combination of those before it.
+def least_difference(one, other):
+    """The least tuple at which both formulas differ, as pairs for the names of both; None if they are the same."""
+    names = united(one.names, other.names)
+    numbers = least_small(piled(one._pile, other._pile, -1), names)
+    if numbers is None and not same_rules(one.rule, other.rule):
+        numbers = first_failure(lines_together([one.rule, other.rule]), (1, -1))
+    return None if numbers is None else tuple(zip(names, numbers))
 
-    They are told by the points that are found for the lines.
+
+def least_failure(summands):
+    """The least tuple at which the multiples, pairs of factor and formula, do not add up to 0; None if they always do.
+
+    It is told as pairs for the names of all.
     """
-    points = [head_values(lines, values) for _, _, values in found]
-    width, many = len(points), len(lines.heads)
+    names = names_together([one.rule for _, one in summands])
+    pile = pile_of_integer(0)
+    for factor, one in summands:
+        pile = piled(pile, one._pile, factor)
+    numbers = least_small(pile, names)
+    if numbers is None and (pile.terms or pile.mixture.parts):
+        lines = lines_together([one.rule for _, one in summands])
+        numbers = first_failure(lines, [factor for factor, _ in summands])
+    return None if numbers is None else tuple(zip(names, numbers))
+
+
+def tuples_together(rules):
+    """The new tuples for the formulas, in their order."""
+    lines = lines_together(rules)
+    return tuple(tuples_of(points_of(lines.system, len(lines.letters)), len(lines.letters)))
+
+
+def relation_rows(heads):
+    """The rows by which formulas add up to 0, one for each that is a combination of those before it.
+
+    They are told by the values of the formulas at tuples at which their lines tell all of their values.
+    """
+    many = len(heads)
     echelon = []
     rows = []
-    for at in range(many):
+    for at, values in enumerate(heads):
         shares = [int(place == at) for place in range(many)]
-        rest = reduced([*[point[at] for point in points], *shares], echelon)
-        place = first_place(rest, width)
+        rest = reduced([*values, *shares], echelon)
+        place = first_place(rest, len(values))
         if place is None:
-            rows.append(upwards(shortest(rest[width:]), at))
+            rows.append(upwards(shortest(rest[len(values):]), at))
         else:
             echelon.append((place, rest))
     return tuple(rows)
@@ -101,39 +156,12 @@ def upwards(row, at):
     return tuple(row) if row[at] > 0 else tuple([-number for number in row])
 
 
-def place_of(rule, rules):
-    """The place of the first of these rules that is the same, their number if there is none."""
-    for place, other in enumerate(rules):
-        if same_rules(rule, other):
-            return place
-    return len(rules)
+def values_of_heads(lines, columns):
+    """For each formula its values at the tuples of the columns."""
+    return [[0 if head is None else column[head] for column in columns] for head in lines.heads]
 
 
-def without_repeats(summands):
-    """The pairs of factor and rule, each rule once, without those that come to nothing."""
-    rules = []
-    factors = []
-    for factor, rule in summands:
-        place = place_of(rule, rules)
-        if place == len(rules):
-            rules.append(rule)
-            factors.append(0)
-        factors[place] = factors[place] + factor
-    return [(factor, rule) for factor, rule in zip(factors, rules) if factor != 0]
-
-
-def least_failure(summands):
-    """The least tuple at which the multiples, pairs of factor and rule, do not add up to 0, None if they always do.
-
-    It is told as pairs for the names of all.
-    """
-    names = names_together([rule for _, rule in summands])
-    summands = without_repeats(summands)
-    lines = lines_together([rule for _, rule in summands])
-    for _, numbers, values in new_points(lines):
-        heads = head_values(lines, values)
-        if sum([factor * head for (factor, _), head in zip(summands, heads)]) != 0:
-            table = {name: number for name, number in zip(lines.variables, numbers)}
-            # At a name on which no sum hangs the least number is 0.
-            return tuple([(name, table.get(name, 0)) for name in names])
-    return None
+def relations_together(rules):
+    """The rows by which the formulas add up to 0."""
+    lines = lines_together(rules)
+    return relation_rows(values_of_heads(lines, all_columns(lines.system)))

@@ -1,15 +1,26 @@
 """Words: what is made of variables and integers by the operators of integers."""
 
+from bitcounts.atoms import bulky_atom, halved_atom, variable_atom
 from bitcounts.blends import blended
 from bitcounts.checks import check_name, check_within, is_integer, numbers_by_name, numbers_by_pairs
 from bitcounts.conditions import Test
+from bitcounts.digit_rows import united
 from bitcounts.errors import NotAFormula, NotAVariable, NotAWord
-from bitcounts.formulas import Formula
-from bitcounts.readings import below_zero, equal_to_zero, from_zero_on, machine_of, with_rest
-from bitcounts.rules import (
-    added, constant, halved, is_variable, multiplied, power, rule_equations, rule_value, same_rules, scaled,
-    side_by_side, told_both, told_first, variable,
+from bitcounts.evaluations import mixture_value
+from bitcounts.formulas import Formula, times, power_of
+from bitcounts.limits import NAMES, RANK
+from bitcounts.machines import opposite
+from bitcounts.mixed_rules import word_rule
+from bitcounts.mixtures import (
+    Mixture, is_bulky, is_silent, is_spread, many_lines, mixed, mixture_lag, mixture_names, scaled_mixture, zeros_below,
 )
+from bitcounts.pairings import joined_mixtures
+from bitcounts.piles import Pile, pile_of_rule
+from bitcounts.readings import below_zero, equal_to_zero, machine_of, with_rest
+from bitcounts.rules import (
+    added, is_variable, rule_equations, same_rules, scaled, side_by_side, told_both, told_first,
+)
+from bitcounts.verdicts import compared, rest_machine
 
 GREATEST_WORD = 10 ** 6
 GREATEST_FACTOR = 16
@@ -24,68 +35,136 @@ def word_operand(operand):
         return operand
     if is_integer(operand):
         check_within(operand, -GREATEST_WORD, GREATEST_WORD)
-        return Word(constant(operand), 0)
+        return Word(Mixture(operand, ()))
     return None
+
+
+def bulky_word(rule, lag):
+    """A word that is kept by its least rule."""
+    return Word(Mixture(0, ((1, bulky_atom(rule, lag)),)))
+
+
+def within_rank(mixture):
+    """The word; TooMany is raised if its rank is greater than 16."""
+    made = Word(mixture)
+    if many_lines(mixture) > RANK:
+        _ = made.rule
+    return made
+
+
+def compacted(one, other):
+    """Both words; if they seem to have more than three names, they are told without those that have dropped out."""
+    names = mixture_names(one._mixture)
+    if len([*names, *[name for name in mixture_names(other._mixture) if name not in names]]) <= NAMES:
+        return one, other
+    united(one.names, other.names)
+    return bulky_word(one.rule, mixture_lag(one._mixture)), bulky_word(other.rule, mixture_lag(other._mixture))
 
 
 def joint_lag(one, other):
     """The lag of what is made of both digit by digit; integers have none of their own."""
-    if not other._rule.variables:
-        return one._lag
-    if not one._rule.variables or one._lag < other._lag:
-        return other._lag
-    return one._lag
+    if not other.names:
+        return mixture_lag(one._mixture)
+    if not one.names:
+        return mixture_lag(other._mixture)
+    return max([int(mixture_lag(one._mixture)), int(mixture_lag(other._mixture))])
 
 
-def zeros_below(factor):
-    """How many zeros the factor puts below the digits of a word."""
-    return (factor & -factor).bit_length() - 1 if factor else 0
+def sum_of(one, other, factor):
+    """The first word and so many times the other one."""
+    one, other = compacted(one, other)
+    if is_bulky(one._mixture) or is_bulky(other._mixture):
+        return bulky_word(added(one.rule, scaled(other.rule, factor)), joint_lag(one, other))
+    return within_rank(mixed(one._mixture, other._mixture, factor))
+
+
+def multiple_of(one, factor):
+    """The word times the factor."""
+    mixture = one._mixture
+    if is_bulky(mixture) and factor != 0:
+        return bulky_word(scaled(one.rule, factor), mixture_lag(mixture) - zeros_below(factor))
+    return Word(scaled_mixture(mixture, factor))
 
 
 def blend(sign, one, other):
     """The word `one & other`, or with `|` or `^` in the place of `&`."""
-    return Word(blended(sign, one._rule, one._lag, other._rule, other._lag), joint_lag(one, other))
+    one, other = compacted(one, other)
+    mixture = joined_mixtures(sign, one._mixture, other._mixture)
+    if mixture is not None:
+        return within_rank(mixture)
+    lag, lag_beside = mixture_lag(one._mixture), mixture_lag(other._mixture)
+    return bulky_word(blended(sign, one.rule, lag, other.rule, lag_beside), joint_lag(one, other))
 
 
-def difference_test(one, other, reading):
-    """The test that the reading holds for the difference."""
-    names, sides, starts = side_by_side(one._rule, other._rule)
-    told = told_both(one._rule, other._rule, -1)
-    return Test(machine_of(names, sides, starts, told, joint_lag(one, other), reading))
+def difference_machine(one, other, equal):
+    """The machine of the test that the difference is 0, or, if `equal` is not asked, less than 0."""
+    one, other = compacted(one, other)
+    if not is_bulky(one._mixture) and not is_bulky(other._mixture):
+        return compared(mixed(one._mixture, other._mixture, -1), equal)
+    names, sides, starts = side_by_side(one.rule, other.rule)
+    told = told_both(one.rule, other.rule, -1)
+    reading = equal_to_zero() if equal else below_zero()
+    return machine_of(names, sides, starts, told, joint_lag(one, other), reading)
+
+
+def is_below(one, other):
+    """The test that the first word is less."""
+    return Test(difference_machine(one, other, False))
+
+
+def is_not_below(one, other):
+    return Test(opposite(difference_machine(one, other, False)))
+
+
+def rest_test(one, modulus, rest):
+    """The test that the word leaves this rest."""
+    mixture = one._mixture
+    if not is_bulky(mixture) and not is_silent(mixture):
+        return Test(rest_machine(mixture, modulus, rest))
+    rule = one.rule
+    reading = with_rest(modulus, rest)
+    told = told_first(rule.starts)
+    return Test(machine_of(rule.variables, rule.sides, rule.starts, told, mixture_lag(mixture), reading))
 
 
 class Word:
-    """A word is kept by its least rule, and by its lag (see `spellings`), by which its digits are found."""
+    """A word is kept as a mixture; its least rule is worked out when it is asked for."""
 
-    def __init__(self, rule, lag):
-        self._rule = rule
-        self._lag = lag
+    def __init__(self, mixture):
+        self._mixture = mixture
+        self._word_rule = None
+
+    @property
+    def rule(self):
+        if self._word_rule is None:
+            self._word_rule = word_rule(self._mixture)
+        return self._word_rule
 
     @property
     def names(self):
-        return self._rule.variables
+        return mixture_names(self._mixture) if is_spread(self._mixture) else self.rule.variables
 
     @property
     def rank(self):
-        return len(self._rule.parts)
+        return len(self.rule.parts)
 
     @property
     def basis(self):
-        return self._rule.parts
+        return self.rule.parts
 
     @property
     def equations(self):
-        return rule_equations(self._rule)
+        return rule_equations(self.rule)
 
     @property
     def firsts(self):
-        return self._rule.starts
+        return self.rule.starts
 
     def at(self, pairs):
-        return rule_value(self._rule, numbers_by_pairs(self._rule.variables, pairs))
+        return mixture_value(self._mixture, numbers_by_pairs(self, mixture_names(self._mixture), pairs))
 
     def of(self, **numbers):
-        return rule_value(self._rule, numbers_by_name(self._rule.variables, numbers))
+        return mixture_value(self._mixture, numbers_by_name(self, mixture_names(self._mixture), numbers))
 
     def __add__(self, other):
         if isinstance(other, Formula):
@@ -93,13 +172,13 @@ class Word:
         beside = word_operand(other)
         if beside is None:
             return NotImplemented
-        return Word(added(self._rule, beside._rule), joint_lag(self, beside))
+        return sum_of(self, beside, 1)
 
     def __radd__(self, other):
         return self + other
 
     def __neg__(self):
-        return Word(scaled(self._rule, -1), self._lag)
+        return multiple_of(self, -1)
 
     def __sub__(self, other):
         if isinstance(other, Formula):
@@ -107,7 +186,7 @@ class Word:
         beside = word_operand(other)
         if beside is None:
             return NotImplemented
-        return Word(added(self._rule, scaled(beside._rule, -1)), joint_lag(self, beside))
+        return sum_of(self, beside, -1)
 
     def __rsub__(self, other):
         return -self + other
@@ -116,11 +195,11 @@ class Word:
         if isinstance(other, Formula):
             return formula(self) * other
         if isinstance(other, Word):
-            return Formula(multiplied(self._rule, other._rule))
+            return times(formula(self), formula(other))
         if not is_integer(other):
             return NotImplemented
         check_within(other, -GREATEST_FACTOR, GREATEST_FACTOR)
-        return Word(scaled(self._rule, other), self._lag - zeros_below(other))
+        return multiple_of(self, other)
 
     def __rmul__(self, other):
         return self * other
@@ -128,7 +207,7 @@ class Word:
     def __pow__(self, other):
         if not is_integer(other):
             return NotImplemented
-        return Formula(power(self._rule, other))
+        return power_of(formula(self), other)
 
     def __and__(self, other):
         beside = word_operand(other)
@@ -164,62 +243,63 @@ class Word:
         if not is_integer(other):
             return NotImplemented
         check_within(other, 0, GREATEST_SHIFT)
-        return Word(scaled(self._rule, 1 << other), self._lag - other)
+        return multiple_of(self, 1 << other)
 
     def __rshift__(self, other):
         if not is_integer(other):
             return NotImplemented
         check_within(other, 0, GREATEST_SHIFT_BACK)
-        if not is_variable(self._rule):
+        if not is_variable(self.rule):
             raise NotAVariable(self)
-        return Word(halved(self._rule.variables[0], other), other)
+        name = self.rule.variables[0]
+        return Word(Mixture(0, ((1, halved_atom(name, other) if other else variable_atom(name)),)))
 
     def __lt__(self, other):
         beside = word_operand(other)
         if beside is None:
             return NotImplemented
-        return difference_test(self, beside, below_zero())
+        return is_below(self, beside)
 
     def __le__(self, other):
         beside = word_operand(other)
         if beside is None:
             return NotImplemented
-        return difference_test(beside, self, from_zero_on())
+        return is_not_below(beside, self)
 
     def __gt__(self, other):
         beside = word_operand(other)
         if beside is None:
             return NotImplemented
-        return difference_test(beside, self, below_zero())
+        return is_below(beside, self)
 
     def __ge__(self, other):
         beside = word_operand(other)
         if beside is None:
             return NotImplemented
-        return difference_test(self, beside, from_zero_on())
+        return is_not_below(self, beside)
 
     def __eq__(self, other):
         if not isinstance(other, (Formula, Word)):
             return NotImplemented
-        return same_rules(self._rule, other._rule)
+        return same_rules(self.rule, other.rule)
 
     def __bool__(self):
-        return bool(self._rule.parts)
+        return bool(self.rule.parts)
 
     def __repr__(self):
-        return f"Word({len(self._rule.parts)})"
+        return f"Word({len(self.rule.parts)})"
 
 
 def var(name):
     """The variable of this name."""
     check_name(name)
-    return Word(variable(name), 0)
+    return Word(Mixture(0, ((1, variable_atom(name)),)))
 
 
 def word(c):
     """The integer as a word."""
     check_within(c, -GREATEST_WORD, GREATEST_WORD)
-    return Word(constant(c), 0)
+    return Word(Mixture(c, ()))
 
 
 def formula(f):
@@ -227,9 +307,9 @@ def formula(f):
     if isinstance(f, Formula):
         return f
     if isinstance(f, Word):
-        return Formula(f._rule)
+        return Formula(pile_of_rule(f.rule, None) if is_bulky(f._mixture) else Pile(f._mixture, ()))
     if is_integer(f):
-        return Formula(constant(f))
+        return Formula(Pile(Mixture(f, ()), ()))
     raise NotAFormula(f)
 
 
@@ -243,7 +323,8 @@ def checked_word(value):
 
 def same(u, v):
     """The test that both words have the same value."""
-    return difference_test(checked_word(u), checked_word(v), equal_to_zero())
+    one, other = checked_word(u), checked_word(v)
+    return Test(difference_machine(one, other, True))
 
 
 def rests(u, modulus, rest):
@@ -251,6 +332,4 @@ def rests(u, modulus, rest):
     checked = checked_word(u)
     check_within(modulus, 2, GREATEST_MODULUS)
     check_within(rest, 0, modulus - 1)
-    rule = checked._rule
-    reading = with_rest(modulus, rest)
-    return Test(machine_of(rule.variables, rule.sides, rule.starts, told_first(rule.starts), checked._lag, reading))
+    return rest_test(checked, modulus, rest)

@@ -9,7 +9,7 @@ M, N = var("m"), var("n")
 
 def points(made):
     """The labels at which a formula's basic parts tell all of their values."""
-    rule = made._rule
+    rule = made.rule
     found, _ = closure(widened(rule, rule.variables), rule.starts, True, len(rule.starts))
     return [(places, label) for places, label, _ in found]
 
@@ -24,7 +24,7 @@ class Points(unittest.TestCase):
         self.assertEqual(points(M + N * N), [(0, (0, 0)), (1, (0, 1)), (1, (1, 0)), (2, (0, 2))])
 
     def test_more_than_the_most(self):
-        rule = (M ** 3)._rule
+        rule = (M ** 3).rule
         found, spans = closure(rule.sides, rule.starts, True, 4)
         self.assertEqual((len(found), len(spans)), (4, 2))
         self.assertEqual(closure(rule.sides, rule.starts, True, 3), (found[:3], None))

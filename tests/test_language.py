@@ -14,7 +14,7 @@ BUILTINS = set("""len range enumerate zip min max sum abs sorted reversed int st
     NotImplemented property""".split())
 METHODS = set("""append clear copy count endswith extend find get index insert isalnum isalpha isdigit islower items
     join keys ljust lower lstrip partition pop remove replace reverse rfind rjust rpartition rsplit rstrip setdefault
-    split splitlines startswith strip update upper values zfill bit_length""".split())
+    split splitlines startswith strip update upper values zfill bit_length isascii""".split())
 SPECIAL = {f"__{name}__" for name in """init eq repr str len enter exit call iter lt le gt ge ne add sub mul floordiv
     mod pow and or xor lshift rshift radd rsub rmul rfloordiv rmod rand ror rxor rlshift rrshift neg pos invert abs bool
     contains getitem setitem""".split()}
@@ -22,6 +22,8 @@ BARRED_NODES = (ast.AsyncFunctionDef, ast.AsyncFor, ast.AsyncWith, ast.Await, as
                 ast.GeneratorExp, ast.Set, ast.SetComp, ast.AnnAssign, ast.Delete, ast.Lambda)
 BARRED_WORDS = set("""register mro elements open input law version_info with_traceback add_note type typing enum Enum
     Flag Generic Protocol ABC namedtuple NamedTuple eval exec compile globals locals vars id exit hash""".split())
+# What properties keep as they have worked it out, by the class that has the attribute.
+KEPT = {"_word_rule": "Word", "_formula_rule": "Formula", "_told": "Term"}
 CHANGING = {"append", "clear", "extend", "insert", "pop", "remove", "reverse", "setdefault", "update"}
 
 
@@ -53,6 +55,7 @@ def created(function):
         if isinstance(node, ast.Assign):
             # No `[0] * n`: beside classes with `__mul__` the sign does not make a new list plain.
             fresh = isinstance(node.value, (ast.List, ast.Dict, ast.ListComp, ast.DictComp))
+            fresh = fresh or ast.unparse(node.value).startswith(("list(", "dict("))
             for target in node.targets:
                 if isinstance(target, ast.Name):
                     (new if fresh else other).add(target.id)
@@ -207,6 +210,7 @@ class Statements(unittest.TestCase):
     def test_augmented_assignments(self):
         for name, node in nodes(ast.AugAssign):
             self.assertTrue(isinstance(node.op, ast.Add) and isinstance(node.value, ast.Constant), name)
+            self.assertIsInstance(node.target, ast.Name, name)
 
     def test_exponents_are_literals(self):
         for name, node in nodes(ast.BinOp):
@@ -231,7 +235,22 @@ class Statements(unittest.TestCase):
                 if isinstance(node, ast.Attribute) and isinstance(node.ctx, ast.Store):
                     self.assertEqual(ast.unparse(node.value), "self", name)
                     deed = name == "desks.py" and function.name in ("do_all", "undo", "_do")
-                    self.assertTrue(deed or function.name == "__init__", (name, function.name))
+                    self.assertTrue(deed or function.name == "__init__" or node.attr in KEPT, (name, function.name))
+
+    def test_kept_answers(self):
+        for kept, owner in KEPT.items():
+            users = [(node.name, part.name, part) for _, node in nodes(ast.ClassDef) for part in node.body
+                     if any(isinstance(inner, ast.Attribute) and inner.attr == kept for inner in ast.walk(part))]
+            self.assertEqual([user[0] for user in users], [owner, owner], kept)
+            (_, first, _), (_, _, asking) = users
+            self.assertEqual((first, ast.unparse(asking.decorator_list[0])), ("__init__", "property"))
+            test, end = asking.body
+            self.assertEqual(ast.unparse(test.test), f"self.{kept} is None")
+            self.assertEqual((len(test.body), len(test.orelse)), (1, 0))
+            self.assertTrue(ast.unparse(test.body[0]).startswith(f"self.{kept} = "))
+            self.assertEqual(ast.unparse(end), f"return self.{kept}")
+            whole = sum(isinstance(node, ast.Attribute) and node.attr == kept for _, node in nodes(ast.Attribute))
+            self.assertEqual(whole, 4)
 
 
 if __name__ == "__main__":

@@ -5,6 +5,7 @@ import unittest
 
 from bitcounts.errors import TooMany
 from bitcounts.formulas import Formula
+from bitcounts.piles import pile_of_rule
 from bitcounts.rules import minimal_rule
 from bitcounts.words import formula, var, word
 from tests.brute import all_points, least_rule
@@ -149,28 +150,24 @@ class ManyLines(unittest.TestCase):
         self.starts = (*[0] * 61, 1)
 
     def test_a_line_of_small_rank(self):
-        made = Formula(minimal_rule(("m",), self.sides, self.starts, (((60, 1),), 1), 62))
+        made = Formula(pile_of_rule(minimal_rule(("m",), self.sides, self.starts, (((60, 1),), 1)), None))
         self.assertEqual(told(made), told(var("m")))
-        made = Formula(minimal_rule(("m",), self.sides, self.starts, (((58, 1),), 1), 62))
+        made = Formula(pile_of_rule(minimal_rule(("m",), self.sides, self.starts, (((58, 1),), 1)), None))
         self.assertEqual(told(made), told(var("m") >> 2))
-        made = Formula(minimal_rule(("m",), self.sides, self.starts, (((56, 3), (60, -1), (61, 5)), 1), 62))
+        made = Formula(pile_of_rule(minimal_rule(("m",), self.sides, self.starts, (((56, 3), (60, -1), (61, 5)), 1)), None))
         self.assertEqual(told(made), told(3 * (var("m") >> 4) - var("m") + 5))
 
     def test_a_line_of_great_rank(self):
-        raised(self, TooMany, minimal_rule, ("m",), self.sides, self.starts, (((0, 1),), 1), 62)
-        raised(self, TooMany, minimal_rule, ("m",), self.sides, self.starts, (((45, 1),), 1), 62)
-        self.assertEqual(len(minimal_rule(("m",), self.sides, self.starts, (((46, 1),), 1), 62).parts), 16)
-
-    def test_more_lines_than_the_most(self):
-        for most in (16, 40, 61):
-            raised(self, TooMany, minimal_rule, ("m",), self.sides, self.starts, (((60, 1),), 1), most)
+        raised(self, TooMany, minimal_rule, ("m",), self.sides, self.starts, (((0, 1),), 1))
+        raised(self, TooMany, minimal_rule, ("m",), self.sides, self.starts, (((45, 1),), 1))
+        self.assertEqual(len(minimal_rule(("m",), self.sides, self.starts, (((46, 1),), 1)).parts), 16)
 
 
 class OtherSides(unittest.TestCase):
     """Least rules of lines that hang on digits in other ways than those of polynomials."""
 
     def check(self, names, sides, starts, function, places):
-        made = Formula(minimal_rule(names, sides, starts, (((0, 1),), 1), len(starts)))
+        made = Formula(pile_of_rule(minimal_rule(names, sides, starts, (((0, 1),), 1)), None))
         size = len(names)
         basis, equations, firsts = least_rule(function, size, all_points(size, places))
         self.assertEqual(told(made), (names, len(basis), basis, equations, firsts))
@@ -205,7 +202,7 @@ class OtherSides(unittest.TestCase):
         plain = (((0, 2),), 1), (((1, 1),), 1)
         odd = (((0, 2), (1, 1)), 1), (((1, 1),), 1)
         for sides, name in (((plain, plain, odd, odd), "a"), ((plain, odd, plain, odd), "b")):
-            made = Formula(minimal_rule(("a", "b"), sides, (0, 1), (((0, 1),), 1), 2))
+            made = Formula(pile_of_rule(minimal_rule(("a", "b"), sides, (0, 1), (((0, 1),), 1)), None))
             self.assertEqual(told(made), told(var(name)))
 
 

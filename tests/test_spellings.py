@@ -4,6 +4,7 @@ import unittest
 
 from bitcounts.errors import TooMany
 from bitcounts.glances import PRIME, look_at_rank, rows_to_try, tuples_to_try, worth
+from bitcounts.mixtures import mixture_lag
 from bitcounts.rows import applied, row_behind
 from bitcounts.spellings import spelled
 from bitcounts.words import var, word
@@ -14,7 +15,7 @@ M, N, K = var("m"), var("n"), var("k")
 
 
 def spelling(made):
-    return spelled(made._rule, made._lag)
+    return spelled(made.rule, mixture_lag(made._mixture))
 
 
 def value(made, numbers):
@@ -53,7 +54,7 @@ class Spellings(unittest.TestCase):
     def test_lags(self):
         words = (M, M >> 3, M << 3, 6 * M, M - M, word(5), (M >> 4) + N, (M << 2) | (N << 1), ~(M << 4), -(M << 4),
                  (M << 8) & 7, 3 + (M << 2))
-        self.assertEqual([made._lag for made in words if made.names], [0, 3, -3, -1, 4, -1, -4, -4, -2])
+        self.assertEqual([mixture_lag(made._mixture) for made in words if made.names], [0, 3, -3, -1, 4, -1, -4, -4, -2])
 
 
 class Glances(unittest.TestCase):

@@ -1,0 +1,66 @@
+"""Systems of mixtures and of what is measured of them, and the least rules of mixtures."""
+
+from bitcounts.digit_rows import own_rows
+from bitcounts.marking import marks_of
+from bitcounts.mixtures import is_bulky, mixture_names
+from bitcounts.rules import constant, solved_rule
+from bitcounts.solving import System
+
+
+def offsets_of(mixture):
+    """For each atom the place of its first line, behind 1 and the lines of the atoms before it."""
+    found = []
+    at = 1
+    for _, atom in mixture.parts:
+        found.append(at)
+        at = at + len(atom.steps)
+    return found
+
+
+def line_move(steps, by, row):
+    """What the lines of an atom, behind so many others, are at a digit row of its own with this number."""
+    moves = []
+    for ways in steps:
+        follower, digit = ways[row]
+        moves.append((1, follower + by, 0) if digit < 0 else (2, follower + by, digit))
+    return moves
+
+
+def mixture_system(mixture, names):
+    offsets = offsets_of(mixture)
+    rows = [own_rows(atom.variables, names) for _, atom in mixture.parts]
+    moves = []
+    for index in range(1 << len(names)):
+        move = [(1, 0, 0)]
+        for at, (_, atom) in enumerate(mixture.parts):
+            move.extend(line_move(atom.steps, offsets[at], rows[at][index]))
+        moves.append(move)
+    first = [1]
+    for _, atom in mixture.parts:
+        first.extend(atom.starts)
+    part = mixture.constant, tuple([(by, offset) for (by, _), offset in zip(mixture.parts, offsets)])
+    return System("sum", first, moves, part, None)
+
+
+def mixture_rule(mixture):
+    """The least rule of a mixture without bulky atoms; TooMany is raised if its rank is greater than 16."""
+    if not mixture.parts:
+        return constant(mixture.constant)
+    names = mixture_names(mixture)
+    return solved_rule(mixture_system(mixture, names), None, names)
+
+
+def word_rule(mixture):
+    """The least rule of a mixture; a bulky atom stands alone in it."""
+    if is_bulky(mixture):
+        return mixture.parts[0][1].bulk
+    return mixture_rule(mixture)
+
+
+def measured_system(kind, spelling):
+    """The system of what is measured of a mixture, by its spelling."""
+    moves = []
+    for index in range(1 << len(spelling.letters)):
+        moves.append([(1, 0, 0), *line_move(spelling.steps, 1, index)])
+    part = spelling.low, ((1 << spelling.known, 1),)
+    return System(kind, [1, *spelling.starts], moves, part, marks_of(kind, spelling))

@@ -1,0 +1,161 @@
+"""Piles: sums of a mixture and of multiples of terms, which all formulas are."""
+
+from bitcounts.digit_rows import digit_indexes
+from bitcounts.evaluations import mixture_value
+from bitcounts.limits import RANK
+from bitcounts.machines import holds_at, same_machines
+from bitcounts.measuring import measured_numbers
+from bitcounts.mixed_rules import mixture_rule
+from bitcounts.mixtures import Mixture, many_lines, mixed, mixture_names, same_mixtures, scaled_mixture
+from bitcounts.rules import Rule, all_added, rule_value, same_rules, scaled, solved_rule
+from bitcounts.solving import some_columns, told_apart
+
+MOST_TERMS = 6
+
+
+class Source:
+    """What a least rule is worked out of when it is asked for: as `solved_rule` takes it."""
+
+    def __init__(self, system, known, names):
+        self.system = system
+        self.known = known
+        self.letters = names
+
+
+class Term:
+    """A formula that is told by its least rule, or by the source of it.
+
+    The `shape` tells its values more quickly, or is None. It is a pair of a kind and what it is about: a mixture that
+    is measured, or, for "held", a machine. The names on which the formula hangs are among its `letters`, and its rank
+    is not above `most`.
+    """
+
+    def __init__(self, source, names, most, shape):
+        self._source = source
+        self._told = None
+        self.letters = names
+        self.most = most
+        self.shape = shape
+
+    @property
+    def told(self):
+        if self._told is None:
+            self._told = rule_of_source(self._source)
+        return self._told
+
+
+def rule_of_source(source):
+    if isinstance(source, Rule):
+        return source
+    return solved_rule(source.system, source.known, source.letters)
+
+
+def same_terms(term, other):
+    """Whether it is seen at once that both terms are the same."""
+    if term.shape is None or other.shape is None:
+        return term.shape is None and other.shape is None and same_rules(term.told, other.told)
+    if term.shape[0] != other.shape[0]:
+        return False
+    if term.shape[0] == "held":
+        return same_machines(term.shape[1], other.shape[1])
+    return same_mixtures(term.shape[1], other.shape[1])
+
+
+class Pile:
+    """A mixture and the pairs of a factor, not 0, and a term."""
+
+    def __init__(self, mixture, terms):
+        self.mixture = mixture
+        self.terms = terms
+
+
+def pile_of_integer(number):
+    return Pile(Mixture(number, ()), ())
+
+
+def pile_of_term(term):
+    return Pile(Mixture(0, ()), ((1, term),))
+
+
+def pile_of_rule(rule, shape):
+    return pile_of_term(Term(rule, rule.variables, len(rule.starts), shape))
+
+
+def pile_of_system(system, names, shape):
+    """The pile of what the system tells; TooMany is raised if its rank is greater than 16."""
+    lines = len(told_apart(system, system.first))
+    if lines <= RANK:
+        return pile_of_term(Term(Source(system, None, names), names, lines, shape))
+    known = some_columns(system)
+    if known.waiting or len(known.found) > RANK:
+        return pile_of_rule(solved_rule(system, known, names), shape)
+    return pile_of_term(Term(Source(system, known, names), names, len(known.found), shape))
+
+
+def piled(pile, other, factor):
+    """The pile and so many times the other one."""
+    terms = list(pile.terms)
+    for by, term in other.terms:
+        place = len(terms)
+        for at, pair in enumerate(terms):
+            if same_terms(pair[1], term):
+                place = at
+        if place == len(terms):
+            terms.append((factor * by, term))
+        else:
+            terms[place] = (terms[place][0] + factor * by, term)
+    left = tuple([pair for pair in terms if pair[0] != 0])
+    return Pile(mixed(pile.mixture, other.mixture, factor), left)
+
+
+def scaled_pile(pile, factor):
+    if factor == 0:
+        return pile_of_integer(0)
+    return Pile(scaled_mixture(pile.mixture, factor), tuple([(factor * by, term) for by, term in pile.terms]))
+
+
+def pile_names(pile):
+    """The names of all that is in the pile, ascending; it may hang on fewer."""
+    if not pile.terms:
+        return mixture_names(pile.mixture)
+    found = {name: True for name in mixture_names(pile.mixture)}
+    for _, term in pile.terms:
+        for name in term.letters:
+            found[name] = True
+    return tuple(sorted([str(name) for name in found]))
+
+
+def most_rank(pile):
+    """At least the rank."""
+    ranks = sum([term.most for _, term in pile.terms])
+    if pile.mixture.parts:
+        return ranks + many_lines(pile.mixture)
+    return ranks + (1 if pile.mixture.constant else 0)
+
+
+def pile_rule(pile):
+    """The least rule; TooMany is raised if its rank is greater than 16."""
+    if not pile.terms:
+        return mixture_rule(pile.mixture)
+    if len(pile.terms) == 1 and not pile.mixture.parts and pile.mixture.constant == 0:
+        return scaled(pile.terms[0][1].told, pile.terms[0][0])
+    summands = [(by, term.told) for by, term in pile.terms]
+    return all_added([*summands, (1, mixture_rule(pile.mixture))])
+
+
+def term_value(term, numbers):
+    """The value of the term at the numbers by their names."""
+    if term.shape is None:
+        return rule_value(term.told, [numbers[name] for name in term.told.variables])
+    kind, about = term.shape
+    if kind == "held":
+        return int(holds_at(about, digit_indexes([numbers[name] for name in about.variables])))
+    return measured_numbers(kind, [mixture_value(about, numbers)])[0]
+
+
+def pile_value(pile, numbers):
+    """The value of the pile at the numbers by their names."""
+    value = mixture_value(pile.mixture, numbers)
+    for by, term in pile.terms:
+        value = value + by * term_value(term, numbers)
+    return value

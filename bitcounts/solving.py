@@ -1,0 +1,320 @@
+"""Least rules worked out from the values of lines at some tuples.
+
+A formula is told by lines, functions of its names, whose values at 2 * x + e are made of those at x by a move for each
+digit row e. First come columns, the values of all lines at tuples: as many as are no combinations of others. Then
+come the parts of the formula, by their values at the tuples of these columns.
+
+Of columns there are two kinds. Those of integer lines have moves of triples (factor, place, addend), one for each line:
+factor times the line at the place, and the addend more. A part of these is a pair (addend, pairs): the addend, and
+the factor times the line for each pair (factor, place); what is measured of that is the part. Columns of fraction
+lines have sides of rows as moves, and their parts are rows.
+"""
+
+from bitcounts.digit_rows import digit_row, places_that_matter, rows_of_places
+from bitcounts.errors import TooMany
+from bitcounts.limits import RANK
+from bitcounts.measuring import lines_measured, measured_numbers
+from bitcounts.rows import applied, combined, row_behind, row_of, shortest
+from math import lcm
+
+# With more columns than the greatest rank, how many are found before the rank is looked at, and how many times more
+# before it is looked at again.
+SOME = 24
+MORE = 2
+# How far apart the numbers of a tuple stand in its code; the order of codes is that of tuples.
+WIDTH = 80
+
+
+class System:
+    """What tells a formula: its `kind`, the column at 0, the moves for each digit row, and its first part.
+
+    The kind is "rows" for fraction lines, and for integer lines "sum" or what is measured of their sums. What is
+    measured hangs on the `marks` of lines besides, as `lines_measured` takes them. For a "product" of two formulas
+    there are pairs of columns, moves and parts; for a "grid", whose names are different ones, a pair of lists of
+    columns, each of the one belonging to each of the other.
+    """
+
+    def __init__(self, kind, first, moves, part, marks):
+        self.kind = kind
+        self.first = first
+        self.moves = moves
+        self.part = part
+        self.marks = marks
+
+
+class Table:
+    """What is known of some vectors that are no combinations of others.
+
+    At the places `pivots` these vectors tell all of their combinations: the number of a combination at each place
+    of `others`, pairs of a place and factors, times the `divisor` is the sum of its numbers at the pivots times
+    these factors.
+    """
+
+    def __init__(self, divisor, pivots, others):
+        self.divisor = divisor
+        self.pivots = pivots
+        self.others = others
+
+
+def empty_table(width):
+    return Table(1, [], [(place, []) for place in range(width)])
+
+
+def rests_of(vector, table):
+    """For each of the other places how far the vector is from a combination."""
+    head = [vector[place] for place in table.pivots]
+    divisor = table.divisor
+    return [divisor * vector[place] - sum([number * by for number, by in zip(head, told)])
+            for place, told in table.others]
+
+
+def widened_table(table, rests):
+    """The table with a vector more, by its rests, not all of which are 0; all divisions leave no rest."""
+    places = [at for at, rest in enumerate(rests) if rest]
+    least = places[0]
+    for at in places:
+        if abs(rests[at]) < abs(rests[least]):
+            least = at
+    pivot, divisor = rests[least], table.divisor
+    place, own = table.others[least]
+    others = []
+    for at, (other, told) in enumerate(table.others):
+        rest = rests[at]
+        if at == least:
+            continue
+        if rest:
+            others.append((other, [*[(pivot * by - rest * beside) // divisor for by, beside in zip(told, own)], rest]))
+        else:
+            others.append((other, [*[pivot * by // divisor for by in told], 0]))
+    return Table(pivot, [*table.pivots, place], others)
+
+
+def moved_column(kind, column, move):
+    if kind == "rows":
+        return applied(move, column)
+    if kind == "product":
+        return applied(move[0], column[0]), applied(move[1], column[1])
+    return [factor * column[place] + addend for factor, place, addend in move]
+
+
+def told_apart(system, column):
+    """The numbers by which columns are told apart."""
+    if system.kind == "rows" or system.kind == "sum":
+        return column
+    if system.kind == "product":
+        return [number * beside for number in column[0] for beside in column[1]]
+    return lines_measured(system.kind, column, system.marks)
+
+
+class Columns:
+    """Columns `found`, no combinations of others, the first at 0, with their table.
+
+    All columns are combinations of them if none are `waiting`, the numbers of columns behind which others come.
+    """
+
+    def __init__(self, found, table, waiting):
+        self.found = found
+        self.table = table
+        self.waiting = waiting
+
+
+def first_column(system):
+    first = told_apart(system, system.first)
+    table = empty_table(len(first))
+    return Columns([system.first], widened_table(table, first) if any(first) else table, [0])
+
+
+def more_columns(system, known, most):
+    """The known columns and others, until all are combinations of them or there are more than `most`.
+
+    The last ones found are looked at first: longer tuples tell more of most formulas.
+    """
+    found = list(known.found)
+    waiting = list(known.waiting)
+    table = known.table
+    while waiting and len(found) <= most:
+        at = waiting.pop()
+        for move in system.moves:
+            column = moved_column(system.kind, found[at], move)
+            rests = rests_of(told_apart(system, column), table)
+            if any(rests):
+                table = widened_table(table, rests)
+                waiting.append(len(found))
+                found.append(column)
+        if not table.others:
+            waiting.clear()
+    return Columns(found, table, waiting)
+
+
+def some_columns(system):
+    """All columns, or some more than the greatest rank."""
+    return more_columns(system, first_column(system), RANK)
+
+
+def all_columns(system):
+    return more_columns(system, first_column(system), len(system.first)).found
+
+
+def part_behind(kind, part, move):
+    """The part that the part is at 2 * x + e, by the move of the digit row e."""
+    if kind == "rows":
+        return row_behind(part, move)
+    if kind == "product" or kind == "grid":
+        return row_behind(part[0], move[0]), row_behind(part[1], move[1])
+    addend, pairs = part
+    if len(pairs) == 1:
+        by, place = pairs[0]
+        factor, follower, more = move[place]
+        return addend + by * more, ((by * factor, follower),)
+    addend = addend + sum([by * move[place][2] for by, place in pairs])
+    return addend, tuple([(by * move[place][0], move[place][1]) for by, place in pairs])
+
+
+def part_values(kind, part, columns):
+    """The values of the part at the tuples of the columns."""
+    if kind == "rows":
+        return [combined(part, column) for column in columns]
+    if kind == "product":
+        return [combined(part[0], column[0]) * combined(part[1], column[1]) for column in columns]
+    if kind == "grid":
+        beside = [combined(part[1], column) for column in columns[1]]
+        return [number * other for number in [combined(part[0], column) for column in columns[0]] for other in beside]
+    addend, pairs = part
+    if len(pairs) == 1:
+        by, place = pairs[0]
+        numbers = [addend + by * column[place] for column in columns]
+    else:
+        numbers = [addend + sum([by * column[place] for by, place in pairs]) for column in columns]
+    return numbers if kind == "sum" else measured_numbers(kind, numbers)
+
+
+class Parts:
+    """The basic parts by their values: `codes` are their (k, code of r), `vectors` their values at the columns.
+
+    `places` are as many columns as there are basic parts, at which they tell all of their values, and `links`
+    has for each part and digit row the number of a basic part, or None, and the values of the part that follows.
+    """
+
+    def __init__(self, codes, vectors, places, links):
+        self.codes = codes
+        self.vectors = vectors
+        self.places = places
+        self.links = links
+
+
+def next_parts(system, parts, fresh, codes, steps):
+    """What comes of the fresh parts, by the codes of the tuples."""
+    table = {}
+    for at in fresh:
+        level, code = codes[at]
+        for index, move in enumerate(system.moves):
+            table[code + (steps[index] << level)] = (at, index, part_behind(system.kind, parts[at], move))
+    return table
+
+
+def parts_of(system, columns, size):
+    """The basic parts, as far as the columns tell; TooMany is raised if there are more than 16."""
+    steps = [code_of(digit_row(index, size)) for index in range(1 << size)]
+    codes = []
+    parts = []
+    vectors = []
+    links = {}
+    known = empty_table(len(part_values(system.kind, system.part, columns)))
+    waiting = {0: (-1, 0, system.part)}
+    level = 0
+    while waiting:
+        fresh = []
+        for code in sorted([int(key) for key in waiting]):
+            source, index, part = waiting[code]
+            vector = part_values(system.kind, part, columns)
+            rests = rests_of(vector, known) if known.others else []
+            if not any(rests):
+                links[source, index] = (None, vector)
+                continue
+            if len(parts) == RANK:
+                raise TooMany()
+            known = widened_table(known, rests)
+            links[source, index] = (len(parts), vector)
+            fresh.append(len(parts))
+            codes.append((level, code))
+            parts.append(part)
+            vectors.append(vector)
+        waiting = next_parts(system, parts, fresh, codes, steps)
+        level += 1
+    return Parts(codes, vectors, known.pivots, links)
+
+
+def code_of(numbers):
+    code = 0
+    for number in numbers:
+        code = (code << WIDTH) + number
+    return code
+
+
+def numbers_of(code, size):
+    return tuple([code >> (WIDTH * (size - 1 - at)) & ((1 << WIDTH) - 1) for at in range(size)])
+
+
+def inverse(matrix):
+    """Rows of integers and a divisor: the rows divided by it are the inverse of the matrix."""
+    many = len(matrix)
+    rows = [[*row, *[int(at == place) for place in range(many)]] for at, row in enumerate(matrix)]
+    for at in range(many):
+        if rows[at][at] == 0:
+            beside = [place for place in range(at + 1, many) if rows[place][at] != 0][0]
+            rows[at], rows[beside] = rows[beside], rows[at]
+        pivot = shortest(rows[at])
+        bottom = pivot[at]
+        rows = [row if row[at] == 0 else [bottom * number - row[at] * beside for number, beside in zip(row, pivot)]
+                for row in rows]
+        rows[at] = pivot
+    divisor = 1
+    for at in range(many):
+        divisor = lcm(divisor, rows[at][at])
+    return [[number * (divisor // row[at]) for number in row[many:]] for at, row in enumerate(rows)], divisor
+
+
+def links_solved(parts, many):
+    """For each of so many digit rows, the rows by which the parts that follow are combinations of the basic ones."""
+    size = len(parts.vectors)
+    rows, divisor = inverse([[vector[place] for place in parts.places] for vector in parts.vectors])
+    columns = [[row[at] for row in rows] for at in range(size)]
+    sides = []
+    for index in range(many):
+        side = []
+        for at in range(size):
+            number, vector = parts.links[at, index]
+            if number is not None:
+                side.append((((number, 1),), 1))
+                continue
+            told = [vector[place] for place in parts.places]
+            side.append(row_of([sum([n * by for n, by in zip(told, column)]) for column in columns], divisor))
+        sides.append(tuple(side))
+    return sides
+
+
+def least_parts(system, known, size):
+    """The basic parts, for so many names, by the columns if they are known; TooMany is raised if there are too many."""
+    columns = some_columns(system) if known is None else known
+    parts = parts_of(system, columns.found, size)
+    most = SOME
+    while columns.waiting:
+        columns = more_columns(system, columns, most)
+        parts = parts_of(system, columns.found, size)
+        most = MORE * most
+    return parts
+
+
+def least_lines(system, known, names):
+    """The names on which the formula hangs, its basic parts, the sides of its least rule, and their values at 0."""
+    size = len(names)
+    parts = least_parts(system, known, size)
+    sides = links_solved(parts, 1 << size)
+    places = places_that_matter(sides)
+    kept = rows_of_places(size, places)
+    labels = []
+    for level, code in parts.codes:
+        numbers = numbers_of(code, size)
+        labels.append((level, tuple([numbers[place] for place in places])))
+    used = tuple([names[place] for place in places])
+    return used, tuple(labels), tuple([sides[index] for index in kept]), tuple([vector[0] for vector in parts.vectors])
