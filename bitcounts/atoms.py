@@ -17,34 +17,37 @@ class Atom:
 
     `steps` has for each state, for each digit row of its `variables`, the pair of the state that follows and the
     digit; the first one is the atom. As many states behind each other are silent as the atom has `lag`. `starts` are
-    the values of the states at 0. `shape` tells how it was made, of so many things as `cost` tells, or is None. If there
-    would be too many states, there are none, and `bulk` is its least rule, which is None otherwise.
+    the values of the states at 0. All states and 1 are combinations of no more than `width` of them.
+
+    `shape` tells how the atom was made, of so many things as `cost` tells, or is None. If there would be too many
+    states, there are none, and `bulk` is its least rule, which is None otherwise.
     """
 
-    def __init__(self, names, steps, starts, lag, shape, cost, bulk):
+    def __init__(self, names, steps, starts, lag, width, shape, cost, bulk):
         self.variables = names
         self.steps = steps
         self.starts = starts
         self.lag = lag
+        self.width = width
         self.shape = shape
         self.cost = cost
         self.bulk = bulk
 
 
 def variable_atom(name):
-    return Atom((name,), (((0, 0), (0, 1)),), (0,), 0, ("name", name, 0), 1, None)
+    return Atom((name,), (((0, 0), (0, 1)),), (0,), 0, 2, ("name", name, 0), 1, None)
 
 
 def halved_atom(name, times):
     """A variable without so many of its lowest digits."""
     silent = [((at + 1, SILENT), (at + 1, SILENT)) for at in range(times)]
     steps = (*silent, ((times, 0), (times, 1)))
-    return Atom((name,), steps, tuple([0 for _ in steps]), times, ("name", name, times), 1, None)
+    return Atom((name,), steps, tuple([0 for _ in steps]), times, times + 2, ("name", name, times), 1, None)
 
 
 def bulky_atom(rule, lag):
     """An atom without states, by its least rule."""
-    return Atom(rule.variables, (), (), lag, None, 1, rule)
+    return Atom(rule.variables, (), (), lag, 1 + len(rule.starts), None, 1, rule)
 
 
 def same_atoms(atom, other):
@@ -98,7 +101,12 @@ def atom_of(names, steps, starts, lag, shape, cost):
     """The atom with these states, each word only once."""
     steps, starts = merged(steps, starts)
     used, kept = without_idle_names(names, steps)
-    return Atom(used, kept, tuple(starts), lag, shape if cost <= GREATEST_COST else None, cost, None)
+    return Atom(used, kept, tuple(starts), lag, 1 + len(starts), shape if cost <= GREATEST_COST else None, cost, None)
+
+
+def narrowed(atom, width):
+    """The same atom, of which it is known that it has no more than this width."""
+    return Atom(atom.variables, atom.steps, atom.starts, atom.lag, width, atom.shape, atom.cost, atom.bulk)
 
 
 def falling_states(steps, starts):

@@ -2,11 +2,10 @@
 
 from bitcounts.checks import check_within, is_integer, numbers_by_name, numbers_by_pairs
 from bitcounts.digit_rows import united
-from bitcounts.limits import NAMES, RANK
+from bitcounts.limits import NAMES
 from bitcounts.mixtures import is_spread
 from bitcounts.piles import (
-    MOST_TERMS, most_rank, pile_names, pile_of_integer, pile_of_rule, pile_rule, pile_value, piled,
-    scaled_pile,
+    limited_pile, pile_names, pile_of_integer, pile_of_rule, pile_rule, pile_value, piled, scaled_pile,
 )
 from bitcounts.rules import HIGHEST_POWER, multiplied, rule_equations, same_rules
 
@@ -27,10 +26,7 @@ def added(one, other, factor):
         # Some names may have dropped out.
         united(one.names, other.names)
         pile, beside = pile_of_rule(one.rule, None), pile_of_rule(other.rule, None)
-    made = Formula(piled(pile, beside, factor))
-    if most_rank(made._pile) > RANK or len(made._pile.terms) > MOST_TERMS:
-        return Formula(pile_of_rule(made.rule, None))
-    return made
+    return Formula(limited_pile(piled(pile, beside, factor)))
 
 
 def united_names(pile, other):

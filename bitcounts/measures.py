@@ -10,13 +10,13 @@ from bitcounts.spellings import spelled
 class Measure:
     """Some integers that hang on the digits of an integer a, the first one being what is asked for.
 
-    `sides` tells by which rows those of 2 * a and of 2 * a + 1 are made of those of a; `zero` and `minus_one`
+    `rows` tells by which rows those of 2 * a and of 2 * a + 1 are made of those of a; `zero` and `minus_one`
     are those of 0 and -1. The `kind` is that of `worth`.
     """
 
     def __init__(self, kind, sides, zero, minus_one):
         self.kind = kind
-        self.sides = sides
+        self.rows = sides
         self.zero = zero
         self.minus_one = minus_one
 
@@ -53,7 +53,7 @@ def measured_integer(measure, number):
         number = number >> 1
     values = measure.zero if number == 0 else measure.minus_one
     for digit in digits[::-1]:
-        values = applied(measure.sides[digit], values)
+        values = applied(measure.rows[digit], values)
     return values
 
 
@@ -63,7 +63,7 @@ def step_rows(measure, step):
     size = len(measure.zero)
     if factor == 1:
         return [(((follower * size + place, 1),), 1) for place in range(size)]
-    return [moved(row, follower * size) for row in measure.sides[digit]]
+    return [moved(row, follower * size) for row in measure.rows[digit]]
 
 
 def measured(measure, rule, lag, beside):
@@ -77,7 +77,7 @@ def measured(measure, rule, lag, beside):
     starts = [value for values in spelling.worths for value in measured_integer(measure, values[0])]
     told = ((0, 1),), 1
     for place in range(spelling.known):
-        told = row_behind(told, measure.sides[spelling.low >> place & 1])
+        told = row_behind(told, measure.rows[spelling.low >> place & 1])
     return minimal_rule(rule.variables, sides, starts, told)
 
 

@@ -75,8 +75,8 @@ def mixture_lag(mixture):
 
 
 def many_lines(mixture):
-    """At least the rank: how many lines tell the mixture."""
-    return 1 + sum([len(atom.steps) + (0 if atom.bulk is None else len(atom.bulk.starts)) for _, atom in mixture.parts])
+    """At least the rank: of how many lines all parts are combinations."""
+    return 1 + sum([atom.width - 1 for _, atom in mixture.parts])
 
 
 def common_zeros(mixture):

@@ -7,7 +7,7 @@ from bitcounts.machines import holds_at, same_machines
 from bitcounts.measuring import measured_numbers
 from bitcounts.mixed_rules import mixture_rule
 from bitcounts.mixtures import Mixture, many_lines, mixed, mixture_names, same_mixtures, scaled_mixture
-from bitcounts.rules import Rule, all_added, rule_value, same_rules, scaled, solved_rule
+from bitcounts.rules import Rule, rule_value, same_rules, scaled, solved_rule, sum_system
 from bitcounts.solving import some_columns, told_apart
 
 MOST_TERMS = 6
@@ -125,9 +125,9 @@ def pile_names(pile):
     return tuple(sorted([str(name) for name in found]))
 
 
-def most_rank(pile):
-    """At least the rank."""
-    ranks = sum([term.most for _, term in pile.terms])
+def most_rank(pile, exact):
+    """At least the rank; to be exact, the least rules of all terms are asked for theirs."""
+    ranks = sum([len(term.told.starts) if exact else term.most for _, term in pile.terms])
     if pile.mixture.parts:
         return ranks + many_lines(pile.mixture)
     return ranks + (1 if pile.mixture.constant else 0)
@@ -139,8 +139,25 @@ def pile_rule(pile):
         return mixture_rule(pile.mixture)
     if len(pile.terms) == 1 and not pile.mixture.parts and pile.mixture.constant == 0:
         return scaled(pile.terms[0][1].told, pile.terms[0][0])
+    system, names = pile_system(pile)
+    return solved_rule(system, None, names)
+
+
+def pile_system(pile):
+    """The system of the sum of the terms and the mixture, and all names."""
     summands = [(by, term.told) for by, term in pile.terms]
-    return all_added([*summands, (1, mixture_rule(pile.mixture))])
+    return sum_system([*summands, (1, mixture_rule(pile.mixture))])
+
+
+def limited_pile(pile):
+    """The pile, or one of a single term instead; TooMany is raised if its rank is greater than 16."""
+    if len(pile.terms) <= MOST_TERMS and (most_rank(pile, False) <= RANK or most_rank(pile, True) <= RANK):
+        return pile
+    system, names = pile_system(pile)
+    columns = some_columns(system)
+    if len(pile.terms) <= MOST_TERMS and not columns.waiting and len(columns.found) <= RANK:
+        return pile
+    return pile_of_rule(solved_rule(system, columns, names), None)
 
 
 def term_value(term, numbers):

@@ -14,14 +14,14 @@ MOST_POINTS = 200
 class Lines:
     """The lines of plain rules, one rule behind the other, as functions of the names of all.
 
-    `sides` has for each digit row the pair of rows, as pairs of place and factor, and of what all of them are
+    `moves` has for each digit row the pair of rows, as pairs of place and factor, and of what all of them are
     divided by. `starts` are the values at 0, and `row` has a factor for each line: by these the lines add up to a
     multiple of what the claim is about, which is to be 0.
     """
 
     def __init__(self, names, sides, starts, row):
         self.letters = names
-        self.sides = sides
+        self.moves = sides
         self.starts = starts
         self.row = row
 
@@ -93,7 +93,7 @@ def values_at(lines, numbers):
     """The values of all lines at the tuple."""
     values = lines.starts
     for index in digit_rows_of(numbers)[::-1]:
-        values = values_behind(lines.sides[index], values)
+        values = values_behind(lines.moves[index], values)
     return values
 
 
@@ -173,7 +173,7 @@ def values_of_span(lines, span, last):
         return None
     vectors = [values_at(lines, point) for point in points]
     for point, values, row in zip(points, vectors, rows):
-        for index, side in enumerate(lines.sides):
+        for index, side in enumerate(lines.moves):
             behind = tuple([2 * number + digit for number, digit in zip(point, digits_of(index, size))])
             if not row_is_right(row[index], points, vectors, behind, values_behind(side, values), last):
                 return None

@@ -2,7 +2,7 @@
 
 from bitcounts.digit_rows import digit_row
 from bitcounts.solving import (
-    Parts, code_of, empty_table, links_solved, moved_column, numbers_of, rests_of, told_apart, widened_table,
+    Links, Parts, code_of, empty_table, links_solved, moved_column, numbers_of, rests_of, told_apart, widened_table,
 )
 
 
@@ -46,4 +46,4 @@ def tuples_of(points, size):
 
 def rows_between(points, size):
     """For each digit row, the rows by which what follows the tuples is a combination of the values at them."""
-    return links_solved(points, 1 << size)
+    return links_solved(Links(points, list(range(1 << size))))

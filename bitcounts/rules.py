@@ -4,7 +4,7 @@ from bitcounts.digit_rows import digit_indexes, own_rows, united
 from bitcounts.errors import TooMany
 from bitcounts.limits import TOGETHER
 from bitcounts.rows import applied, fractions, moved
-from bitcounts.solving import Columns, System, all_columns, least_lines
+from bitcounts.solving import Columns, System, all_columns, least_lines, links_solved
 
 HIGHEST_POWER = 3
 
@@ -16,11 +16,23 @@ class Rule:
     has for each digit row a row of fractions for each line, and `starts` the values of the lines at 0.
     """
 
-    def __init__(self, variables, parts, sides, starts):
+    def __init__(self, variables, parts, links, starts):
         self.variables = variables
         self.parts = parts
-        self.sides = sides
         self.starts = starts
+        self._links = links
+        self._sides = None
+
+    @property
+    def sides(self):
+        if self._sides is None:
+            self._sides = sides_of(self._links)
+        return self._sides
+
+
+def sides_of(links):
+    """The sides of a rule, which may be told, or still to be worked out."""
+    return links if isinstance(links, tuple) else links_solved(links)
 
 
 def constant(number):
@@ -42,7 +54,7 @@ def is_variable(rule):
 
 
 def same_rules(rule, other):
-    if rule.variables != other.variables or rule.starts != other.starts:
+    if rule.variables != other.variables or rule.starts != other.starts or rule.parts != other.parts:
         return False
     return rule.sides == other.sides
 
@@ -77,8 +89,8 @@ def minimal_rule(names, sides, starts, told):
 
 def solved_rule(system, known, names):
     """The least rule that the system tells, by its columns if they are known."""
-    used, labels, sides, starts = least_lines(system, known, names)
-    return Rule(used, labels, sides, starts)
+    used, labels, links, starts = least_lines(system, known, names)
+    return Rule(used, labels, links, starts)
 
 
 def told_first(starts):
@@ -109,8 +121,8 @@ def added(rule, other):
     return minimal_rule(names, sides, starts, told_both(rule, other, 1))
 
 
-def all_added(summands):
-    """The least rule of the sum of multiples, pairs of factor and rule."""
+def sum_system(summands):
+    """The system of the sum of multiples, pairs of factor and rule, and the names of all."""
     names = ()
     for _, rule in summands:
         names = united(names, rule.variables)
@@ -124,7 +136,7 @@ def all_added(summands):
             told.append((size, factor))
         size = size + len(rule.starts)
     starts = [start for _, rule in summands for start in rule.starts]
-    return minimal_rule(names, sides, starts, (tuple(told), 1))
+    return System("rows", starts, sides, (tuple(told), 1), None), names
 
 
 def scaled(rule, factor):

@@ -64,6 +64,9 @@ def rests_of(vector, table):
     """For each of the other places how far the vector is from a combination."""
     head = [vector[place] for place in table.pivots]
     divisor = table.divisor
+    some = [at for at, number in enumerate(head) if number]
+    if 2 * len(some) < len(head):
+        return [divisor * vector[place] - sum([head[at] * told[at] for at in some]) for place, told in table.others]
     return [divisor * vector[place] - sum([number * by for number, by in zip(head, told)])
             for place, told in table.others]
 
@@ -274,13 +277,22 @@ def inverse(matrix):
     return [[number * (divisor // row[at]) for number in row[many:]] for at, row in enumerate(rows)], divisor
 
 
-def links_solved(parts, many):
-    """For each of so many digit rows, the rows by which the parts that follow are combinations of the basic ones."""
+class Links:
+    """Basic parts, and for which digit rows it is asked how what follows them is a combination of them."""
+
+    def __init__(self, parts, kept):
+        self.parts = parts
+        self.kept = kept
+
+
+def links_solved(links):
+    """For each of these digit rows, the rows by which the parts that follow are combinations of the basic ones."""
+    parts = links.parts
     size = len(parts.vectors)
     rows, divisor = inverse([[vector[place] for place in parts.places] for vector in parts.vectors])
     columns = [[row[at] for row in rows] for at in range(size)]
     sides = []
-    for index in range(many):
+    for index in links.kept:
         side = []
         for at in range(size):
             number, vector = parts.links[at, index]
@@ -290,7 +302,7 @@ def links_solved(parts, many):
             told = [vector[place] for place in parts.places]
             side.append(row_of([sum([n * by for n, by in zip(told, column)]) for column in columns], divisor))
         sides.append(tuple(side))
-    return sides
+    return tuple(sides)
 
 
 def least_parts(system, known, size):
@@ -306,15 +318,16 @@ def least_parts(system, known, size):
 
 
 def least_lines(system, known, names):
-    """The names on which the formula hangs, its basic parts, the sides of its least rule, and their values at 0."""
+    """The names on which the formula hangs, its basic parts, what links them, and their values at 0."""
     size = len(names)
     parts = least_parts(system, known, size)
-    sides = links_solved(parts, 1 << size)
-    places = places_that_matter(sides)
-    kept = rows_of_places(size, places)
+    many = range(len(parts.vectors))
+    followers = [[parts.links[at, index][1] for at in many] for index in range(1 << size)]
+    places = places_that_matter(followers)
     labels = []
     for level, code in parts.codes:
         numbers = numbers_of(code, size)
         labels.append((level, tuple([numbers[place] for place in places])))
     used = tuple([names[place] for place in places])
-    return used, tuple(labels), tuple([sides[index] for index in kept]), tuple([vector[0] for vector in parts.vectors])
+    starts = tuple([vector[0] for vector in parts.vectors])
+    return used, tuple(labels), Links(parts, rows_of_places(size, places)), starts

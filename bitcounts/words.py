@@ -1,6 +1,6 @@
 """Words: what is made of variables and integers by the operators of integers."""
 
-from bitcounts.atoms import bulky_atom, halved_atom, variable_atom
+from bitcounts.atoms import bulky_atom, halved_atom, narrowed, variable_atom
 from bitcounts.blends import blended
 from bitcounts.checks import check_name, check_within, is_integer, numbers_by_name, numbers_by_pairs
 from bitcounts.conditions import Test
@@ -10,7 +10,7 @@ from bitcounts.evaluations import mixture_value
 from bitcounts.formulas import Formula, times, power_of
 from bitcounts.limits import NAMES, RANK
 from bitcounts.machines import opposite
-from bitcounts.mixed_rules import word_rule
+from bitcounts.mixed_rules import mixture_system, word_rule
 from bitcounts.mixtures import (
     Mixture, is_bulky, is_silent, is_spread, many_lines, mixed, mixture_lag, mixture_names, scaled_mixture, zeros_below,
 )
@@ -20,6 +20,7 @@ from bitcounts.readings import below_zero, equal_to_zero, machine_of, with_rest
 from bitcounts.rules import (
     added, is_variable, rule_equations, same_rules, scaled, side_by_side, told_both, told_first,
 )
+from bitcounts.solving import some_columns
 from bitcounts.verdicts import compared, rest_machine
 
 GREATEST_WORD = 10 ** 6
@@ -46,8 +47,14 @@ def bulky_word(rule, lag):
 
 def within_rank(mixture):
     """The word; TooMany is raised if its rank is greater than 16."""
+    if many_lines(mixture) <= RANK:
+        return Word(mixture)
+    columns = some_columns(mixture_system(mixture, mixture_names(mixture)))
+    if not columns.waiting and len(mixture.parts) == 1:
+        by, atom = mixture.parts[0]
+        mixture = Mixture(mixture.constant, ((by, narrowed(atom, len(columns.found))),))
     made = Word(mixture)
-    if many_lines(mixture) > RANK:
+    if columns.waiting or len(columns.found) > RANK:
         _ = made.rule
     return made
 
