@@ -3,7 +3,7 @@
 from bitcounts.conditions import Test
 from bitcounts.errors import NotATest
 from bitcounts.papers import plain_lines, relation_papers, rule_paper, states_paper
-from bitcounts.relations import checked_rules
+from bitcounts.relations import checked_formulas
 from bitcounts.words import formula
 
 
@@ -34,7 +34,7 @@ def certify_parting(f, g):
 
 def certify_relations(*formulas):
     """That the formulas add up to 0 by each row of their relations."""
-    return relation_papers(checked_rules(formulas))
+    return relation_papers(checked_formulas(formulas))
 
 
 def certify_within(t, s):

@@ -5,9 +5,9 @@ from bitcounts.digit_rows import united
 from bitcounts.limits import NAMES
 from bitcounts.mixtures import is_spread
 from bitcounts.piles import (
-    limited_pile, pile_names, pile_of_integer, pile_of_rule, pile_rule, pile_value, piled, scaled_pile,
+    limited_pile, pile_names, pile_of_integer, pile_of_product, pile_of_rule, pile_rule, pile_value, piled, scaled_pile,
 )
-from bitcounts.rules import HIGHEST_POWER, multiplied, rule_equations, same_rules
+from bitcounts.rules import HIGHEST_POWER, rule_equations, same_rules
 
 
 def formula_operand(operand):
@@ -44,7 +44,7 @@ def times(one, other):
         return Formula(scaled_pile(one._pile, other._pile.mixture.constant))
     if is_integer_pile(one._pile):
         return Formula(scaled_pile(other._pile, one._pile.mixture.constant))
-    return Formula(pile_of_rule(multiplied(one.rule, other.rule), None))
+    return Formula(pile_of_product(one.rule, other.rule, one._pile, other._pile))
 
 
 def power_of(one, exponent):

@@ -1,6 +1,6 @@
 """Claims about rules and machines and the certificates for them, as plain tuples."""
 
-from bitcounts.digit_rows import digit_row, united
+from bitcounts.digit_rows import united
 from bitcounts.machines import GREATEST_PAIRS, Machine, least_numbers, paired
 from bitcounts.points import points_of, rows_between, tuples_of
 from bitcounts.rows import fractions
@@ -17,34 +17,15 @@ def plain_lines(rule):
     return rule.variables, sides, rule.starts, told
 
 
-def place_in_order(numbers):
-    """By what tuples of numbers are ordered."""
-    return max([int(number) for number in numbers], default=0).bit_length(), numbers
-
-
-def is_ahead(numbers, other):
-    return place_in_order(numbers) < place_in_order(other)
-
-
-def behind(numbers, index):
-    """The tuple 2 * x + e, for the digit row e with this number."""
-    return tuple([2 * number + digit for number, digit in zip(numbers, digit_row(index, len(numbers)))])
-
-
 def span_of(lines, last):
     """The span of the lines up to a tuple, or for all tuples if it is None."""
     size = len(lines.letters)
-    found = points_of(lines.system, size)
-    spans = rows_between(found, size)
-    points = [numbers for numbers in tuples_of(found, size) if last is None or is_ahead(numbers, last)]
+    found = points_of(lines.system, size, last)
+    many = len(found.codes)
     rows = []
-    for at, point in enumerate(points):
-        row = []
-        for index, span in enumerate(spans):
-            known = last is None or is_ahead(behind(point, index), last)
-            row.append(fractions(span[at], len(points)) if known else None)
-        rows.append(tuple(row))
-    return tuple(points), tuple(rows)
+    for told in rows_between(found, size):
+        rows.append(tuple([None if row is None else fractions(row, many) for row in told]))
+    return tuple(tuples_of(found, size)), tuple(rows)
 
 
 def rule_paper(one, other):
@@ -57,9 +38,10 @@ def rule_paper(one, other):
     return ("parting", *claim, pairs), span_of(lines, tuple([number for _, number in pairs]))
 
 
-def relation_papers(rules):
+def relation_papers(formulas):
     """That the formulas add up to 0 by each row of their relations."""
-    rows = relations_together(rules)
+    rows = relations_together(formulas)
+    rules = [one.rule for one in formulas]
     plain = tuple([plain_lines(rule) for rule in rules])
     paper = span_of(lines_together(rules), None) if rows else None
     return tuple([(("relation", plain, row), paper) for row in rows])

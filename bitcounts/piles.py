@@ -7,10 +7,13 @@ from bitcounts.machines import holds_at, same_machines
 from bitcounts.measuring import measured_numbers
 from bitcounts.mixed_rules import mixture_rule
 from bitcounts.mixtures import Mixture, many_lines, mixed, mixture_names, same_mixtures, scaled_mixture
-from bitcounts.rules import Rule, rule_value, same_rules, scaled, solved_rule, sum_system
+from bitcounts.rules import (
+    Rule, check_product, multiplied, product_system, rule_value, same_rules, scaled, solved_rule, sum_system,
+)
 from bitcounts.solving import some_columns, told_apart
 
 MOST_TERMS = 6
+DEEPEST = 6
 
 
 class Source:
@@ -26,16 +29,17 @@ class Term:
     """A formula that is told by its least rule, or by the source of it.
 
     The `shape` tells its values more quickly, or is None. It is a pair of a kind and what it is about: a mixture that
-    is measured, or, for "held", a machine. The names on which the formula hangs are among its `letters`, and its rank
-    is not above `most`.
+    is measured, for "held" a machine, for "sum" a pile, or for "times" a pair of piles, so `deep` within each other.
+    The names on which the formula hangs, and those of the shape, are among its `letters`; its rank is not above `most`.
     """
 
-    def __init__(self, source, names, most, shape):
+    def __init__(self, source, names, most, shape, deep):
         self._source = source
         self._told = None
         self.letters = names
         self.most = most
         self.shape = shape
+        self.deep = deep
 
     @property
     def told(self):
@@ -58,7 +62,26 @@ def same_terms(term, other):
         return False
     if term.shape[0] == "held":
         return same_machines(term.shape[1], other.shape[1])
+    if term.shape[0] == "times" or term.shape[0] == "sum":
+        return same_rules(term.told, other.told)
     return same_mixtures(term.shape[1], other.shape[1])
+
+
+def depth_of(pile):
+    return max([int(term.deep) for _, term in pile.terms], default=0)
+
+
+def pile_of_product(rule, other, pile, beside):
+    """The pile of the product of two piles with these least rules; TooMany is raised if its rank is greater than 16."""
+    check_product(rule, other)
+    most = len(rule.starts) * len(other.starts)
+    deep = 1 + depth_of(pile) + depth_of(beside)
+    shape = ("times", (pile, beside)) if deep <= DEEPEST else None
+    if most == 0 or most > RANK or not rule.variables or not other.variables:
+        made = multiplied(rule, other)
+        return pile_of_shape(made, made.variables, len(made.starts), shape, deep if shape else 0)
+    system, columns, names = product_system(rule, other)
+    return pile_of_shape(Source(system, columns, names), names, most, shape, deep if shape else 0)
 
 
 class Pile:
@@ -73,23 +96,39 @@ def pile_of_integer(number):
     return Pile(Mixture(number, ()), ())
 
 
-def pile_of_term(term):
-    return Pile(Mixture(0, ()), ((1, term),))
+def shape_names(shape):
+    """The names of what the shape is about."""
+    if shape is None:
+        return ()
+    kind, about = shape
+    if kind == "held":
+        return about.variables
+    if kind == "sum":
+        return pile_names(about)
+    if kind == "times":
+        return (*pile_names(about[0]), *pile_names(about[1]))
+    return mixture_names(about)
+
+
+def pile_of_shape(source, names, most, shape, deep):
+    """The pile of a single term."""
+    letters = sorted([str(name) for name in {name: True for name in (*names, *shape_names(shape))}])
+    return Pile(Mixture(0, ()), ((1, Term(source, tuple(letters), most, shape, deep)),))
 
 
 def pile_of_rule(rule, shape):
-    return pile_of_term(Term(rule, rule.variables, len(rule.starts), shape))
+    return pile_of_shape(rule, rule.variables, len(rule.starts), shape, 0)
 
 
 def pile_of_system(system, names, shape):
     """The pile of what the system tells; TooMany is raised if its rank is greater than 16."""
     lines = len(told_apart(system, system.first))
     if lines <= RANK:
-        return pile_of_term(Term(Source(system, None, names), names, lines, shape))
+        return pile_of_shape(Source(system, None, names), names, lines, shape, 0)
     known = some_columns(system)
     if known.waiting or len(known.found) > RANK:
         return pile_of_rule(solved_rule(system, known, names), shape)
-    return pile_of_term(Term(Source(system, known, names), names, len(known.found), shape))
+    return pile_of_shape(Source(system, known, names), names, len(known.found), shape, 0)
 
 
 def piled(pile, other, factor):
@@ -157,7 +196,10 @@ def limited_pile(pile):
     columns = some_columns(system)
     if len(pile.terms) <= MOST_TERMS and not columns.waiting and len(columns.found) <= RANK:
         return pile
-    return pile_of_rule(solved_rule(system, columns, names), None)
+    rule = solved_rule(system, columns, names)
+    deep = 1 + depth_of(pile)
+    shape = ("sum", pile) if deep <= DEEPEST and len(pile.terms) <= MOST_TERMS else None
+    return pile_of_shape(rule, rule.variables, len(rule.starts), shape, deep if shape else 0)
 
 
 def term_value(term, numbers):
@@ -167,6 +209,10 @@ def term_value(term, numbers):
     kind, about = term.shape
     if kind == "held":
         return int(holds_at(about, digit_indexes([numbers[name] for name in about.variables])))
+    if kind == "sum":
+        return pile_value(about, numbers)
+    if kind == "times":
+        return pile_value(about[0], numbers) * pile_value(about[1], numbers)
     return measured_numbers(kind, [mixture_value(about, numbers)])[0]
 
 

@@ -2,7 +2,8 @@
 
 from bitcounts.digit_rows import digit_row
 from bitcounts.solving import (
-    Links, Parts, code_of, empty_table, links_solved, moved_column, numbers_of, rests_of, told_apart, widened_table,
+    Parts, code_of, columns_to_solve, empty_table, link_solved, moved_column, numbers_of, rests_of, told_apart,
+    widened_table,
 )
 
 
@@ -15,17 +16,24 @@ def next_points(system, found, fresh, codes, steps):
     return waiting
 
 
-def points_of(system, size):
-    """The new tuples for the lines of the system, by their codes, with the columns there as vectors."""
+def points_of(system, size, last):
+    """The new tuples for the lines of the system, by their codes, with the columns there as vectors.
+
+    Only those ahead of the last tuple are told, and what follows them as far as it is ahead of it, if there is one.
+    """
     steps = [code_of(digit_row(index, size)) for index in range(1 << size)]
+    end = None if last is None else place_in_order(last)
     codes = []
     found = []
     links = {}
     known = empty_table(len(told_apart(system, system.first)))
     waiting = {0: (-1, 0, system.first)}
+    level = 0
     while waiting:
         fresh = []
         for code in sorted([int(key) for key in waiting]):
+            if end is not None and (level if code else 0, code) >= end:
+                continue
             source, index, column = waiting[code]
             rests = rests_of(column, known) if known.others else []
             if not any(rests):
@@ -37,7 +45,13 @@ def points_of(system, size):
             codes.append(code)
             found.append(column)
         waiting = next_points(system, found, fresh, codes, steps)
+        level += 1
     return Parts(codes, found, known.pivots, links)
+
+
+def place_in_order(numbers):
+    """By what tuples of numbers are ordered, with their code."""
+    return max([int(number) for number in numbers], default=0).bit_length(), code_of(numbers)
 
 
 def tuples_of(points, size):
@@ -45,5 +59,13 @@ def tuples_of(points, size):
 
 
 def rows_between(points, size):
-    """For each digit row, the rows by which what follows the tuples is a combination of the values at them."""
-    return links_solved(Links(points, list(range(1 << size))))
+    """For each tuple, for each digit row, the row by which what follows is a combination of the values at all tuples.
+
+    It is None where that is not told.
+    """
+    columns, divisor = columns_to_solve(points)
+    rows = []
+    for at in range(len(points.codes)):
+        links = [points.links.get((at, index), None) for index in range(1 << size)]
+        rows.append([None if link is None else link_solved(points, link, columns, divisor) for link in links])
+    return rows

@@ -7,12 +7,11 @@ from bitcounts.words import formula
 MOST_FORMULAS = 6
 
 
-def checked_rules(formulas):
-    """The rules of what is passed for one to six formulas."""
+def checked_formulas(formulas):
+    """What is passed for one to six formulas."""
     if not 1 <= len(formulas) <= MOST_FORMULAS:
         raise InvalidValues(None)
-    checked = [formula(value) for value in formulas]
-    return [one.rule for one in checked]
+    return [formula(value) for value in formulas]
 
 
 def parting(f, g):
@@ -23,9 +22,9 @@ def parting(f, g):
 
 def relations(*formulas):
     """For each formula that is a combination of those before it, the integers by which they add up to 0."""
-    return relations_together(checked_rules(formulas))
+    return relations_together(checked_formulas(formulas))
 
 
 def new_tuples(*formulas):
     """The new tuples for these formulas, in their order."""
-    return tuples_together(checked_rules(formulas))
+    return tuples_together([one.rule for one in checked_formulas(formulas)])

@@ -76,6 +76,17 @@ def moved(row, by):
     return tuple([(place + by, top) for place, top in pairs]), bottom
 
 
+def crossed(row, other, size):
+    """The row of the products of both rows' factors; the other row has this many places."""
+    tops = {}
+    for place, top in row[0]:
+        for beside, factor in other[0]:
+            tops[place * size + beside] = top * factor
+    bottom = row[1] * other[1]
+    common = common_divisor([bottom, *list(tops.values())])
+    return tuple([(place, tops[place] // common) for place in tops]), bottom // common
+
+
 def row_sum(row, other):
     """The row of the sums of both rows' factors."""
     bottom = lcm(row[1], other[1])

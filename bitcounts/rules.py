@@ -3,7 +3,7 @@
 from bitcounts.digit_rows import digit_indexes, own_rows, united
 from bitcounts.errors import TooMany
 from bitcounts.limits import TOGETHER
-from bitcounts.rows import applied, fractions, moved
+from bitcounts.rows import applied, crossed, fractions, moved
 from bitcounts.solving import Columns, System, all_columns, least_lines, links_solved
 
 HIGHEST_POWER = 3
@@ -151,18 +151,40 @@ def rows_system(rule):
     return System("rows", list(rule.starts), rule.sides, told_first(rule.starts), None)
 
 
-def multiplied(rule, other):
-    """The least rule of the product."""
+def product_system(rule, other):
+    """The system of the product of two rules that hang on some names, its columns if they are known, and all names."""
     names = united(rule.variables, other.variables)
+    moves = list(zip(widened(rule, names), widened(other, names)))
+    part = told_first(rule.starts), told_first(other.starts)
+    if len(names) < len(rule.variables) + len(other.variables):
+        return System("product", (rule.starts, other.starts), moves, part, None), None, names
+    columns = all_columns(rows_system(rule)), all_columns(rows_system(other))
+    return System("grid", None, moves, part, None), Columns(columns, None, []), names
+
+
+def check_product(rule, other):
+    """The errors of a product that are seen at once."""
+    _ = united(rule.variables, other.variables)
     if len(rule.starts) * len(other.starts) > TOGETHER:
         raise TooMany()
+
+
+def multiplied(rule, other):
+    """The least rule of the product."""
+    check_product(rule, other)
     if not rule.variables:
         return scaled(other, rule.starts[0] if rule.starts else 0)
     if not other.variables:
         return scaled(rule, other.starts[0] if other.starts else 0)
-    moves = list(zip(widened(rule, names), widened(other, names)))
-    part = told_first(rule.starts), told_first(other.starts)
-    if len(names) < len(rule.variables) + len(other.variables):
-        return solved_rule(System("product", (rule.starts, other.starts), moves, part, None), None, names)
-    columns = all_columns(rows_system(rule)), all_columns(rows_system(other))
-    return solved_rule(System("grid", None, moves, part, None), Columns(columns, None, []), names)
+    system, columns, names = product_system(rule, other)
+    return solved_rule(system, columns, names)
+
+
+def product_lines(rule, other):
+    """The names of both, and the sides and values at 0 of the products of the lines of both, the first ones' first."""
+    names = united(rule.variables, other.variables)
+    size = len(other.starts)
+    sides = []
+    for side, beside in zip(widened(rule, names), widened(other, names)):
+        sides.append(tuple([crossed(row, against, size) for row in side for against in beside]))
+    return names, sides, tuple([start * beside for start in rule.starts for beside in other.starts])

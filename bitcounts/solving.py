@@ -173,15 +173,25 @@ def part_behind(kind, part, move):
     return addend, tuple([(by * move[place][0], move[place][1]) for by, place in pairs])
 
 
+def row_values(row, columns):
+    pairs, bottom = row
+    if bottom != 1:
+        return [sum([top * column[place] for place, top in pairs]) // bottom for column in columns]
+    if len(pairs) == 1:
+        place, top = pairs[0]
+        return [top * column[place] for column in columns]
+    return [sum([top * column[place] for place, top in pairs]) for column in columns]
+
+
 def part_values(kind, part, columns):
     """The values of the part at the tuples of the columns."""
     if kind == "rows":
-        return [combined(part, column) for column in columns]
+        return row_values(part, columns)
     if kind == "product":
         return [combined(part[0], column[0]) * combined(part[1], column[1]) for column in columns]
     if kind == "grid":
-        beside = [combined(part[1], column) for column in columns[1]]
-        return [number * other for number in [combined(part[0], column) for column in columns[0]] for other in beside]
+        beside = row_values(part[1], columns[1])
+        return [number * other for number in row_values(part[0], columns[0]) for other in beside]
     addend, pairs = part
     if len(pairs) == 1:
         by, place = pairs[0]
@@ -285,24 +295,28 @@ class Links:
         self.kept = kept
 
 
+def columns_to_solve(parts):
+    """The columns of the inverse of the values of the basic parts, and a divisor for all of them."""
+    rows, divisor = inverse([[vector[place] for place in parts.places] for vector in parts.vectors])
+    return [[row[at] for row in rows] for at in range(len(rows))], divisor
+
+
+def link_solved(parts, link, columns, divisor):
+    """The row by which what follows a part is a combination of the basic ones."""
+    number, vector = link
+    if number is not None:
+        return ((number, 1),), 1
+    told = [vector[place] for place in parts.places]
+    return row_of([sum([n * by for n, by in zip(told, column)]) for column in columns], divisor)
+
+
 def links_solved(links):
     """For each of these digit rows, the rows by which the parts that follow are combinations of the basic ones."""
     parts = links.parts
-    size = len(parts.vectors)
-    rows, divisor = inverse([[vector[place] for place in parts.places] for vector in parts.vectors])
-    columns = [[row[at] for row in rows] for at in range(size)]
-    sides = []
-    for index in links.kept:
-        side = []
-        for at in range(size):
-            number, vector = parts.links[at, index]
-            if number is not None:
-                side.append((((number, 1),), 1))
-                continue
-            told = [vector[place] for place in parts.places]
-            side.append(row_of([sum([n * by for n, by in zip(told, column)]) for column in columns], divisor))
-        sides.append(tuple(side))
-    return tuple(sides)
+    columns, divisor = columns_to_solve(parts)
+    many = range(len(parts.vectors))
+    return tuple([tuple([link_solved(parts, parts.links[at, index], columns, divisor) for at in many])
+                  for index in links.kept])
 
 
 def least_parts(system, known, size):

@@ -1,8 +1,9 @@
 """The least rules of formulas that are added up over all numbers of one of their variables."""
 
 from bitcounts.digit_rows import digit_index, digit_row
+from bitcounts.limits import RANK
 from bitcounts.rows import applied, row_sum
-from bitcounts.rules import constant, minimal_rule, told_first
+from bitcounts.rules import check_product, constant, minimal_rule, multiplied, product_lines, told_first
 
 
 def both_rows(size, place, index):
@@ -23,19 +24,29 @@ def settled(side, starts):
     return sums
 
 
-def summed(rule, name):
-    """The least rule of what is added up over all numbers of the variable, at all but finitely many of which it is 0.
+def summed(rule, other, name):
+    """The least rule of the product of both, added up over all numbers of the variable.
 
-    If nothing hangs on the variable, it is 0 everywhere.
+    It is 0 at all but finitely many of them. If nothing hangs on the variable, it is 0 everywhere. TooMany is raised
+    if the rank of the product is too great.
     """
-    places = [place for place, other in enumerate(rule.variables) if other == name]
-    if not places:
+    check_product(rule, other)
+    if len(rule.starts) * len(other.starts) > RANK:
+        made = multiplied(rule, other)
+        return summed_lines(made.variables, made.sides, made.starts, name)
+    names, sides, starts = product_lines(rule, other)
+    return summed_lines(names, sides, starts, name)
+
+
+def summed_lines(names, sides, starts, name):
+    """The least rule of the first line added up over all numbers of the variable."""
+    places = [place for place, other in enumerate(names) if other == name]
+    if not places or not starts:
         return constant(0)
-    size = len(rule.variables)
-    sides = []
+    size = len(names)
+    added = []
     for index in range(1 << size - 1):
         even, odd = both_rows(size, places[0], index)
-        sides.append(tuple([row_sum(row, beside) for row, beside in zip(rule.sides[even], rule.sides[odd])]))
-    starts = settled(sides[0], rule.starts)
-    names = tuple([other for other in rule.variables if other != name])
-    return minimal_rule(names, sides, starts, told_first(starts))
+        added.append(tuple([row_sum(row, beside) for row, beside in zip(sides[even], sides[odd])]))
+    left = tuple([other for other in names if other != name])
+    return minimal_rule(left, added, settled(added[0], starts), told_first(starts))

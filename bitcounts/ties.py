@@ -3,8 +3,8 @@
 from bitcounts.closures import first_place, reduced
 from bitcounts.digit_rows import united
 from bitcounts.errors import TooMany
-from bitcounts.limits import TOGETHER
-from bitcounts.piles import pile_names, pile_of_integer, pile_value, piled
+from bitcounts.limits import NAMES, TOGETHER
+from bitcounts.piles import most_rank, pile_names, pile_of_integer, pile_value, piled
 from bitcounts.points import points_of, tuples_of
 from bitcounts.rows import moved, shortest
 from bitcounts.rules import same_rules, widened
@@ -94,7 +94,7 @@ def least_small(pile, names):
 def first_failure(lines, factors):
     """The least tuple at which the multiples of the formulas do not add up to 0, None if they always do."""
     size = len(lines.letters)
-    points = points_of(lines.system, size)
+    points = points_of(lines.system, size, None)
     for numbers, values in zip(tuples_of(points, size), points.vectors):
         if sum([factor * head for factor, head in zip(factors, head_values(lines, values))]) != 0:
             return numbers
@@ -116,9 +116,7 @@ def least_failure(summands):
     It is told as pairs for the names of all.
     """
     names = names_together([one.rule for _, one in summands])
-    pile = pile_of_integer(0)
-    for factor, one in summands:
-        pile = piled(pile, one._pile, factor)
+    pile = weighed_sum([one for _, one in summands], [factor for factor, _ in summands])
     numbers = least_small(pile, names)
     if numbers is None and (pile.terms or pile.mixture.parts):
         lines = lines_together([one.rule for _, one in summands])
@@ -129,7 +127,7 @@ def least_failure(summands):
 def tuples_together(rules):
     """The new tuples for the formulas, in their order."""
     lines = lines_together(rules)
-    return tuple(tuples_of(points_of(lines.system, len(lines.letters)), len(lines.letters)))
+    return tuple(tuples_of(points_of(lines.system, len(lines.letters), None), len(lines.letters)))
 
 
 def relation_rows(heads):
@@ -161,7 +159,37 @@ def values_of_heads(lines, columns):
     return [[0 if head is None else column[head] for column in columns] for head in lines.heads]
 
 
-def relations_together(rules):
+def numbers_to_try(names):
+    """Numbers for all these names, at some tuples, small and great ones."""
+    small = [{name: number for name, number in zip(names, numbers)} for numbers in small_tuples(len(names))]
+    return [*small, *[{name: (place + 2) * by for place, name in enumerate(names)} for by in (3, 11, 45)]]
+
+
+def is_nothing(pile):
+    return not pile.terms and not pile.mixture.parts and pile.mixture.constant == 0
+
+
+def weighed_sum(formulas, row):
+    pile = pile_of_integer(0)
+    for factor, one in zip(row, formulas):
+        pile = piled(pile, one._pile, factor)
+    return pile
+
+
+def rows_at_some_tuples(formulas):
+    """The rows by their values at some tuples, None if it is not seen at once that all add up to 0 everywhere."""
+    letters = {name: True for one in formulas for name in pile_names(one._pile)}
+    if len(letters) > NAMES or sum([most_rank(one._pile, False) for one in formulas]) > TOGETHER:
+        return None
+    tried = numbers_to_try(list(letters))
+    rows = relation_rows([[pile_value(one._pile, numbers) for numbers in tried] for one in formulas])
+    return rows if all([is_nothing(weighed_sum(formulas, row)) for row in rows]) else None
+
+
+def relations_together(formulas):
     """The rows by which the formulas add up to 0."""
-    lines = lines_together(rules)
+    rows = rows_at_some_tuples(formulas)
+    if rows is not None:
+        return rows
+    lines = lines_together([one.rule for one in formulas])
     return relation_rows(values_of_heads(lines, all_columns(lines.system)))

@@ -7,7 +7,6 @@ from bitcounts.digit_rows import united
 from bitcounts.errors import NotATest, WrongNames
 from bitcounts.formulas import Formula
 from bitcounts.piles import pile_of_rule
-from bitcounts.rules import multiplied
 from bitcounts.sums import summed
 from bitcounts.words import checked_word, formula, var
 
@@ -29,7 +28,7 @@ def range_below(names, name, bound):
 
 def added_up(one, within, name):
     """The first formula added up over all numbers of the variable where the second one is 1, and not 0."""
-    return Formula(pile_of_rule(summed(multiplied(one.rule, within.rule), name), None))
+    return Formula(pile_of_rule(summed(one.rule, within.rule, name), None))
 
 
 def total(f, name, below):
