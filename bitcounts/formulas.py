@@ -8,6 +8,7 @@ from bitcounts.piles import (
     limited_pile, pile_names, pile_of_integer, pile_of_product, pile_of_rule, pile_rule, pile_value, piled, scaled_pile,
 )
 from bitcounts.rules import HIGHEST_POWER, rule_equations, same_rules
+from bitcounts.ties import is_seen_to_part
 
 
 def formula_operand(operand):
@@ -56,6 +57,12 @@ def power_of(one, exponent):
     for _ in range(exponent - 1):
         result = times(result, one)
     return result
+
+
+def are_same(one, other):
+    """Whether both formulas are the same; most of those that are not are seen by some values."""
+    part = is_seen_to_part(one._pile, other._pile)
+    return part is None or not part and same_rules(one.rule, other.rule)
 
 
 class Formula:
@@ -137,10 +144,10 @@ class Formula:
     def __eq__(self, other):
         if not isinstance(other, Formula):
             return NotImplemented
-        return same_rules(self.rule, other.rule)
+        return are_same(self, other)
 
     def __bool__(self):
-        return bool(self.rule.parts)
+        return not are_same(self, Formula(pile_of_integer(0)))
 
     def __repr__(self):
         return f"Formula({len(self.rule.parts)})"

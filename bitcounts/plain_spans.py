@@ -137,6 +137,8 @@ def adds_to(row, vectors, expected):
         common = lcm(common, bottom)
     shares = [(top * (common // bottom), numbers) for top, bottom, numbers in used]
     found, divided = expected
+    if common == divided == 1 and len(shares) == 1 and shares[0][0] == 1:
+        return found == shares[0][1]
     for at, number in enumerate(found):
         if sum([share * numbers[at] for share, numbers in shares]) * divided != number * common:
             return False
@@ -147,9 +149,10 @@ def row_is_right(row, points, vectors, behind, expected, last):
     """Whether the row tells the values at the tuple `behind`, which are expected, by those at the points."""
     if row is None:
         return last is not None and not is_ahead(behind, last)
-    for point, (top, _) in zip(points, row):
-        if top != 0 and is_ahead(behind, point):
-            return False
+    # The points are in order, so that the last one that is used is looked at.
+    used = [point for point, (top, _) in zip(points, row) if top != 0]
+    if used and is_ahead(behind, used[-1]):
+        return False
     return adds_to(row, vectors, expected)
 
 

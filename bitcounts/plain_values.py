@@ -28,9 +28,12 @@ def is_state(value, many):
 
 
 def is_fraction(value):
-    if not is_tuple_of(value, 2) or not is_integer(value[0]) or not is_integer(value[1]):
+    if not isinstance(value, tuple) or len(value) != 2:
         return False
-    return value[1] >= 1 and gcd(value[0], value[1]) == 1
+    top, bottom = value
+    if not isinstance(top, int) or not isinstance(bottom, int) or isinstance(top, bool) or isinstance(bottom, bool):
+        return False
+    return bottom == 1 or bottom > 1 and gcd(top, bottom) == 1
 
 
 def is_row(value, many):

@@ -91,6 +91,19 @@ def least_small(pile, names):
     return None
 
 
+def is_nothing(pile):
+    return not pile.terms and not pile.mixture.parts and pile.mixture.constant == 0
+
+
+def is_seen_to_part(pile, other):
+    """Whether two piles differ at one of the least tuples; they are the same if None is returned."""
+    difference = piled(pile, other, -1)
+    if is_nothing(difference):
+        return None
+    names = pile_names(difference)
+    return len(names) <= NAMES and least_small(difference, names) is not None
+
+
 def first_failure(lines, factors):
     """The least tuple at which the multiples of the formulas do not add up to 0, None if they always do."""
     size = len(lines.letters)
@@ -163,10 +176,6 @@ def numbers_to_try(names):
     """Numbers for all these names, at some tuples, small and great ones."""
     small = [{name: number for name, number in zip(names, numbers)} for numbers in small_tuples(len(names))]
     return [*small, *[{name: (place + 2) * by for place, name in enumerate(names)} for by in (3, 11, 45)]]
-
-
-def is_nothing(pile):
-    return not pile.terms and not pile.mixture.parts and pile.mixture.constant == 0
 
 
 def weighed_sum(formulas, row):

@@ -7,7 +7,7 @@ from bitcounts.conditions import Test
 from bitcounts.digit_rows import united
 from bitcounts.errors import NotAFormula, NotAVariable, NotAWord
 from bitcounts.evaluations import mixture_value
-from bitcounts.formulas import Formula, times, power_of
+from bitcounts.formulas import Formula, are_same, power_of, times
 from bitcounts.limits import NAMES, RANK
 from bitcounts.machines import opposite
 from bitcounts.mixed_rules import mixture_system, word_rule
@@ -18,7 +18,7 @@ from bitcounts.pairings import joined_mixtures
 from bitcounts.piles import Pile, pile_of_rule
 from bitcounts.readings import below_zero, equal_to_zero, machine_of, with_rest
 from bitcounts.rules import (
-    added, is_variable, rule_equations, same_rules, scaled, side_by_side, told_both, told_first,
+    added, is_variable, rule_equations, scaled, side_by_side, told_both, told_first,
 )
 from bitcounts.solving import some_columns
 from bitcounts.verdicts import compared, rest_machine
@@ -75,6 +75,16 @@ def joint_lag(one, other):
     if not one.names:
         return mixture_lag(other._mixture)
     return max([int(mixture_lag(one._mixture)), int(mixture_lag(other._mixture))])
+
+
+def name_of_variable(one):
+    """The name of the variable to which the word is equal, None if it is equal to none."""
+    parts = one._mixture.parts
+    if len(parts) == 1 and parts[0][0] == 1 and one._mixture.constant == 0 and parts[0][1].shape is not None:
+        sign, name, times_halved = parts[0][1].shape[:3]
+        if sign == "name" and times_halved == 0:
+            return name
+    return one.rule.variables[0] if is_variable(one.rule) else None
 
 
 def sum_of(one, other, factor):
@@ -256,9 +266,9 @@ class Word:
         if not is_integer(other):
             return NotImplemented
         check_within(other, 0, GREATEST_SHIFT_BACK)
-        if not is_variable(self.rule):
+        name = name_of_variable(self)
+        if name is None:
             raise NotAVariable(self)
-        name = self.rule.variables[0]
         return Word(Mixture(0, ((1, halved_atom(name, other) if other else variable_atom(name)),)))
 
     def __lt__(self, other):
@@ -288,10 +298,10 @@ class Word:
     def __eq__(self, other):
         if not isinstance(other, (Formula, Word)):
             return NotImplemented
-        return same_rules(self.rule, other.rule)
+        return are_same(formula(self), formula(other))
 
     def __bool__(self):
-        return bool(self.rule.parts)
+        return bool(formula(self))
 
     def __repr__(self):
         return f"Word({len(self.rule.parts)})"
