@@ -174,15 +174,19 @@ def pairs_of(machine, other, names, table):
     found = [start + start_beside if start + start_beside < many else many]
     seen = {found[0]: True}
     rows = []
+    settling = [any([code >= many for code in row]) for row in first]
+    settling_beside = [any([code >= many for code in row]) for row in second]
     while len(rows) < len(found):
         code = found[len(rows)]
         if code == many:
             rows.append([many for _ in own])
             continue
-        row = [way + ahead if way + ahead < many else many
-               for way, ahead in zip(first[code // size], second[code % size])]
+        state, against = code // size, code % size
+        row = [way + ahead for way, ahead in zip(first[state], second[against])]
+        if settling[state] or settling_beside[against]:
+            row = [follower if follower < many else many for follower in row]
         rows.append(row)
-        for follower in row:
+        for follower in [then for then in row if then not in seen]:
             if follower not in seen:
                 seen[follower] = True
                 found.append(follower)
