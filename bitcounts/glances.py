@@ -9,6 +9,7 @@ from bitcounts.digit_rows import own_rows
 from bitcounts.errors import TooMany
 from bitcounts.limits import RANK
 from bitcounts.rows import applied, row_behind
+from bitcounts.solving import moved_column, part_behind, part_values
 
 PRIME = 2 ** 61 - 1
 # With no more lines than these, all is worked out as soon as a glance is taken.
@@ -83,14 +84,14 @@ def rows_to_try(spans):
     return rows
 
 
-def part_behind(part, spelling, index):
+def spelled_behind(part, spelling, index):
     """The part of a part (state, places, low), which is the number low and 2 ** places times the state."""
     state, places, low = part
     follower, factor, digit = spelling.steps[state][index]
     return follower, places + factor - 1, low + (digit << places)
 
 
-def part_values(part, spelling, rows):
+def spelled_values(part, spelling, rows):
     state, places, low = part
     return [(number << places) + low for number in applied(rows, spelling.worths[state])]
 
@@ -114,15 +115,35 @@ def look_at_rank(kind, first, second, names):
     while at < len(waiting):
         part, other = waiting[at]
         at += 1
-        values, values_beside = part_values(part, first, rows), part_values(other, second, rows_beside)
+        values, values_beside = spelled_values(part, first, rows), spelled_values(other, second, rows_beside)
         made = [worth(kind, number, against) % PRIME for number, against in zip(values, values_beside)]
         rest = reduced_modulo(made, echelon)
         places = [place for place, number in enumerate(rest) if number != 0]
         if places:
             echelon.append((places[0], rest))
             waiting.extend([
-                (part_behind(part, first, index), part_behind(other, second, against))
+                (spelled_behind(part, first, index), spelled_behind(other, second, against))
                 for index, against in zip(own, beside)
             ])
         if len(echelon) > RANK:
             raise TooMany()
+
+
+def look_at_line(system):
+    """TooMany is raised if some parts of a formula of one name, told by integer lines, show that its rank is too great.
+
+    The parts of ever more lowest zeros are compared at the powers of two, and at a few tuples of mixed digits.
+    """
+    columns = [moved_column(system.kind, system.first, system.moves[1])]
+    for at in range(RANK + 6):
+        columns.append(moved_column(system.kind, columns[-1], system.moves[0 if at < RANK + 2 else at & 1]))
+    part = system.part
+    echelon = []
+    for _ in range(RANK + 4):
+        rest = reduced_modulo([number % PRIME for number in part_values(system.kind, part, columns)], echelon)
+        places = [place for place, number in enumerate(rest) if number != 0]
+        if places:
+            echelon.append((places[0], rest))
+        if len(echelon) > RANK:
+            raise TooMany()
+        part = part_behind(system.kind, part, system.moves[0])

@@ -2,6 +2,7 @@
 
 from bitcounts.digit_rows import digit_indexes
 from bitcounts.evaluations import mixture_value
+from bitcounts.glances import look_at_line
 from bitcounts.limits import RANK
 from bitcounts.machines import holds_at, same_machines
 from bitcounts.measuring import measured_numbers
@@ -13,6 +14,8 @@ from bitcounts.rules import (
 from bitcounts.solving import some_columns, told_apart
 
 MOST_TERMS = 6
+# With more states than these most ranks of what is measured of words of one name are too great.
+MANY_LINES = 21
 DEEPEST = 6
 
 
@@ -125,6 +128,8 @@ def pile_of_system(system, names, shape):
     lines = len(told_apart(system, system.first))
     if lines <= RANK:
         return pile_of_shape(Source(system, None, names), names, lines, shape, 0)
+    if len(names) == 1 and len(system.first) > MANY_LINES:
+        look_at_line(system)
     known = some_columns(system)
     if known.waiting or len(known.found) > RANK:
         return pile_of_rule(solved_rule(system, known, names), shape)

@@ -8,6 +8,7 @@ from bitcounts.digit_rows import united
 from bitcounts.errors import NotAFormula, NotAVariable, NotAWord
 from bitcounts.evaluations import mixture_value
 from bitcounts.formulas import Formula, are_same, power_of, times
+from bitcounts.glances import look_at_line
 from bitcounts.limits import NAMES, RANK
 from bitcounts.machines import opposite
 from bitcounts.mixed_rules import mixture_system, word_rule
@@ -24,6 +25,8 @@ from bitcounts.solving import some_columns
 from bitcounts.verdicts import compared, rest_machine
 
 GREATEST_WORD = 10 ** 6
+# With more lines than these most ranks of words of one name are too great.
+MANY_LINES = 17
 GREATEST_FACTOR = 16
 GREATEST_SHIFT = 8
 GREATEST_SHIFT_BACK = 4
@@ -49,7 +52,11 @@ def within_rank(mixture):
     """The word; TooMany is raised if its rank is greater than 16."""
     if many_lines(mixture) <= RANK:
         return Word(mixture)
-    columns = some_columns(mixture_system(mixture, mixture_names(mixture)))
+    names = mixture_names(mixture)
+    system = mixture_system(mixture, names)
+    if len(names) == 1 and many_lines(mixture) > MANY_LINES:
+        look_at_line(system)
+    columns = some_columns(system)
     if not columns.waiting and len(mixture.parts) == 1:
         by, atom = mixture.parts[0]
         mixture = Mixture(mixture.constant, ((by, narrowed(atom, len(columns.found))),))

@@ -3,10 +3,13 @@
 import unittest
 
 from bitcounts.errors import TooMany
-from bitcounts.glances import PRIME, look_at_rank, rows_to_try, tuples_to_try, worth
+from bitcounts.glances import PRIME, look_at_line, look_at_rank, rows_to_try, tuples_to_try, worth
+from bitcounts.mixed_rules import measured_system, mixture_system
 from bitcounts.mixtures import mixture_lag
+from bitcounts.pairings import joined_mixtures
 from bitcounts.rows import applied, row_behind
 from bitcounts.spellings import spelled
+from bitcounts.walks import spelt
 from bitcounts.words import var, word
 from tests.brute import all_points
 from tests.support import raised
@@ -92,6 +95,19 @@ class Glances(unittest.TestCase):
                                  ("&", M, word(65535)), ("^", M << 8, 3 * N)):
             names = tuple(sorted({*one.names, *other.names}))
             raised(self, TooMany, look_at_rank, kind, spelling(one), spelling(other), names)
+
+    def test_lines_of_one_name(self):
+        for one in (M ^ 5, 3 * M - 7, M + 10 ** 6, M & 32767):
+            self.assertIsNone(look_at_line(mixture_system(one._mixture, one.names)))
+        for number in (2 ** 17 - 1, 10 ** 6, 2 ** 19 + 2 ** 3):
+            for sign in "&|^":
+                mixture = joined_mixtures(sign, M._mixture, word(number)._mixture)
+                raised(self, TooMany, look_at_line, mixture_system(mixture, ("m",)))
+        for kind in ("ones", "length", 2, -1):
+            small, great = spelt((M + 35)._mixture, 99), spelt((M + 999999)._mixture, 99)
+            self.assertIsNone(look_at_line(measured_system(kind, small)))
+            if kind != -1:
+                raised(self, TooMany, look_at_line, measured_system(kind, great))
 
 
 if __name__ == "__main__":
