@@ -3,7 +3,7 @@
 from bitcounts.digit_rows import own_rows
 from bitcounts.marking import marks_of
 from bitcounts.mixtures import is_bulky, mixture_names
-from bitcounts.rules import constant, solved_rule
+from bitcounts.rules import Block, constant, solved_rule
 from bitcounts.solving import System
 
 
@@ -64,3 +64,19 @@ def measured_system(kind, spelling):
         moves.append([(1, 0, 0), *line_move(spelling.steps, 1, index)])
     part = spelling.low, ((1 << spelling.known, 1),)
     return System(kind, [1, *spelling.starts], moves, part, marks_of(kind, spelling))
+
+
+def row_of_line(line):
+    """The row of a line by its factor, place and addend; 1 is the first line."""
+    factor, place, addend = line
+    return (((0, addend), (place, factor)) if addend else ((place, factor),)), 1
+
+
+def mixture_block(mixture):
+    """The lines of a mixture, with rows of fractions."""
+    names = mixture_names(mixture)
+    system = mixture_system(mixture, names)
+    sides = [[row_of_line(line) for line in move] for move in system.moves]
+    addend, pairs = system.part
+    told = [(place, factor) for factor, place in pairs]
+    return Block(names, sides, system.first, [(0, addend), *told] if addend else told)

@@ -6,10 +6,11 @@ from bitcounts.glances import look_at_line
 from bitcounts.limits import RANK
 from bitcounts.machines import holds_at, same_machines
 from bitcounts.measuring import measured_numbers
-from bitcounts.mixed_rules import mixture_rule
+from bitcounts.mixed_rules import mixture_block, mixture_rule
 from bitcounts.mixtures import Mixture, many_lines, mixed, mixture_names, same_mixtures, scaled_mixture
 from bitcounts.rules import (
-    Rule, check_product, multiplied, product_system, rule_value, same_rules, scaled, solved_rule, sum_system,
+    Rule, check_product, multiplied, product_system, rule_block, rule_value, same_rules, scaled, solved_rule,
+    sum_system,
 )
 from bitcounts.solving import some_columns, told_apart
 
@@ -189,8 +190,10 @@ def pile_rule(pile):
 
 def pile_system(pile):
     """The system of the sum of the terms and the mixture, and all names."""
-    summands = [(by, term.told) for by, term in pile.terms]
-    return sum_system([*summands, (1, mixture_rule(pile.mixture))])
+    blocks = [rule_block(term.told, by) for by, term in pile.terms]
+    if pile.mixture.parts or pile.mixture.constant:
+        return sum_system([*blocks, mixture_block(pile.mixture)])
+    return sum_system(blocks)
 
 
 def limited_pile(pile):

@@ -121,21 +121,35 @@ def added(rule, other):
     return minimal_rule(names, sides, starts, told_both(rule, other, 1))
 
 
-def sum_system(summands):
-    """The system of the sum of multiples, pairs of factor and rule, and the names of all."""
+class Block:
+    """Lines for the digit rows of some names, their values at 0, and what is told of them, by place and factor."""
+
+    def __init__(self, names, sides, starts, pairs):
+        self.letters = names
+        self.moves = sides
+        self.starts = starts
+        self.part = pairs
+
+
+def rule_block(rule, factor):
+    """The lines of so many times the formula with this rule."""
+    return Block(rule.variables, rule.sides, rule.starts, ((0, factor),) if rule.starts else ())
+
+
+def sum_system(blocks):
+    """The system of the sum of what is told of the lines of all blocks, and the names of all."""
     names = ()
-    for _, rule in summands:
-        names = united(names, rule.variables)
+    for block in blocks:
+        names = united(names, block.letters)
     sides = [[] for _ in range(1 << len(names))]
     told = []
     size = 0
-    for factor, rule in summands:
-        for index, side in enumerate(widened(rule, names)):
-            sides[index] = [*sides[index], *[moved(row, size) for row in side]]
-        if rule.starts:
-            told.append((size, factor))
-        size = size + len(rule.starts)
-    starts = [start for _, rule in summands for start in rule.starts]
+    for block in blocks:
+        for index, own in enumerate(own_rows(block.letters, names)):
+            sides[index] = [*sides[index], *[moved(row, size) for row in block.moves[own]]]
+        told.extend([(place + size, factor) for place, factor in block.part])
+        size = size + len(block.starts)
+    starts = [start for block in blocks for start in block.starts]
     return System("rows", starts, sides, (tuple(told), 1), None), names
 
 

@@ -89,6 +89,15 @@ class Limits(unittest.TestCase):
                 except TooMany:
                     self.assertGreater(number, 20)
 
+    def test_sums_whose_words_alone_would_be_too_great(self):
+        one, other = M & 0b1011011, N & 0b1101101
+        sign = power(-1, M + N)
+        beside, against = formula(-one) * sign * sign, formula(-other) * sign * sign
+        for first in (formula(one) + beside, formula(one) + 2 * beside + one):
+            for second in (formula(other) + against, formula(other) + 3 * against + 2 * other):
+                self.assertEqual(first + second, formula(0))
+        self.assertEqual(formula(one) + formula(other) + beside + against + ones(M), ones(M))
+
     def test_just_at_the_limit(self):
         great = M & 2 ** 14
         self.assertEqual(great.rank, 16)
