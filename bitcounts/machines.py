@@ -174,8 +174,8 @@ def pairs_of(machine, other, names, table):
     found = [start + start_beside if start + start_beside < many else many]
     seen = {found[0]: True}
     rows = []
-    settling = [any([code >= many for code in row]) for row in first]
-    settling_beside = [any([code >= many for code in row]) for row in second]
+    settling = [any([way >= many for way in row]) for row in first]
+    settling_beside = [any([way >= many for way in row]) for row in second]
     while len(rows) < len(found):
         code = found[len(rows)]
         if code == many:

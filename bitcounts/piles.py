@@ -116,8 +116,8 @@ def shape_names(shape):
 
 def pile_of_shape(source, names, most, shape, deep):
     """The pile of a single term."""
-    letters = sorted([str(name) for name in {name: True for name in (*names, *shape_names(shape))}])
-    return Pile(Mixture(0, ()), ((1, Term(source, tuple(letters), most, shape, deep)),))
+    letters = {name: True for name in (*names, *shape_names(shape))}
+    return Pile(Mixture(0, ()), ((1, Term(source, tuple(sorted([str(name) for name in letters])), most, shape, deep)),))
 
 
 def pile_of_rule(rule, shape):

@@ -30,8 +30,8 @@ def whole_side(side, by):
     """The rows of the side with whole factors, their places moved on, and what all of them are to be divided by."""
     bottom = 1
     for row in side:
-        for _, below in row:
-            bottom = lcm(bottom, below)
+        for fraction in row:
+            bottom = lcm(bottom, fraction[1])
     rows = [[(at + by, top * (bottom // below)) for at, (top, below) in enumerate(row) if top != 0] for row in side]
     return rows, bottom
 

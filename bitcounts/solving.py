@@ -166,9 +166,9 @@ def part_behind(kind, part, move):
         return row_behind(part[0], move[0]), row_behind(part[1], move[1])
     addend, pairs = part
     if len(pairs) == 1:
-        by, place = pairs[0]
-        factor, follower, more = move[place]
-        return addend + by * more, ((by * factor, follower),)
+        own, first = pairs[0]
+        factor, follower, more = move[first]
+        return addend + own * more, ((own * factor, follower),)
     addend = addend + sum([by * move[place][2] for by, place in pairs])
     return addend, tuple([(by * move[place][0], move[place][1]) for by, place in pairs])
 
@@ -178,8 +178,8 @@ def row_values(row, columns):
     if bottom != 1:
         return [sum([top * column[place] for place, top in pairs]) // bottom for column in columns]
     if len(pairs) == 1:
-        place, top = pairs[0]
-        return [top * column[place] for column in columns]
+        first, factor = pairs[0]
+        return [factor * column[first] for column in columns]
     return [sum([top * column[place] for place, top in pairs]) for column in columns]
 
 
@@ -194,8 +194,8 @@ def part_values(kind, part, columns):
         return [number * other for number in row_values(part[0], columns[0]) for other in beside]
     addend, pairs = part
     if len(pairs) == 1:
-        by, place = pairs[0]
-        numbers = [addend + by * column[place] for column in columns]
+        factor, first = pairs[0]
+        numbers = [addend + factor * column[first] for column in columns]
     else:
         numbers = [addend + sum([by * column[place] for by, place in pairs]) for column in columns]
     return numbers if kind == "sum" else measured_numbers(kind, numbers)
@@ -274,8 +274,8 @@ def inverse(matrix):
     rows = [[*row, *[int(at == place) for place in range(many)]] for at, row in enumerate(matrix)]
     for at in range(many):
         if rows[at][at] == 0:
-            beside = [place for place in range(at + 1, many) if rows[place][at] != 0][0]
-            rows[at], rows[beside] = rows[beside], rows[at]
+            other = [place for place in range(at + 1, many) if rows[place][at] != 0][0]
+            rows[at], rows[other] = rows[other], rows[at]
         pivot = shortest(rows[at])
         bottom = pivot[at]
         rows = [row if row[at] == 0 else [bottom * number - row[at] * beside for number, beside in zip(row, pivot)]

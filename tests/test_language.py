@@ -20,6 +20,7 @@ SPECIAL = {f"__{name}__" for name in """init eq repr str len enter exit call ite
     contains getitem setitem""".split()}
 BARRED_NODES = (ast.AsyncFunctionDef, ast.AsyncFor, ast.AsyncWith, ast.Await, ast.Global, ast.Div, ast.MatMult,
                 ast.GeneratorExp, ast.Set, ast.SetComp, ast.AnnAssign, ast.Delete, ast.Lambda)
+COMPREHENSIONS = (ast.ListComp, ast.DictComp)
 BARRED_WORDS = set("""register mro elements open input law version_info with_traceback add_note type typing enum Enum
     Flag Generic Protocol ABC namedtuple NamedTuple eval exec compile globals locals vars id exit hash""".split())
 # What properties keep as they have worked it out, by the class that has the attribute.
@@ -169,6 +170,32 @@ class Names(unittest.TestCase):
         for name, node in nodes(ast.Call):
             if isinstance(node.func, ast.Attribute):
                 self.assertNotIn(node.func.attr, attributes, (name, node.lineno))
+
+
+def inner_comprehensions(node, outer):
+    """All comprehensions within others, each with the names of those around it."""
+    found = []
+    for child in ast.iter_child_nodes(node):
+        if isinstance(child, COMPREHENSIONS):
+            own = {name.id for part in child.generators for name in ast.walk(part.target) if isinstance(name, ast.Name)}
+            found.extend([(child, own, outer)] if outer else [])
+            found.extend(inner_comprehensions(child, outer | own))
+        else:
+            found.extend(inner_comprehensions(child, outer))
+    return found
+
+
+class Comprehensions(unittest.TestCase):
+    def test_names_within_others(self):
+        for name, function in functions():
+            inner = inner_comprehensions(function, set())
+            within = {id(node) for child in ast.walk(function) if isinstance(child, COMPREHENSIONS)
+                      for node in ast.walk(child)}
+            assigned = {node.id for node in ast.walk(function) if isinstance(node, ast.Name)
+                        and isinstance(node.ctx, ast.Store) and id(node) not in within}
+            assigned |= {argument.arg for argument in function.args.args}
+            for child, own, outer in inner:
+                self.assertEqual(own & (outer | assigned), set(), (name, function.name, child.lineno))
 
 
 class Statements(unittest.TestCase):
