@@ -56,7 +56,8 @@ def leading_in(ways):
     free = [at for at, many in enumerate(sources) if many == 0]
     at = 0
     while at < len(free):
-        for follower in ways[free[at]]:
+        way = ways[free[at]]
+        for follower in way:
             sources[follower] = sources[follower] - 1
             if sources[follower] == 0:
                 free.append(follower)
@@ -136,7 +137,8 @@ def least_machine(names, ways, marks, groups):
     links = []
     while len(links) < len(found):
         row = []
-        for follower in ways[found[len(links)]]:
+        way = ways[found[len(links)]]
+        for follower in way:
             if groups[follower] not in places:
                 places[groups[follower]] = len(found)
                 found.append(follower)
@@ -186,7 +188,8 @@ def pairs_of(machine, other, names, table):
         if settling[state] or settling_beside[against]:
             row = [follower if follower < many else many for follower in row]
         rows.append(row)
-        for follower in [then for then in row if then not in seen]:
+        fresh = [then for then in row if then not in seen]
+        for follower in fresh:
             if follower not in seen:
                 seen[follower] = True
                 found.append(follower)

@@ -59,7 +59,8 @@ def with_rest(modulus, rest):
     turns = []
     while len(turns) < len(found):
         turn = []
-        for state in rests_behind(found[len(turns)]):
+        behind = rests_behind(found[len(turns)])
+        for state in behind:
             if state not in places:
                 places[state] = len(found)
                 found.append(state)
