@@ -4,11 +4,11 @@ from bitcounts.checks import check_within
 from bitcounts.conditions import Test
 from bitcounts.errors import NotATest
 from bitcounts.formulas import Formula
-from bitcounts.measures import bulky_measure, held_rule
+from bitcounts.measures import bulky_measure
 from bitcounts.measuring import measured_numbers
 from bitcounts.mixed_rules import measured_system, word_rule
 from bitcounts.mixtures import is_bulky, mixture_lag, simplest
-from bitcounts.piles import pile_of_integer, pile_of_rule, pile_of_system
+from bitcounts.piles import pile_of_integer, pile_of_machine, pile_of_rule, pile_of_system
 from bitcounts.walks import spelt
 from bitcounts.words import checked_word
 
@@ -53,4 +53,4 @@ def one_if(t):
     """The formula that is 1 where the test holds, 0 elsewhere."""
     if not isinstance(t, Test):
         raise NotATest(t)
-    return Formula(pile_of_rule(held_rule(t._machine), ("held", t._machine)))
+    return Formula(pile_of_machine(t._machine))

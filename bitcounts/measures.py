@@ -91,13 +91,3 @@ def bulky_measure(kind, rule, lag):
         sides, starts = lines_of_zero(rule, lag)
         return minimal_rule(rule.variables, sides, starts, told_first(starts))
     return measured(power_measure(kind), rule, lag, kind)
-
-
-def held_rule(machine):
-    """The least rule of what is 1 where the test of the machine holds, 0 elsewhere."""
-    sides = []
-    for index in range(len(machine.ways[0])):
-        sides.append([(((row[index], 1),), 1) for row in machine.ways])
-    starts = [int(mark) for mark in machine.marks]
-    # All lines are parts of the first one here, so the rank is the number of those that are no combinations.
-    return minimal_rule(machine.variables, sides, starts, told_first(starts))

@@ -1,6 +1,7 @@
 """Piles: sums of a mixture and of multiples of terms, which all formulas are."""
 
 from bitcounts.digit_rows import digit_indexes
+from bitcounts.errors import TooMany
 from bitcounts.evaluations import mixture_value
 from bitcounts.glances import look_at_line
 from bitcounts.limits import RANK
@@ -12,7 +13,7 @@ from bitcounts.rules import (
     Rule, check_product, multiplied, product_system, rule_block, rule_value, same_rules, scaled, solved_rule,
     sum_system,
 )
-from bitcounts.solving import some_columns, told_apart
+from bitcounts.solving import SOME_LINES, System, some_columns, told_apart
 
 MOST_TERMS = 6
 # With more states than these most ranks of what is measured of words of one name are too great.
@@ -86,6 +87,27 @@ def pile_of_product(rule, other, pile, beside):
         return pile_of_shape(made, made.variables, len(made.starts), shape, deep if shape else 0)
     system, columns, names = product_system(rule, other)
     return pile_of_shape(Source(system, columns, names), names, most, shape, deep if shape else 0)
+
+
+def held_system(machine, kind):
+    """The system of what is 1 where the test of the machine holds, 0 elsewhere; its lines are the classes."""
+    moves = []
+    for index in range(len(machine.ways[0])):
+        moves.append([(1, way[index], 0) for way in machine.ways])
+    return System(kind, [int(mark) for mark in machine.marks], moves, (0, ((1, 0),)), None)
+
+
+def pile_of_machine(machine):
+    """The pile of what is 1 where the test of the machine holds, 0 elsewhere; TooMany is raised as for all ranks."""
+    # All lines are parts of the first one here, so the rank is the number of columns.
+    if len(machine.marks) > SOME_LINES and len(some_columns(held_system(machine, "some")).found) > RANK:
+        raise TooMany()
+    system = held_system(machine, "sum")
+    known = some_columns(system)
+    if len(known.found) > RANK:
+        raise TooMany()
+    names = machine.variables
+    return pile_of_shape(Source(system, known, names), names, len(known.found), ("held", machine), 0)
 
 
 class Pile:

@@ -21,6 +21,8 @@ from math import lcm
 # before it is looked at again.
 SOME = 24
 MORE = 2
+# How many lines are looked at where some of them will do.
+SOME_LINES = 40
 # How far apart the numbers of a tuple stand in its code; the order of codes is that of tuples.
 WIDTH = 80
 
@@ -28,7 +30,8 @@ WIDTH = 80
 class System:
     """What tells a formula: its `kind`, the column at 0, the moves for each digit row, and its first part.
 
-    The kind is "rows" for fraction lines, and for integer lines "sum" or what is measured of their sums. What is
+    The kind is "rows" for fraction lines, and for integer lines "sum", "some" if only some of them are to be looked
+    at, or what is measured of their sums. What is
     measured hangs on the `marks` of lines besides, as `lines_measured` takes them. For a "product" of two formulas
     there are pairs of columns, moves and parts; for a "grid", whose names are different ones, a pair of lists of
     columns, each of the one belonging to each of the other.
@@ -104,6 +107,8 @@ def told_apart(system, column):
     """The numbers by which columns are told apart."""
     if system.kind == "rows" or system.kind == "sum":
         return column
+    if system.kind == "some":
+        return column[:SOME_LINES]
     if system.kind == "product":
         return [number * beside for number in column[0] for beside in column[1]]
     return lines_measured(system.kind, column, system.marks)
