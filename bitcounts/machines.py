@@ -147,68 +147,79 @@ def least_machine(names, ways, marks, groups):
     return without_idle(names, links, [marks[at] for at in found])
 
 
-def settled_ways(ways, marks, table, rows, factor, code):
-    """For each state those that follow, times the factor, by these digit rows; or the code of what is settled.
+def settled_states(machine, table):
+    """The states that hold or do not hold wherever they come up, if the table's row for that says the same for both."""
+    if not table:
+        return {}
+    found = {}
+    for state, (way, mark) in enumerate(zip(machine.ways, machine.marks)):
+        row = table[int(mark)]
+        if row[0] == row[1] and all([follower == state for follower in way]):
+            found[state] = True
+    return found
 
-    That is settled where a state holds or does not hold wherever it comes up, if the table's row for it says the same
-    whether the other machine's state holds or not.
+
+class Pairs:
+    """The pairs of states, one of each of two machines, that come of the first ones.
+
+    The code of a pair is that of the second state and the first one times how many there are of the second; that of
+    all pairs that are settled is the product of both numbers. `codes` are those that come up, as they come, `rows`
+    has for each of them the codes that follow it, and `places` the place of each code.
     """
-    told = [factor * state for state in range(len(ways))]
-    for state, (way, mark) in enumerate(zip(ways, marks)):
-        if table and table[int(mark)][0] == table[int(mark)][1] and all([follower == state for follower in way]):
-            told[state] = code
-    return [[told[way[index]] for index in rows] for way in ways], told[0]
+
+    def __init__(self, codes, rows, places):
+        self.codes = codes
+        self.rows = rows
+        self.places = places
 
 
 def pairs_of(machine, other, names, table):
-    """The codes of the pairs of states that come of the first ones, and the codes of those that follow them.
+    """The pairs that come up; by the table, those are settled by one state for which the other one does not matter.
 
-    The code of a pair is that of the second state and the first one times how many there are of the second. The code
-    of all pairs that are settled is the product of both numbers. If there is no table, none are settled, and
-    TooManyClasses is raised if there are more than 4096 pairs.
+    If there is no table, none are settled, and TooManyClasses is raised if there are more than 4096 pairs.
     """
     own, beside = own_rows(machine.variables, names), own_rows(other.variables, names)
     size = len(other.marks)
     many = size * len(machine.marks)
-    swapped = tuple(zip(table[0], table[1])) if table else None
-    first, start = settled_ways(machine.ways, machine.marks, table, own, size, many)
-    second, start_beside = settled_ways(other.ways, other.marks, swapped, beside, 1, many)
-    found = [start + start_beside if start + start_beside < many else many]
-    seen = {found[0]: True}
+    first = [[way[index] * size for index in own] for way in machine.ways]
+    second = [[way[index] for index in beside] for way in other.ways]
+    settled = settled_states(machine, table)
+    settled_beside = settled_states(other, tuple(zip(table[0], table[1])) if table else None)
+    codes = [many if 0 in settled or 0 in settled_beside else 0]
+    places = {0: 0, codes[0]: 0}
     rows = []
-    settling = [any([way >= many for way in row]) for row in first]
-    settling_beside = [any([way >= many for way in row]) for row in second]
-    while len(rows) < len(found):
-        code = found[len(rows)]
+    while len(rows) < len(codes):
+        code = codes[len(rows)]
         if code == many:
             rows.append([many for _ in own])
             continue
-        state, against = code // size, code % size
-        row = [way + ahead for way, ahead in zip(first[state], second[against])]
-        if settling[state] or settling_beside[against]:
-            row = [follower if follower < many else many for follower in row]
+        row = [way + ahead for way, ahead in zip(first[code // size], second[code % size])]
         rows.append(row)
-        fresh = [then for then in row if then not in seen]
+        fresh = [then for then in row if then not in places]
         for follower in fresh:
-            if follower not in seen:
-                seen[follower] = True
-                found.append(follower)
-        if not table and len(found) > GREATEST_PAIRS:
+            if follower // size in settled or follower % size in settled_beside:
+                if many not in places:
+                    places[many] = len(codes)
+                    codes.append(many)
+                places[follower] = places[many]
+            elif follower not in places:
+                places[follower] = len(codes)
+                codes.append(follower)
+        if not table and len(codes) > GREATEST_PAIRS:
             raise TooManyClasses()
-    return found, rows
+    return Pairs(codes, rows, places)
 
 
 def paired(machine, other, names):
     """The pairs of states, one of each machine, that come of the first ones, and those that follow them."""
     size = len(other.marks)
-    codes, rows = pairs_of(machine, other, names, None)
-    return [(code // size, code % size) for code in codes], linked(codes, rows)
+    pairs = pairs_of(machine, other, names, None)
+    return [(code // size, code % size) for code in pairs.codes], linked(pairs)
 
 
-def linked(codes, rows):
-    """The rows with the places of the codes in their stead."""
-    places = {code: place for place, code in enumerate(codes)}
-    return [[places[code] for code in row] for row in rows]
+def linked(pairs):
+    """For each pair the places of those that follow."""
+    return [[pairs.places[code] for code in row] for row in pairs.rows]
 
 
 def joined_marks(machine, other, codes, table):
@@ -226,13 +237,13 @@ def joined(machine, other, table):
     if len(machine.marks) * len(other.marks) > GREATEST_PAIRS:
         # All pairs are to be counted, also those that are settled.
         _ = pairs_of(machine, other, names, None)
-    codes, rows = pairs_of(machine, other, names, table)
-    marks = joined_marks(machine, other, codes, table)
+    pairs = pairs_of(machine, other, names, table)
+    marks = joined_marks(machine, other, pairs.codes, table)
     if not any(marks):
         return never()
     if all(marks):
         return everywhere()
-    ways = linked(codes, rows)
+    ways = linked(pairs)
     return least_machine(names, ways, marks, grouped(ways, marks))
 
 
@@ -243,8 +254,8 @@ def opposite(machine):
 def is_within(machine, other):
     """Whether the other one holds wherever the first one does."""
     names = united(machine.variables, other.variables)
-    codes, _ = pairs_of(machine, other, names, ONLY_IF)
-    return all(joined_marks(machine, other, codes, ONLY_IF))
+    pairs = pairs_of(machine, other, names, ONLY_IF)
+    return all(joined_marks(machine, other, pairs.codes, ONLY_IF))
 
 
 def same_machines(machine, other):
