@@ -9,11 +9,12 @@ from bitcounts.measuring import measured_numbers
 from bitcounts.mixed_rules import measured_system, word_rule
 from bitcounts.mixtures import is_bulky, mixture_lag, simplest
 from bitcounts.piles import pile_of_integer, pile_of_machine, pile_of_rule, pile_of_system
+from bitcounts.verdicts import states_of_zero
 from bitcounts.walks import spelt
 from bitcounts.words import checked_word
 
 GREATEST_BASE = 4
-MOST_STATES = 300
+MOST_STATES = 1500
 
 
 def measured(kind, checked):
@@ -23,6 +24,8 @@ def measured(kind, checked):
         return Formula(pile_of_integer(measured_numbers(kind, [mixture.constant])[0]))
     if is_bulky(mixture):
         return Formula(pile_of_rule(bulky_measure(kind, word_rule(mixture), mixture_lag(mixture)), None))
+    if kind == "zero":
+        return Formula(pile_of_machine(states_of_zero(mixture), (kind, mixture)))
     spelling = spelt(mixture, MOST_STATES)
     if spelling.steps is None:
         rule = bulky_measure(kind, word_rule(mixture), mixture_lag(mixture))
@@ -53,4 +56,4 @@ def one_if(t):
     """The formula that is 1 where the test holds, 0 elsewhere."""
     if not isinstance(t, Test):
         raise NotATest(t)
-    return Formula(pile_of_machine(t._machine))
+    return Formula(pile_of_machine(t._machine, ("held", t._machine)))

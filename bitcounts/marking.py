@@ -83,6 +83,4 @@ def marks_of(kind, spelling):
         return marks_of_ones(spelling, low) if low else Marks([], [], [], [])
     if kind == "length":
         return marks_of_lengths(spelling, low)
-    if kind == "zero":
-        return Marks([], [], places_equal(spelling, 0)[0], [])
     return Marks([at + 1 for at in low], [], [], [])

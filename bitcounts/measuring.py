@@ -83,6 +83,4 @@ def lines_measured(kind, column, marks):
         return lines_of_ones(numbers, column, marks)
     if kind == "length":
         return lines_of_lengths(numbers, column, marks)
-    if kind == "zero":
-        return [1, *[int(column[place] == 0) for place in marks.naught]]
     return lines_of_powers(kind, numbers, column, marks)

@@ -9,8 +9,8 @@ from bitcounts.walks import Spelt, spelt
 # What the sign makes of two digits, by twice the first and the second one.
 TABLES = {"&": (0, 0, 0, 1), "|": (0, 1, 1, 1), "^": (0, 1, 1, 0)}
 # With more states, single digits of the words tell more quickly what is made of them.
-MOST_STATES = 150
-FARTHEST = 4
+MOST_STATES = 700
+FARTHEST = 9
 
 
 def even_steps(table, one, other, own, beside):

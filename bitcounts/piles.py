@@ -97,7 +97,7 @@ def held_system(machine, kind):
     return System(kind, [int(mark) for mark in machine.marks], moves, (0, ((1, 0),)), None)
 
 
-def pile_of_machine(machine):
+def pile_of_machine(machine, shape):
     """The pile of what is 1 where the test of the machine holds, 0 elsewhere; TooMany is raised as for all ranks."""
     # All lines are parts of the first one here, so the rank is the number of columns.
     if len(machine.marks) > SOME_LINES and len(some_columns(held_system(machine, "some")).found) > RANK:
@@ -107,7 +107,7 @@ def pile_of_machine(machine):
     if len(known.found) > RANK:
         raise TooMany()
     names = machine.variables
-    return pile_of_shape(Source(system, known, names), names, len(known.found), ("held", machine), 0)
+    return pile_of_shape(Source(system, known, names), names, len(known.found), shape, 0)
 
 
 class Pile:

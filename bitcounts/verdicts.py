@@ -1,8 +1,9 @@
 """Tests of mixtures: whether they are less than 0, equal to 0, or leave a rest, by the states of their digits."""
 
+from bitcounts.atoms import SILENT
 from bitcounts.errors import TooManyClasses
 from bitcounts.limits import CLASSES
-from bitcounts.machines import everywhere, grouped, least_machine, never, without_idle
+from bitcounts.machines import Machine, everywhere, grouped, least_machine, never, without_idle
 from bitcounts.mixtures import Mixture, common_zeros, is_silent, mixture_names
 from bitcounts.walks import (
     first_state, follower_of, is_linear, silent_follower, tops_of_rows, value_at_zero, weighed,
@@ -13,6 +14,8 @@ from math import gcd
 # it is asked again.
 FEW = 600
 MORE = 4
+# More states than any mixture has.
+ALL = 1 << 60
 
 
 def decided(holds):
@@ -148,6 +151,27 @@ def digit_machine(mixture, equal):
         most = MORE * most
 
 
+def states_of_zero(mixture):
+    """A machine of the test that the mixture is 0, which is not the least one: states may come twice."""
+    names = mixture_names(mixture)
+    if is_linear(mixture):
+        common = common_factor(mixture)
+        if mixture.constant % common:
+            return never()
+        mixture = divided(mixture, common)
+        bounds = Bounds(mixture, True)
+        first = kept_within(mixture.constant, bounds)
+        found, ways = linear_ways(tops_of_rows(mixture, 0, names), first, bounds, ALL)
+        return Machine(names, ways, linear_marks(found, True))
+    zeros, silent = common_zeros(mixture), is_silent(mixture)
+    if mixture.constant & ((1 << zeros) - 1):
+        return never()
+    parts = weighed(mixture, zeros, names)
+    found, ways = digit_ways(first_state(mixture, zeros, silent), parts, 1 << len(names), silent, True, ALL)
+    values = [None if state is None else value_at_zero(state, mixture, zeros, silent) for state in found]
+    return Machine(names, ways, linear_marks(values, True))
+
+
 def compared(mixture, equal):
     """The machine of the test that the mixture is 0, or, if `equal` is not asked, less than 0."""
     if not mixture.parts:
@@ -162,6 +186,26 @@ def rest_behind(modulus, rest, parts, states, index):
         follower, digit = steps[state][rows[index]]
         rest = rest - by * digit
         followers.append(follower)
+    return rest_of_half(modulus, rest, followers)
+
+
+def silent_rest_behind(modulus, rest, parts, states, index):
+    """As above, where each atom has with its state how far it is ahead, and the digit may be silent."""
+    followers = []
+    for at, (by, steps, rows) in enumerate(parts):
+        ahead = states[2 * at + 1]
+        follower, digit = steps[states[2 * at]][rows[index]]
+        if digit != SILENT:
+            rest = rest - (by * digit << ahead)
+            ahead = ahead + 1
+        followers.extend([follower, ahead])
+    if 0 in followers[1::2]:
+        return (modulus, rest % modulus, *followers)
+    return rest_of_half(modulus, rest, [number - (at & 1) for at, number in enumerate(followers)])
+
+
+def rest_of_half(modulus, rest, followers):
+    """The state in which twice what follows has this rest."""
     if modulus & 1:
         rest = rest % modulus
         return (modulus, (rest if rest & 1 == 0 else rest + modulus) >> 1, *followers)
@@ -170,7 +214,7 @@ def rest_behind(modulus, rest, parts, states, index):
     return () if modulus == 2 else (modulus >> 1, (rest >> 1) % (modulus >> 1), *followers)
 
 
-def rest_ways(first, parts, many, most):
+def rest_ways(first, parts, many, silent, most):
     found = [first]
     places = {first: 0}
     ways = []
@@ -179,7 +223,9 @@ def rest_ways(first, parts, many, most):
         row = []
         for index in range(many):
             follower = current
-            if current:
+            if current and silent:
+                follower = silent_rest_behind(current[0], current[1], parts, current[2:], index)
+            elif current:
                 follower = rest_behind(current[0], current[1], parts, current[2:], index)
             if follower not in places:
                 places[follower] = len(found)
@@ -189,16 +235,20 @@ def rest_ways(first, parts, many, most):
     return found, ways
 
 
-def rest_mark(state, mixture):
+def rest_mark(state, mixture, silent):
     """Whether the rest is left at 0."""
     if not state:
         return state is not None
-    value = sum([by * atom.starts[at] for at, (by, atom) in zip(state[2:], mixture.parts)])
+    if silent:
+        states = list(zip(state[2::2], state[3::2]))
+        value = sum([by * atom.starts[at] << ahead for (at, ahead), (by, atom) in zip(states, mixture.parts)])
+    else:
+        value = sum([by * atom.starts[at] for at, (by, atom) in zip(state[2:], mixture.parts)])
     return (value - state[1]) % state[0] == 0
 
 
 def rest_machine(mixture, modulus, rest):
-    """The machine of the test that the mixture, without silent atoms, divided by the modulus leaves this rest."""
+    """The machine of the test that the mixture divided by the modulus leaves this rest."""
     mixture = Mixture(mixture.constant, tuple([(by % modulus, atom) for by, atom in mixture.parts if by % modulus]))
     rest = rest - mixture.constant
     common = gcd(common_factor(mixture), modulus)
@@ -210,11 +260,12 @@ def rest_machine(mixture, modulus, rest):
         return decided(rest % modulus == 0)
     names = mixture_names(mixture)
     parts = weighed(mixture, 0, names)
+    silent = is_silent(mixture)
+    first = (modulus, rest % modulus, *[0 for _ in mixture.parts for _ in ((0, 1) if silent else (0,))])
     most = FEW
     while True:
-        first = (modulus, rest % modulus, *[0 for _ in mixture.parts])
-        found, ways = rest_ways(first, parts, 1 << len(names), most)
-        marks = [rest_mark(state, mixture) for state in found]
+        found, ways = rest_ways(first, parts, 1 << len(names), silent, most)
+        marks = [rest_mark(state, mixture, silent) for state in found]
         groups = grouped(ways, marks)
         if groups is not None:
             return least_machine(names, ways, marks, groups)

@@ -13,7 +13,7 @@ from bitcounts.limits import NAMES, RANK
 from bitcounts.machines import opposite
 from bitcounts.mixed_rules import mixture_system, word_rule
 from bitcounts.mixtures import (
-    Mixture, is_bulky, is_silent, is_spread, many_lines, mixed, mixture_lag, mixture_names, scaled_mixture, zeros_below,
+    Mixture, is_bulky, is_spread, many_lines, mixed, mixture_lag, mixture_names, scaled_mixture, zeros_below,
 )
 from bitcounts.pairings import joined_mixtures
 from bitcounts.piles import Pile, pile_of_rule
@@ -143,7 +143,7 @@ def is_not_below(one, other):
 def rest_test(one, modulus, rest):
     """The test that the word leaves this rest."""
     mixture = one._mixture
-    if not is_bulky(mixture) and not is_silent(mixture):
+    if not is_bulky(mixture):
         return Test(rest_machine(mixture, modulus, rest))
     rule = one.rule
     reading = with_rest(modulus, rest)

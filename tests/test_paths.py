@@ -118,7 +118,8 @@ class Ways(unittest.TestCase):
         m, n = NAMES[0], NAMES[1]
         self.assertFalse(is_bulky(((m + 2 * n) & (m - n))._mixture))
         self.assertFalse(is_bulky((m ^ m >> 1)._mixture))
-        self.assertTrue(is_bulky(((m << 8) & n)._mixture))
+        self.assertFalse(is_bulky(((m << 8) & n)._mixture))
+        self.assertTrue(is_bulky((16 * (m << 8) & n)._mixture))
 
 
 if __name__ == "__main__":
