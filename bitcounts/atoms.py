@@ -19,8 +19,8 @@ class Atom:
     digit; the first one is the atom. As many states behind each other are silent as the atom has `lag`. `starts` are
     the values of the states at 0. All states and 1 are combinations of no more than `width` of them.
 
-    `shape` tells how the atom was made, of so many things as `cost` tells, or is None. If there would be too many
-    states, there are none, and `bulk` is its least rule, which is None otherwise.
+    `shape` tells how the atom was made, of so many things as `cost` tells, or is None; it has no other names than the
+    atom. If there would be too many states, there are none, and `bulk` is its least rule, which is None otherwise.
     """
 
     def __init__(self, names, steps, starts, lag, width, shape, cost, bulk):
@@ -101,7 +101,9 @@ def atom_of(names, steps, starts, lag, shape, cost):
     """The atom with these states, each word only once."""
     steps, starts = merged(steps, starts)
     used, kept = without_idle_names(names, steps)
-    return Atom(used, kept, tuple(starts), lag, 1 + len(starts), shape if cost <= GREATEST_COST else None, cost, None)
+    # A shape with names that have dropped out would want their numbers.
+    told = shape if cost <= GREATEST_COST and len(used) == len(names) else None
+    return Atom(used, kept, tuple(starts), lag, 1 + len(starts), told, cost, None)
 
 
 def narrowed(atom, width):
