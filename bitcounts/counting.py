@@ -1,5 +1,6 @@
 """Formulas that count digits of words, and those that count where tests hold."""
 
+from bitcounts.bounds import pile_of_machine, pile_of_system
 from bitcounts.checks import check_within
 from bitcounts.conditions import Test
 from bitcounts.errors import NotATest
@@ -8,7 +9,7 @@ from bitcounts.measures import bulky_measure
 from bitcounts.measuring import measured_numbers
 from bitcounts.mixed_rules import measured_system, word_rule
 from bitcounts.mixtures import is_bulky, mixture_lag, simplest
-from bitcounts.piles import pile_of_integer, pile_of_machine, pile_of_rule, pile_of_system
+from bitcounts.piles import pile_of_integer, pile_of_rule
 from bitcounts.verdicts import states_of_zero
 from bitcounts.walks import spelt
 from bitcounts.words import checked_word

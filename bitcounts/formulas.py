@@ -1,14 +1,14 @@
 """Formulas: an integer for all values of at most three variables."""
 
+from bitcounts.bounds import limited_pile, pile_of_factors, pile_of_product
 from bitcounts.checks import check_within, is_integer, numbers_by_name, numbers_by_pairs
 from bitcounts.digit_rows import united
 from bitcounts.limits import NAMES
 from bitcounts.mixtures import is_spread
 from bitcounts.piles import (
-    limited_pile, pile_names, pile_of_integer, pile_of_product, pile_of_rule, pile_rule, pile_value, piled, scaled_pile,
+    all_letters, is_zero, pile_names, pile_of_integer, pile_of_rule, pile_rule, pile_value, piled, scaled_pile,
 )
 from bitcounts.rules import HIGHEST_POWER, rule_equations, same_rules
-from bitcounts.ties import is_seen_to_part
 
 
 def formula_operand(operand):
@@ -23,16 +23,11 @@ def formula_operand(operand):
 def added(one, other, factor):
     """The first formula and so many times the other one."""
     pile, beside = one._pile, other._pile
-    if len(united_names(pile, beside)) > NAMES:
+    if len(all_letters([pile_names(pile), pile_names(beside)])) > NAMES:
         # Some names may have dropped out.
         united(one.names, other.names)
         pile, beside = pile_of_rule(one.rule, None), pile_of_rule(other.rule, None)
     return Formula(limited_pile(piled(pile, beside, factor)))
-
-
-def united_names(pile, other):
-    names = pile_names(pile)
-    return [*names, *[name for name in pile_names(other) if name not in names]]
 
 
 def is_integer_pile(pile):
@@ -45,7 +40,11 @@ def times(one, other):
         return Formula(scaled_pile(one._pile, other._pile.mixture.constant))
     if is_integer_pile(one._pile):
         return Formula(scaled_pile(other._pile, one._pile.mixture.constant))
-    return Formula(pile_of_product(one.rule, other.rule, one._pile, other._pile))
+    pile, beside = one._pile, other._pile
+    if len(all_letters([pile_names(pile), pile_names(beside)])) > NAMES:
+        united(one.names, other.names)
+    made = pile_of_factors(pile, beside)
+    return Formula(pile_of_product(one.rule, other.rule, pile, beside) if made is None else made)
 
 
 def power_of(one, exponent):
@@ -60,9 +59,11 @@ def power_of(one, exponent):
 
 
 def are_same(one, other):
-    """Whether both formulas are the same; most of those that are not are seen by some values."""
-    part = is_seen_to_part(one._pile, other._pile)
-    return part is None or not part and same_rules(one.rule, other.rule)
+    """Whether both formulas are the same."""
+    difference = piled(one._pile, other._pile, -1)
+    if len(pile_names(difference)) <= NAMES:
+        return is_zero(difference)
+    return same_rules(one.rule, other.rule)
 
 
 class Formula:

@@ -9,7 +9,7 @@ from bitcounts.digit_rows import own_rows
 from bitcounts.errors import TooMany
 from bitcounts.limits import RANK
 from bitcounts.rows import applied, row_behind
-from bitcounts.solving import moved_column, part_behind, part_values
+from bitcounts.systems import moved_column, part_behind, part_values
 
 PRIME = 2 ** 61 - 1
 # With no more lines than these, all is worked out as soon as a glance is taken.
@@ -134,16 +134,16 @@ def look_at_line(system):
 
     The parts of ever more lowest zeros are compared at the powers of two, and at a few tuples of mixed digits.
     """
-    columns = [moved_column(system.kind, system.first, system.moves[1])]
+    columns = [moved_column(system, system.first, system.moves[1])]
     for at in range(RANK + 6):
-        columns.append(moved_column(system.kind, columns[-1], system.moves[0 if at < RANK + 2 else at & 1]))
+        columns.append(moved_column(system, columns[-1], system.moves[0 if at < RANK + 2 else at & 1]))
     part = system.part
     echelon = []
     for _ in range(RANK + 4):
-        rest = reduced_modulo([number % PRIME for number in part_values(system.kind, part, columns)], echelon)
+        rest = reduced_modulo([number % PRIME for number in part_values(system, part, columns)], echelon)
         places = [place for place, number in enumerate(rest) if number != 0]
         if places:
             echelon.append((places[0], rest))
         if len(echelon) > RANK:
             raise TooMany()
-        part = part_behind(system.kind, part, system.moves[0])
+        part = part_behind(system, part, system.moves[0])

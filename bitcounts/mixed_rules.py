@@ -2,19 +2,10 @@
 
 from bitcounts.digit_rows import own_rows
 from bitcounts.marking import marks_of
-from bitcounts.mixtures import is_bulky, mixture_names
-from bitcounts.rules import Block, constant, solved_rule
-from bitcounts.solving import System
-
-
-def offsets_of(mixture):
-    """For each atom the place of its first line, behind 1 and the lines of the atoms before it."""
-    found = []
-    at = 1
-    for _, atom in mixture.parts:
-        found.append(at)
-        at = at + len(atom.steps)
-    return found
+from bitcounts.mixtures import is_bulky, mixture_names, parted, tops_of
+from bitcounts.rules import Block, constant, linear_rule, solved_rule
+from bitcounts.systems import System
+from bitcounts.walks import is_linear
 
 
 def line_move(steps, by, row):
@@ -27,19 +18,21 @@ def line_move(steps, by, row):
 
 
 def mixture_system(mixture, names):
-    offsets = offsets_of(mixture)
-    rows = [own_rows(atom.variables, names) for _, atom in mixture.parts]
-    moves = []
-    for index in range(1 << len(names)):
-        move = [(1, 0, 0)]
-        for at, (_, atom) in enumerate(mixture.parts):
-            move.extend(line_move(atom.steps, offsets[at], rows[at][index]))
-        moves.append(move)
+    """The system of the lines 1, the sum of the variables by their factors, and the states of all other atoms."""
+    linear, others = parted(mixture)
     first = [1]
-    for _, atom in mixture.parts:
+    moves = [[(1, 0, 0)] for _ in range(1 << len(names))]
+    pairs = []
+    if linear:
+        moves = [[*move, (2, 1, top)] for move, top in zip(moves, tops_of(linear, names))]
+        pairs.append((1, 1))
+        first.append(0)
+    for by, atom in others:
+        rows = own_rows(atom.variables, names)
+        moves = [[*move, *line_move(atom.steps, len(first), index)] for move, index in zip(moves, rows)]
+        pairs.append((by, len(first)))
         first.extend(atom.starts)
-    part = mixture.constant, tuple([(by, offset) for (by, _), offset in zip(mixture.parts, offsets)])
-    return System("sum", first, moves, part, None)
+    return System("sum", first, moves, (mixture.constant, tuple(pairs)), None)
 
 
 def mixture_rule(mixture):
@@ -47,6 +40,8 @@ def mixture_rule(mixture):
     if not mixture.parts:
         return constant(mixture.constant)
     names = mixture_names(mixture)
+    if is_linear(mixture):
+        return linear_rule(names, mixture.constant, tops_of(mixture.parts, names))
     return solved_rule(mixture_system(mixture, names), None, names)
 
 

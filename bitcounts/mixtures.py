@@ -74,9 +74,32 @@ def mixture_lag(mixture):
     return max([int(atom.lag - zeros_below(by)) for by, atom in mixture.parts], default=0)
 
 
+def is_plain(atom):
+    """Whether the atom is a variable with all its digits."""
+    return atom.shape is not None and atom.shape[0] == "name" and atom.lag == 0
+
+
+def parted(mixture):
+    """The pairs whose atoms are variables, and all others."""
+    linear = [pair for pair in mixture.parts if is_plain(pair[1])]
+    return linear, [pair for pair in mixture.parts if not is_plain(pair[1])]
+
+
+def tops_of(pairs, names):
+    """For each digit row what the sum of multiples of variables, pairs of a factor and an atom, is there."""
+    factors = {atom.variables[0]: by for by, atom in pairs}
+    tops = [0]
+    # One name after the other, the digit 0 ahead of 1.
+    for name in names:
+        by = factors.get(name, 0)
+        tops = [top + digit for top in tops for digit in (0, by)]
+    return tops
+
+
 def many_lines(mixture):
-    """At least the rank: of how many lines all parts are combinations."""
-    return 1 + sum([atom.width - 1 for _, atom in mixture.parts])
+    """At least the rank: of how many lines all parts are combinations, one of them that of all variables together."""
+    linear, others = parted(mixture)
+    return 1 + int(bool(linear)) + sum([atom.width - 1 for _, atom in others])
 
 
 def common_zeros(mixture):

@@ -1,24 +1,24 @@
 """Piles: sums of a mixture and of multiples of terms, which all formulas are."""
 
 from bitcounts.digit_rows import digit_indexes
-from bitcounts.errors import TooMany
 from bitcounts.evaluations import mixture_value
-from bitcounts.glances import look_at_line
-from bitcounts.limits import RANK
+from bitcounts.lines import (
+    lines_behind, lines_of_machine, lines_of_mixture, lines_system, lines_value, product_of_lines, same_lines,
+    scaled_lines,
+)
 from bitcounts.machines import holds_at, same_machines
 from bitcounts.measuring import measured_numbers
-from bitcounts.mixed_rules import mixture_block, mixture_rule
-from bitcounts.mixtures import Mixture, many_lines, mixed, mixture_names, same_mixtures, scaled_mixture
+from bitcounts.mixed_rules import mixture_block, mixture_rule, mixture_system
+from bitcounts.mixtures import Mixture, mixed, mixture_names, same_mixtures, scaled_mixture
 from bitcounts.rules import (
-    Rule, check_product, multiplied, product_system, rule_block, rule_value, same_rules, scaled, solved_rule,
-    sum_system,
+    Rule, multiplied, rows_system, rule_block, rule_value, same_rules, scaled, solved_rule, sum_system,
 )
-from bitcounts.solving import SOME_LINES, System, some_columns, told_apart
+from bitcounts.solving import vanishes
+from bitcounts.systems import several_system
 
-MOST_TERMS = 6
-# With more states than these most ranks of what is measured of words of one name are too great.
-MANY_LINES = 21
-DEEPEST = 6
+# With more lines than these, least rules tell it more quickly.
+MOST_LINES = 40
+MOST_PRODUCTS = 100
 
 
 class Source:
@@ -31,32 +31,74 @@ class Source:
 
 
 class Term:
-    """A formula that is told by its least rule, or by the source of it.
+    """A formula that is told by its shape, by its least rule, or by the source of it.
 
-    The `shape` tells its values more quickly, or is None. It is a pair of a kind and what it is about: a mixture that
-    is measured, for "held" a machine, for "sum" a pile, or for "times" a pair of piles, so `deep` within each other.
+    The `shape` tells its values quickly, or is None. It is a pair of a kind and what it is about: a mixture that is
+    measured, for "held" a machine, for "added" the lines of a sum over a range, for "sum" a pile, and for "times" a
+    pair of piles, so `deep` within each other. The `source` is a Rule, a Source, or None if the shape tells the rule.
     The names on which the formula hangs, and those of the shape, are among its `letters`; its rank is not above `most`.
+    `integer_lines` are its lines, alone in a tuple, which is empty if it is not told by few integer lines.
     """
 
     def __init__(self, source, names, most, shape, deep):
-        self._source = source
-        self._told = None
+        self.source = source
         self.letters = names
         self.most = most
         self.shape = shape
         self.deep = deep
+        self._told = None
+        self._integer_lines = None
 
     @property
     def told(self):
         if self._told is None:
-            self._told = rule_of_source(self._source)
+            self._told = rule_of_term(self)
         return self._told
 
+    @property
+    def integer_lines(self):
+        if self._integer_lines is None:
+            self._integer_lines = lines_of_shape(self.shape)
+        return self._integer_lines
 
-def rule_of_source(source):
+
+def rule_of_term(term):
+    source = term.source
     if isinstance(source, Rule):
         return source
-    return solved_rule(source.system, source.known, source.letters)
+    if source is not None:
+        return solved_rule(source.system, source.known, source.letters)
+    if term.integer_lines:
+        lines = term.integer_lines[0]
+        return solved_rule(lines_system(lines), None, lines.letters)
+    return multiplied(pile_rule(term.shape[1][0]), pile_rule(term.shape[1][1]))
+
+
+def lines_of_shape(shape):
+    if shape is None:
+        return ()
+    kind, about = shape
+    if kind == "held":
+        return (lines_of_machine(about),)
+    if kind == "added":
+        return (about,)
+    if kind == "sum":
+        return pile_lines(about)
+    if kind == "times":
+        one, other = pile_lines(about[0]), pile_lines(about[1])
+        if one and other and len(one[0].starts) * len(other[0].starts) <= MOST_PRODUCTS:
+            return (product_of_lines(one[0], other[0]),)
+    return ()
+
+
+def pile_lines(pile):
+    """The lines of the pile alone in a tuple; an empty one if it is not told by few integer lines."""
+    made = lines_of_mixture(pile.mixture)
+    for by, term in pile.terms:
+        if not term.integer_lines:
+            return ()
+        made = lines_behind(made, term.integer_lines[0], by) if made.part else scaled_lines(term.integer_lines[0], by)
+    return (made,) if len(made.starts) <= MOST_LINES else ()
 
 
 def same_terms(term, other):
@@ -67,47 +109,31 @@ def same_terms(term, other):
         return False
     if term.shape[0] == "held":
         return same_machines(term.shape[1], other.shape[1])
-    if term.shape[0] == "times" or term.shape[0] == "sum":
-        return same_rules(term.told, other.told)
+    if term.shape[0] == "added":
+        return same_lines(term.shape[1], other.shape[1])
+    if term.shape[0] == "sum":
+        return same_piles(term.shape[1], other.shape[1])
+    if term.shape[0] == "times":
+        return same_pairs(term.shape[1], other.shape[1])
     return same_mixtures(term.shape[1], other.shape[1])
+
+
+def same_pairs(pair, other):
+    """Whether it is seen at once that the piles of both pairs are the same, in any order."""
+    if same_piles(pair[0], other[0]) and same_piles(pair[1], other[1]):
+        return True
+    return same_piles(pair[0], other[1]) and same_piles(pair[1], other[0])
+
+
+def same_piles(pile, other):
+    """Whether it is seen at once that both piles are the same."""
+    if len(pile.terms) != len(other.terms) or not same_mixtures(pile.mixture, other.mixture):
+        return False
+    return is_nothing(piled(pile, other, -1))
 
 
 def depth_of(pile):
     return max([int(term.deep) for _, term in pile.terms], default=0)
-
-
-def pile_of_product(rule, other, pile, beside):
-    """The pile of the product of two piles with these least rules; TooMany is raised if its rank is greater than 16."""
-    check_product(rule, other)
-    most = len(rule.starts) * len(other.starts)
-    deep = 1 + depth_of(pile) + depth_of(beside)
-    shape = ("times", (pile, beside)) if deep <= DEEPEST else None
-    if most == 0 or most > RANK or not rule.variables or not other.variables:
-        made = multiplied(rule, other)
-        return pile_of_shape(made, made.variables, len(made.starts), shape, deep if shape else 0)
-    system, columns, names = product_system(rule, other)
-    return pile_of_shape(Source(system, columns, names), names, most, shape, deep if shape else 0)
-
-
-def held_system(machine, kind):
-    """The system of what is 1 where the test of the machine holds, 0 elsewhere; its lines are the classes."""
-    moves = []
-    for index in range(len(machine.ways[0])):
-        moves.append([(1, way[index], 0) for way in machine.ways])
-    return System(kind, [int(mark) for mark in machine.marks], moves, (0, ((1, 0),)), None)
-
-
-def pile_of_machine(machine, shape):
-    """The pile of what is 1 where the test of the machine holds, 0 elsewhere; TooMany is raised as for all ranks."""
-    # All lines are parts of the first one here, so the rank is the number of columns.
-    if len(machine.marks) > SOME_LINES and len(some_columns(held_system(machine, "some")).found) > RANK:
-        raise TooMany()
-    system = held_system(machine, "sum")
-    known = some_columns(system)
-    if len(known.found) > RANK:
-        raise TooMany()
-    names = machine.variables
-    return pile_of_shape(Source(system, known, names), names, len(known.found), shape, 0)
 
 
 class Pile:
@@ -129,6 +155,8 @@ def shape_names(shape):
     kind, about = shape
     if kind == "held":
         return about.variables
+    if kind == "added":
+        return about.letters
     if kind == "sum":
         return pile_names(about)
     if kind == "times":
@@ -136,27 +164,23 @@ def shape_names(shape):
     return mixture_names(about)
 
 
+def all_letters(groups):
+    """The names in all these tuples of names, ascending."""
+    found = {name: True for names in groups for name in names}
+    return tuple(sorted([str(name) for name in found]))
+
+
+def single_pile(term):
+    return Pile(Mixture(0, ()), ((1, term),))
+
+
 def pile_of_shape(source, names, most, shape, deep):
     """The pile of a single term."""
-    letters = {name: True for name in (*names, *shape_names(shape))}
-    return Pile(Mixture(0, ()), ((1, Term(source, tuple(sorted([str(name) for name in letters])), most, shape, deep)),))
+    return single_pile(Term(source, all_letters([names, shape_names(shape)]), most, shape, deep))
 
 
 def pile_of_rule(rule, shape):
     return pile_of_shape(rule, rule.variables, len(rule.starts), shape, 0)
-
-
-def pile_of_system(system, names, shape):
-    """The pile of what the system tells; TooMany is raised if its rank is greater than 16."""
-    lines = len(told_apart(system, system.first))
-    if lines <= RANK:
-        return pile_of_shape(Source(system, None, names), names, lines, shape, 0)
-    if len(names) == 1 and len(system.first) > MANY_LINES:
-        look_at_line(system)
-    known = some_columns(system)
-    if known.waiting or len(known.found) > RANK:
-        return pile_of_rule(solved_rule(system, known, names), shape)
-    return pile_of_shape(Source(system, known, names), names, len(known.found), shape, 0)
 
 
 def piled(pile, other, factor):
@@ -185,19 +209,9 @@ def pile_names(pile):
     """The names of all that is in the pile, ascending; it may hang on fewer."""
     if not pile.terms:
         return mixture_names(pile.mixture)
-    found = {name: True for name in mixture_names(pile.mixture)}
-    for _, term in pile.terms:
-        for name in term.letters:
-            found[name] = True
-    return tuple(sorted([str(name) for name in found]))
-
-
-def most_rank(pile, exact):
-    """At least the rank; to be exact, the least rules of all terms are asked for theirs."""
-    ranks = sum([len(term.told.starts) if exact else term.most for _, term in pile.terms])
-    if pile.mixture.parts:
-        return ranks + many_lines(pile.mixture)
-    return ranks + (1 if pile.mixture.constant else 0)
+    if len(pile.terms) == 1 and not pile.mixture.parts:
+        return pile.terms[0][1].letters
+    return all_letters([mixture_names(pile.mixture), *[term.letters for _, term in pile.terms]])
 
 
 def pile_rule(pile):
@@ -218,18 +232,30 @@ def pile_system(pile):
     return sum_system(blocks)
 
 
-def limited_pile(pile):
-    """The pile, or one of a single term instead; TooMany is raised if its rank is greater than 16."""
-    if len(pile.terms) <= MOST_TERMS and (most_rank(pile, False) <= RANK or most_rank(pile, True) <= RANK):
-        return pile
-    system, names = pile_system(pile)
-    columns = some_columns(system)
-    if len(pile.terms) <= MOST_TERMS and not columns.waiting and len(columns.found) <= RANK:
-        return pile
-    rule = solved_rule(system, columns, names)
-    deep = 1 + depth_of(pile)
-    shape = ("sum", pile) if deep <= DEEPEST and len(pile.terms) <= MOST_TERMS else None
-    return pile_of_shape(rule, rule.variables, len(rule.starts), shape, deep if shape else 0)
+def is_nothing(pile):
+    return not pile.terms and not pile.mixture.parts and pile.mixture.constant == 0
+
+
+def piece_of_term(by, term):
+    """What `several_system` takes for so many times the term."""
+    lines, source = term.integer_lines, term.source
+    if lines and len(lines[0].starts) <= MOST_LINES:
+        return by, lines_system(lines[0]), lines[0].letters
+    if isinstance(source, Source) and source.system.kind not in ("product", "grid"):
+        if len(source.system.first) <= MOST_LINES:
+            return by, source.system, source.letters
+    return by, rows_system(term.told), term.told.variables
+
+
+def is_zero(pile):
+    """Whether the pile, of no more than three names, is 0 everywhere."""
+    if is_nothing(pile):
+        return True
+    names = pile_names(pile)
+    pieces = [piece_of_term(by, term) for by, term in pile.terms]
+    if pile.mixture.parts or pile.mixture.constant:
+        pieces.append((1, mixture_system(pile.mixture, names), names))
+    return vanishes(several_system(pieces, names) if len(pieces) > 1 else pieces[0][1])
 
 
 def term_value(term, numbers):
@@ -239,6 +265,8 @@ def term_value(term, numbers):
     kind, about = term.shape
     if kind == "held":
         return int(holds_at(about, digit_indexes([numbers[name] for name in about.variables])))
+    if kind == "added":
+        return lines_value(about, [numbers[name] for name in about.letters])
     if kind == "sum":
         return pile_value(about, numbers)
     if kind == "times":

@@ -2,9 +2,9 @@
 
 from bitcounts.digit_rows import digit_row
 from bitcounts.solving import (
-    Parts, code_of, columns_to_solve, empty_table, link_solved, moved_column, numbers_of, rests_of, told_apart,
-    widened_table,
+    Parts, code_of, columns_to_solve, empty_table, link_solved, numbers_of, rests_of, widened_table,
 )
+from bitcounts.systems import moved_column, told_apart
 
 
 def next_points(system, found, fresh, codes, steps):
@@ -12,7 +12,7 @@ def next_points(system, found, fresh, codes, steps):
     waiting = {}
     for at in fresh:
         for index, move in enumerate(system.moves):
-            waiting[2 * codes[at] + steps[index]] = (at, index, moved_column(system.kind, found[at], move))
+            waiting[2 * codes[at] + steps[index]] = (at, index, moved_column(system, found[at], move))
     return waiting
 
 

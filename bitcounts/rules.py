@@ -1,10 +1,11 @@
 """Least rules of formulas, and how they are worked out for sums and products."""
 
-from bitcounts.digit_rows import digit_indexes, own_rows, united
+from bitcounts.digit_rows import digit_indexes, digit_row, own_rows, united
 from bitcounts.errors import TooMany
 from bitcounts.limits import TOGETHER
-from bitcounts.rows import applied, crossed, fractions, moved
-from bitcounts.solving import Columns, System, all_columns, least_lines, links_solved
+from bitcounts.rows import applied, crossed, fractions, moved, row_of
+from bitcounts.solving import Columns, all_columns, least_lines, links_solved
+from bitcounts.systems import System
 
 HIGHEST_POWER = 3
 
@@ -30,9 +31,37 @@ class Rule:
         return self._sides
 
 
+class Slopes:
+    """How much more than twice its value a formula has at each digit row; the first such number that is not 0."""
+
+    def __init__(self, numbers, first):
+        self.numbers = numbers
+        self.first = first
+
+
 def sides_of(links):
     """The sides of a rule, which may be told, or still to be worked out."""
+    if isinstance(links, Slopes):
+        return linear_sides(links)
     return links if isinstance(links, tuple) else links_solved(links)
+
+
+def linear_sides(slopes):
+    """The sides of two lines: the formula, and twice the formula and the first slope."""
+    sides = []
+    for slope in slopes.numbers:
+        behind = row_of([2 * slopes.first - 2 * slope, slope], slopes.first)
+        next_behind = row_of([2 * slopes.first - 4 * slope, 2 * slope + slopes.first], slopes.first)
+        sides.append((behind, next_behind))
+    return tuple(sides)
+
+
+def linear_rule(names, number, tops):
+    """The least rule of the number and a sum of multiples of these variables, by what this is at each digit row."""
+    slopes = [top - number for top in tops]
+    index = [at for at, slope in enumerate(slopes) if slope][0]
+    parts = (0, tuple([0 for _ in names])), (1, digit_row(index, len(names)))
+    return Rule(names, parts, Slopes(slopes, slopes[index]), (number, number + tops[index]))
 
 
 def constant(number):

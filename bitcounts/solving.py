@@ -3,46 +3,21 @@
 A formula is told by lines, functions of its names, whose values at 2 * x + e are made of those at x by a move for each
 digit row e. First come columns, the values of all lines at tuples: as many as are no combinations of others. Then
 come the parts of the formula, by their values at the tuples of these columns.
-
-Of columns there are two kinds. Those of integer lines have moves of triples (factor, place, addend), one for each line:
-factor times the line at the place, and the addend more. A part of these is a pair (addend, pairs): the addend, and
-the factor times the line for each pair (factor, place); what is measured of that is the part. Columns of fraction
-lines have sides of rows as moves, and their parts are rows.
 """
 
 from bitcounts.digit_rows import digit_row, places_that_matter, rows_of_places
 from bitcounts.errors import TooMany
 from bitcounts.limits import RANK
-from bitcounts.measuring import lines_measured, measured_numbers
-from bitcounts.rows import applied, combined, row_behind, row_of, shortest
+from bitcounts.rows import row_of, shortest
+from bitcounts.systems import moved_column, part_behind, part_values, told_apart
 from math import lcm
 
 # With more columns than the greatest rank, how many are found before the rank is looked at, and how many times more
 # before it is looked at again.
 SOME = 24
 MORE = 2
-# How many lines are looked at where some of them will do.
-SOME_LINES = 40
 # How far apart the numbers of a tuple stand in its code; the order of codes is that of tuples.
 WIDTH = 80
-
-
-class System:
-    """What tells a formula: its `kind`, the column at 0, the moves for each digit row, and its first part.
-
-    The kind is "rows" for fraction lines, and for integer lines "sum", "some" if only some of them are to be looked
-    at, or what is measured of their sums. What is
-    measured hangs on the `marks` of lines besides, as `lines_measured` takes them. For a "product" of two formulas
-    there are pairs of columns, moves and parts; for a "grid", whose names are different ones, a pair of lists of
-    columns, each of the one belonging to each of the other.
-    """
-
-    def __init__(self, kind, first, moves, part, marks):
-        self.kind = kind
-        self.first = first
-        self.moves = moves
-        self.part = part
-        self.marks = marks
 
 
 class Table:
@@ -95,25 +70,6 @@ def widened_table(table, rests):
     return Table(pivot, [*table.pivots, place], others)
 
 
-def moved_column(kind, column, move):
-    if kind == "rows":
-        return applied(move, column)
-    if kind == "product":
-        return applied(move[0], column[0]), applied(move[1], column[1])
-    return [factor * column[place] + addend for factor, place, addend in move]
-
-
-def told_apart(system, column):
-    """The numbers by which columns are told apart."""
-    if system.kind == "rows" or system.kind == "sum":
-        return column
-    if system.kind == "some":
-        return column[:SOME_LINES]
-    if system.kind == "product":
-        return [number * beside for number in column[0] for beside in column[1]]
-    return lines_measured(system.kind, column, system.marks)
-
-
 class Columns:
     """Columns `found`, no combinations of others, the first at 0, with their table.
 
@@ -143,7 +99,7 @@ def more_columns(system, known, most):
     while waiting and len(found) <= most:
         at = waiting.pop()
         for move in system.moves:
-            column = moved_column(system.kind, found[at], move)
+            column = moved_column(system, found[at], move)
             rests = rests_of(told_apart(system, column), table)
             if any(rests):
                 table = widened_table(table, rests)
@@ -159,51 +115,28 @@ def some_columns(system):
     return more_columns(system, first_column(system), RANK)
 
 
+def vanishes(system):
+    """Whether what the system tells is 0 everywhere: it is if it is 0 at all columns that are told apart."""
+    known = first_column(system)
+    found, waiting, table = list(known.found), [0], known.table
+    if part_values(system, system.part, found)[0] != 0:
+        return False
+    while waiting and table.others:
+        at = waiting.pop()
+        for move in system.moves:
+            column = moved_column(system, found[at], move)
+            rests = rests_of(told_apart(system, column), table)
+            if any(rests):
+                if part_values(system, system.part, [column])[0] != 0:
+                    return False
+                table = widened_table(table, rests)
+                waiting.append(len(found))
+                found.append(column)
+    return True
+
+
 def all_columns(system):
     return more_columns(system, first_column(system), len(system.first)).found
-
-
-def part_behind(kind, part, move):
-    """The part that the part is at 2 * x + e, by the move of the digit row e."""
-    if kind == "rows":
-        return row_behind(part, move)
-    if kind == "product" or kind == "grid":
-        return row_behind(part[0], move[0]), row_behind(part[1], move[1])
-    addend, pairs = part
-    if len(pairs) == 1:
-        own, first = pairs[0]
-        factor, follower, more = move[first]
-        return addend + own * more, ((own * factor, follower),)
-    addend = addend + sum([by * move[place][2] for by, place in pairs])
-    return addend, tuple([(by * move[place][0], move[place][1]) for by, place in pairs])
-
-
-def row_values(row, columns):
-    pairs, bottom = row
-    if bottom != 1:
-        return [sum([top * column[place] for place, top in pairs]) // bottom for column in columns]
-    if len(pairs) == 1:
-        first, factor = pairs[0]
-        return [factor * column[first] for column in columns]
-    return [sum([top * column[place] for place, top in pairs]) for column in columns]
-
-
-def part_values(kind, part, columns):
-    """The values of the part at the tuples of the columns."""
-    if kind == "rows":
-        return row_values(part, columns)
-    if kind == "product":
-        return [combined(part[0], column[0]) * combined(part[1], column[1]) for column in columns]
-    if kind == "grid":
-        beside = row_values(part[1], columns[1])
-        return [number * other for number in row_values(part[0], columns[0]) for other in beside]
-    addend, pairs = part
-    if len(pairs) == 1:
-        factor, first = pairs[0]
-        numbers = [addend + factor * column[first] for column in columns]
-    else:
-        numbers = [addend + sum([by * column[place] for by, place in pairs]) for column in columns]
-    return numbers if kind == "sum" else measured_numbers(kind, numbers)
 
 
 class Parts:
@@ -226,7 +159,7 @@ def next_parts(system, parts, fresh, codes, steps):
     for at in fresh:
         level, code = codes[at]
         for index, move in enumerate(system.moves):
-            table[code + (steps[index] << level)] = (at, index, part_behind(system.kind, parts[at], move))
+            table[code + (steps[index] << level)] = (at, index, part_behind(system, parts[at], move))
     return table
 
 
@@ -237,14 +170,14 @@ def parts_of(system, columns, size):
     parts = []
     vectors = []
     links = {}
-    known = empty_table(len(part_values(system.kind, system.part, columns)))
+    known = empty_table(len(part_values(system, system.part, columns)))
     waiting = {0: (-1, 0, system.part)}
     level = 0
     while waiting:
         fresh = []
         for code in sorted([int(key) for key in waiting]):
             source, index, part = waiting[code]
-            vector = part_values(system.kind, part, columns)
+            vector = part_values(system, part, columns)
             rests = rests_of(vector, known) if known.others else []
             if not any(rests):
                 links[source, index] = (None, vector)

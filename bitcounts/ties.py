@@ -1,14 +1,16 @@
 """What ties several formulas together: the tuples that are new for them, and the sums that are 0."""
 
+from bitcounts.bounds import most_rank
 from bitcounts.closures import first_place, reduced
 from bitcounts.digit_rows import united
 from bitcounts.errors import TooMany
 from bitcounts.limits import NAMES, TOGETHER
-from bitcounts.piles import most_rank, pile_names, pile_of_integer, pile_value, piled
+from bitcounts.piles import is_nothing, pile_names, pile_of_integer, pile_value, piled
 from bitcounts.points import points_of, tuples_of
 from bitcounts.rows import moved, shortest
 from bitcounts.rules import same_rules, widened
-from bitcounts.solving import System, all_columns
+from bitcounts.solving import all_columns
+from bitcounts.systems import System
 
 # How many binary digits the numbers have that are tried one by one, for so many names.
 TRIED = (0, 2, 2, 1)
@@ -89,19 +91,6 @@ def least_small(pile, names):
         if pile_value(pile, {**table, **{name: number for name, number in zip(names, numbers)}}) != 0:
             return numbers
     return None
-
-
-def is_nothing(pile):
-    return not pile.terms and not pile.mixture.parts and pile.mixture.constant == 0
-
-
-def is_seen_to_part(pile, other):
-    """Whether two piles differ at one of the least tuples; they are the same if None is returned."""
-    difference = piled(pile, other, -1)
-    if is_nothing(difference):
-        return None
-    names = pile_names(difference)
-    return len(names) <= NAMES and least_small(difference, names) is not None
 
 
 def first_failure(lines, factors):

@@ -5,6 +5,7 @@ from bitcounts.errors import TooManyClasses
 from bitcounts.limits import CLASSES
 from bitcounts.machines import Machine, everywhere, grouped, least_machine, never, without_idle
 from bitcounts.mixtures import Mixture, common_zeros, is_silent, mixture_names
+from bitcounts.rows import common_divisor
 from bitcounts.walks import (
     first_state, follower_of, is_linear, silent_follower, tops_of_rows, value_at_zero, weighed,
 )
@@ -20,13 +21,6 @@ ALL = 1 << 60
 
 def decided(holds):
     return everywhere() if holds else never()
-
-
-def common_factor(mixture):
-    common = 0
-    for by, _ in mixture.parts:
-        common = gcd(common, by)
-    return common
 
 
 def divided(mixture, by):
@@ -86,7 +80,7 @@ def linear_marks(found, equal):
 
 def linear_machine(mixture, equal):
     """The machine of the test that a linear mixture is 0, or less than 0."""
-    common = common_factor(mixture)
+    common = common_divisor([by for by, _ in mixture.parts])
     if equal and mixture.constant % common:
         return never()
     mixture = divided(mixture, common)
@@ -155,7 +149,7 @@ def states_of_zero(mixture):
     """A machine of the test that the mixture is 0, which is not the least one: states may come twice."""
     names = mixture_names(mixture)
     if is_linear(mixture):
-        common = common_factor(mixture)
+        common = common_divisor([by for by, _ in mixture.parts])
         if mixture.constant % common:
             return never()
         mixture = divided(mixture, common)
@@ -251,7 +245,7 @@ def rest_machine(mixture, modulus, rest):
     """The machine of the test that the mixture divided by the modulus leaves this rest."""
     mixture = Mixture(mixture.constant, tuple([(by % modulus, atom) for by, atom in mixture.parts if by % modulus]))
     rest = rest - mixture.constant
-    common = gcd(common_factor(mixture), modulus)
+    common = gcd(common_divisor([by for by, _ in mixture.parts]), modulus)
     if is_linear(mixture):
         if rest % common:
             return never()

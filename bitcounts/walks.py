@@ -2,7 +2,7 @@
 
 from bitcounts.atoms import SILENT
 from bitcounts.digit_rows import own_rows
-from bitcounts.mixtures import common_zeros, is_silent, mixture_names
+from bitcounts.mixtures import common_zeros, is_plain, is_silent, mixture_names, tops_of
 
 
 class Spelt:
@@ -22,17 +22,12 @@ class Spelt:
 
 def is_linear(mixture):
     """Whether all atoms are variables."""
-    return all([atom.shape is not None and atom.shape[0] == "name" and atom.lag == 0 for _, atom in mixture.parts])
+    return all([is_plain(atom) for _, atom in mixture.parts])
 
 
 def tops_of_rows(mixture, zeros, names):
     """For each digit row what a linear mixture, without so many of its lowest digits, adds at it."""
-    tops = [0]
-    # One name after the other, the digit 0 ahead of 1.
-    for name in names:
-        by = sum([factor for factor, atom in mixture.parts if atom.variables[0] == name]) >> zeros
-        tops = [top + digit for top in tops for digit in (0, by)]
-    return tops
+    return tops_of([(by >> zeros, atom) for by, atom in mixture.parts], names)
 
 
 def linear_steps(tops, first, most):

@@ -24,7 +24,7 @@ COMPREHENSIONS = (ast.ListComp, ast.DictComp)
 BARRED_WORDS = set("""register mro elements open input law version_info with_traceback add_note type typing enum Enum
     Flag Generic Protocol ABC namedtuple NamedTuple eval exec compile globals locals vars id exit hash""".split())
 # What properties keep as they have worked it out, by the class that has the attribute.
-KEPT = {"_word_rule": "Word", "_formula_rule": "Formula", "_told": "Term", "_sides": "Rule"}
+KEPT = {"_word_rule": "Word", "_formula_rule": "Formula", "_told": "Term", "_integer_lines": "Term", "_sides": "Rule"}
 CHANGING = {"append", "clear", "extend", "insert", "pop", "remove", "reverse", "setdefault", "update"}
 
 

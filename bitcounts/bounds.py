@@ -1,0 +1,159 @@
+"""Piles that are made within the limits: of products, of what is counted, and of sums over ranges."""
+
+from bitcounts.errors import TooMany
+from bitcounts.glances import look_at_line
+from bitcounts.limits import NAMES, RANK, TOGETHER
+from bitcounts.lines import (
+    lines_of_machine, lines_system, lost_state, product_of_lines, summed_lines, without_factor,
+)
+from bitcounts.mixtures import many_lines
+from bitcounts.piles import (
+    Source, Term, all_letters, depth_of, is_nothing, pile_lines, pile_names, pile_of_integer, pile_of_rule,
+    pile_of_shape, pile_rule, pile_system, scaled_pile, single_pile,
+)
+from bitcounts.rules import check_product, multiplied, product_system, solved_rule
+from bitcounts.solving import least_parts, some_columns
+from bitcounts.systems import SOME_LINES, System, told_apart
+
+MOST_TERMS = 6
+# With more states than these most ranks of what is measured of words of one name are too great.
+MANY_LINES = 21
+DEEPEST = 6
+
+
+def most_rank(pile, exact):
+    """At least the rank; to be exact, the least rules of all terms are asked for theirs."""
+    ranks = sum([len(term.told.starts) if exact else term.most for _, term in pile.terms])
+    if pile.mixture.parts:
+        return ranks + many_lines(pile.mixture)
+    return ranks + (1 if pile.mixture.constant else 0)
+
+
+def product_shape(pile, beside):
+    """The shape of the product and how deep it is; None if it is too deep."""
+    deep = 1 + depth_of(pile) + depth_of(beside)
+    return (("times", (pile, beside)), deep) if deep <= DEEPEST else (None, 0)
+
+
+def pile_of_factors(pile, beside):
+    """The pile of the product if its rank is seen to be at most 16 and its names to be few, None otherwise."""
+    most = most_rank(pile, False) * most_rank(beside, False)
+    shape, deep = product_shape(pile, beside)
+    if most > RANK or shape is None:
+        return None
+    names = all_letters([pile_names(pile), pile_names(beside)])
+    return None if len(names) > NAMES else single_pile(Term(None, names, most, shape, deep))
+
+
+def pile_of_product(rule, other, pile, beside):
+    """The pile of the product of two piles with these least rules; TooMany is raised if its rank is greater than 16."""
+    check_product(rule, other)
+    most = len(rule.starts) * len(other.starts)
+    shape, deep = product_shape(pile, beside)
+    if most == 0 or most > RANK or not rule.variables or not other.variables:
+        made = multiplied(rule, other)
+        return pile_of_shape(made, made.variables, len(made.starts), shape, deep)
+    system, columns, names = product_system(rule, other)
+    return pile_of_shape(Source(system, columns, names), names, most, shape, deep)
+
+
+def held_system(machine, kind):
+    """The system of what is 1 where the test of the machine holds, 0 elsewhere; its lines are the classes."""
+    moves = []
+    for index in range(len(machine.ways[0])):
+        moves.append([(1, way[index], 0) for way in machine.ways])
+    return System(kind, [int(mark) for mark in machine.marks], moves, (0, ((1, 0),)), None)
+
+
+def many_holding(machine):
+    """How many states hold somewhere."""
+    return len(machine.marks) - int(lost_state(machine) >= 0)
+
+
+def pile_of_machine(machine, shape):
+    """The pile of what is 1 where the test of the machine holds, 0 elsewhere; TooMany is raised as for all ranks."""
+    if not machine.variables:
+        return pile_of_integer(int(machine.marks[0]))
+    if many_holding(machine) <= RANK:
+        told = shape[0] == "held"
+        source = None if told else Source(lines_system(lines_of_machine(machine)), None, machine.variables)
+        return pile_of_shape(source, machine.variables, many_holding(machine), shape, 0)
+    # All lines are parts of the first one here, so the rank is the number of columns.
+    if len(machine.marks) > SOME_LINES and len(some_columns(held_system(machine, "some")).found) > RANK:
+        raise TooMany()
+    system = held_system(machine, "sum")
+    known = some_columns(system)
+    if len(known.found) > RANK:
+        raise TooMany()
+    names = machine.variables
+    return pile_of_shape(Source(system, known, names), names, len(known.found), shape, 0)
+
+
+def pile_of_system(system, names, shape):
+    """The pile of what the system tells; TooMany is raised if its rank is greater than 16."""
+    lines = len(told_apart(system, system.first))
+    if lines <= RANK:
+        return pile_of_shape(Source(system, None, names), names, lines, shape, 0)
+    if len(names) == 1 and len(system.first) > MANY_LINES:
+        look_at_line(system)
+    known = some_columns(system)
+    if known.waiting or len(known.found) > RANK:
+        return pile_of_rule(solved_rule(system, known, names), shape)
+    return pile_of_shape(Source(system, known, names), names, len(known.found), shape, 0)
+
+
+def limited_pile(pile):
+    """The pile, or one of a single term instead; TooMany is raised if its rank is greater than 16."""
+    if len(pile.terms) <= MOST_TERMS and (most_rank(pile, False) <= RANK or most_rank(pile, True) <= RANK):
+        return pile
+    system, names = pile_system(pile)
+    columns = some_columns(system)
+    if len(pile.terms) <= MOST_TERMS and not columns.waiting and len(columns.found) <= RANK:
+        return pile
+    rule = solved_rule(system, columns, names)
+    deep = 1 + depth_of(pile)
+    shape = ("sum", pile) if deep <= DEEPEST and len(pile.terms) <= MOST_TERMS else None
+    return pile_of_shape(rule, rule.variables, len(rule.starts), shape, deep if shape else 0)
+
+
+def machine_rank(machine):
+    """The rank of what is 1 where the machine holds, at least 17 if it is greater than 16."""
+    # All lines are parts of the first one here, so the rank is the number of columns.
+    return len(some_columns(lines_system(lines_of_machine(machine))).found)
+
+
+def check_summand(pile, machine, lines):
+    """TooMany is raised if a limit does not allow the product of the pile, by its lines, and what the machine tells."""
+    if many_holding(machine) * most_rank(pile, False) > TOGETHER:
+        if machine_rank(machine) * len(pile_rule(pile).starts) > TOGETHER:
+            raise TooMany()
+    product = product_of_lines(lines_of_machine(machine), lines)
+    known = some_columns(lines_system(product))
+    if known.waiting or len(known.found) > RANK:
+        _ = least_parts(lines_system(product), known, len(product.letters))
+
+
+def pile_of_sum(pile, machine, lines, name):
+    """The pile, with these lines, added up over all numbers of the name for which the machine holds."""
+    made = summed_lines(machine, lines, name)
+    many = len(made.starts)
+    if many > RANK or many_holding(machine) * most_rank(pile, False) > TOGETHER:
+        check_summand(pile, machine, lines)
+    factor, told = without_factor(made)
+    shape = "added", told
+    return scaled_pile(pile_of_shape(None, told.letters, many if many <= RANK else RANK, shape, 0), factor)
+
+
+def pile_of_total(pile, machine, name):
+    """The pile added up over all numbers of the name for which the machine, that of an upper bound, holds.
+
+    None if it, or the machine, is not told by few integer lines.
+    """
+    states = many_holding(machine)
+    if states > RANK:
+        return None
+    if states == 0 or is_nothing(pile):
+        return pile_of_integer(0)
+    letters = all_letters([pile_names(pile), machine.variables, (name,)])
+    lines = pile_lines(pile) if len(letters) <= NAMES else ()
+    return pile_of_sum(pile, machine, lines[0], name) if lines else None
