@@ -9,9 +9,10 @@ from bitcounts.lines import (
 from bitcounts.mixtures import many_lines
 from bitcounts.piles import (
     Source, Term, all_letters, depth_of, is_nothing, pile_lines, pile_names, pile_of_integer, pile_of_rule,
-    pile_of_shape, pile_rule, pile_system, scaled_pile, single_pile,
+    pile_of_shape, pile_rank, pile_rule, pile_system, scaled_pile, single_pile, source_of_product, source_of_system,
+    source_rank,
 )
-from bitcounts.rules import check_product, multiplied, product_system, solved_rule
+from bitcounts.rules import solved_rule
 from bitcounts.solving import least_parts, some_columns
 from bitcounts.systems import SOME_LINES, System, told_apart
 
@@ -29,32 +30,19 @@ def most_rank(pile, exact):
     return ranks + (1 if pile.mixture.constant else 0)
 
 
-def product_shape(pile, beside):
-    """The shape of the product and how deep it is; None if it is too deep."""
-    deep = 1 + depth_of(pile) + depth_of(beside)
-    return (("times", (pile, beside)), deep) if deep <= DEEPEST else (None, 0)
-
-
-def pile_of_factors(pile, beside):
-    """The pile of the product if its rank is seen to be at most 16 and its names to be few, None otherwise."""
+def pile_of_product(pile, beside):
+    """The pile of the product of two piles of no more than three names; TooMany is raised if a limit is exceeded."""
     most = most_rank(pile, False) * most_rank(beside, False)
-    shape, deep = product_shape(pile, beside)
-    if most > RANK or shape is None:
-        return None
+    if most > RANK:
+        most = pile_rank(pile) * pile_rank(beside)
+        if most > TOGETHER:
+            raise TooMany()
+    deep = 1 + depth_of(pile) + depth_of(beside)
+    shape = ("times", (pile, beside)) if deep <= DEEPEST else None
+    origin = source_of_product(pile, beside) if most > RANK or shape is None else None
     names = all_letters([pile_names(pile), pile_names(beside)])
-    return None if len(names) > NAMES else single_pile(Term(None, names, most, shape, deep))
-
-
-def pile_of_product(rule, other, pile, beside):
-    """The pile of the product of two piles with these least rules; TooMany is raised if its rank is greater than 16."""
-    check_product(rule, other)
-    most = len(rule.starts) * len(other.starts)
-    shape, deep = product_shape(pile, beside)
-    if most == 0 or most > RANK or not rule.variables or not other.variables:
-        made = multiplied(rule, other)
-        return pile_of_shape(made, made.variables, len(made.starts), shape, deep)
-    system, columns, names = product_system(rule, other)
-    return pile_of_shape(Source(system, columns, names), names, most, shape, deep)
+    most = source_rank(origin) if most > RANK else most
+    return single_pile(Term(origin, names, most, shape, deep if shape else 0))
 
 
 def held_system(machine, kind):
@@ -76,8 +64,9 @@ def pile_of_machine(machine, shape):
         return pile_of_integer(int(machine.marks[0]))
     if many_holding(machine) <= RANK:
         told = shape[0] == "held"
-        source = None if told else Source(lines_system(lines_of_machine(machine)), None, machine.variables)
-        return pile_of_shape(source, machine.variables, many_holding(machine), shape, 0)
+        system = None if told else lines_system(lines_of_machine(machine))
+        origin = None if told else source_of_system(system, machine.variables)
+        return pile_of_shape(origin, machine.variables, many_holding(machine), shape, 0)
     # All lines are parts of the first one here, so the rank is the number of columns.
     if len(machine.marks) > SOME_LINES and len(some_columns(held_system(machine, "some")).found) > RANK:
         raise TooMany()
@@ -86,20 +75,20 @@ def pile_of_machine(machine, shape):
     if len(known.found) > RANK:
         raise TooMany()
     names = machine.variables
-    return pile_of_shape(Source(system, known, names), names, len(known.found), shape, 0)
+    return pile_of_shape(Source(system, known, names, None), names, len(known.found), shape, 0)
 
 
 def pile_of_system(system, names, shape):
     """The pile of what the system tells; TooMany is raised if its rank is greater than 16."""
     lines = len(told_apart(system, system.first))
     if lines <= RANK:
-        return pile_of_shape(Source(system, None, names), names, lines, shape, 0)
+        return pile_of_shape(source_of_system(system, names), names, lines, shape, 0)
     if len(names) == 1 and len(system.first) > MANY_LINES:
         look_at_line(system)
     known = some_columns(system)
     if known.waiting or len(known.found) > RANK:
         return pile_of_rule(solved_rule(system, known, names), shape)
-    return pile_of_shape(Source(system, known, names), names, len(known.found), shape, 0)
+    return pile_of_shape(Source(system, known, names, None), names, len(known.found), shape, 0)
 
 
 def limited_pile(pile):

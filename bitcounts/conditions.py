@@ -2,14 +2,8 @@
 
 from bitcounts.checks import numbers_by_name, numbers_by_pairs
 from bitcounts.digit_rows import digit_indexes
-from bitcounts.machines import (
-    everywhere, holds_at, holds_finitely, is_within, joined, least_numbers, opposite, same_machines,
-)
-
-# Whether a joined test holds, by whether the one and whether the other one does.
-BOTH = ((False, False), (False, True))
-AT_LEAST_ONE = ((False, True), (True, True))
-JUST_ONE = ((False, True), (True, False))
+from bitcounts.joins import is_within, joined
+from bitcounts.machines import everywhere, holds_at, holds_finitely, least_numbers, opposite, same_machines
 
 
 def holds_with(machine, numbers):
@@ -47,17 +41,17 @@ class Test:
     def __and__(self, other):
         if not isinstance(other, Test):
             return NotImplemented
-        return Test(joined(self._machine, other._machine, BOTH))
+        return Test(joined(self._machine, other._machine, "&"))
 
     def __or__(self, other):
         if not isinstance(other, Test):
             return NotImplemented
-        return Test(joined(self._machine, other._machine, AT_LEAST_ONE))
+        return Test(joined(self._machine, other._machine, "|"))
 
     def __xor__(self, other):
         if not isinstance(other, Test):
             return NotImplemented
-        return Test(joined(self._machine, other._machine, JUST_ONE))
+        return Test(joined(self._machine, other._machine, "^"))
 
     def __invert__(self):
         return Test(opposite(self._machine))

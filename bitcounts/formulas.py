@@ -1,12 +1,13 @@
 """Formulas: an integer for all values of at most three variables."""
 
-from bitcounts.bounds import limited_pile, pile_of_factors, pile_of_product
+from bitcounts.bounds import limited_pile, pile_of_product
 from bitcounts.checks import check_within, is_integer, numbers_by_name, numbers_by_pairs
 from bitcounts.digit_rows import united
 from bitcounts.limits import NAMES
 from bitcounts.mixtures import is_spread
 from bitcounts.piles import (
-    all_letters, is_zero, pile_names, pile_of_integer, pile_of_rule, pile_rule, pile_value, piled, scaled_pile,
+    all_letters, is_seen_to_hang, is_zero, pile_names, pile_of_integer, pile_of_rule, pile_rank, pile_rule, pile_value,
+    piled, scaled_pile,
 )
 from bitcounts.rules import HIGHEST_POWER, rule_equations, same_rules
 
@@ -42,9 +43,10 @@ def times(one, other):
         return Formula(scaled_pile(other._pile, one._pile.mixture.constant))
     pile, beside = one._pile, other._pile
     if len(all_letters([pile_names(pile), pile_names(beside)])) > NAMES:
+        # Some names may have dropped out.
         united(one.names, other.names)
-    made = pile_of_factors(pile, beside)
-    return Formula(pile_of_product(one.rule, other.rule, pile, beside) if made is None else made)
+        pile, beside = pile_of_rule(one.rule, None), pile_of_rule(other.rule, None)
+    return Formula(pile_of_product(pile, beside))
 
 
 def power_of(one, exponent):
@@ -66,12 +68,23 @@ def are_same(one, other):
     return same_rules(one.rule, other.rule)
 
 
+def names_of_formula(one):
+    """The names on which the formula hangs; its least rule is asked for them only if values do not show them."""
+    pile = one._pile
+    names = pile_names(pile)
+    if not pile.terms and is_spread(pile.mixture) or is_seen_to_hang(pile, names):
+        return names
+    return one.rule.variables
+
+
 class Formula:
     """A formula is kept as a pile; its least rule is worked out when it is asked for."""
 
     def __init__(self, pile):
         self._pile = pile
         self._formula_rule = None
+        self._formula_rank = None
+        self._formula_names = None
 
     @property
     def rule(self):
@@ -81,13 +94,15 @@ class Formula:
 
     @property
     def names(self):
-        if not self._pile.terms and is_spread(self._pile.mixture):
-            return pile_names(self._pile)
-        return self.rule.variables
+        if self._formula_names is None:
+            self._formula_names = names_of_formula(self)
+        return self._formula_names
 
     @property
     def rank(self):
-        return len(self.rule.parts)
+        if self._formula_rank is None:
+            self._formula_rank = pile_rank(self._pile)
+        return self._formula_rank
 
     @property
     def basis(self):
@@ -151,4 +166,4 @@ class Formula:
         return not are_same(self, Formula(pile_of_integer(0)))
 
     def __repr__(self):
-        return f"Formula({len(self.rule.parts)})"
+        return f"Formula({self.rank})"

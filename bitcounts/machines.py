@@ -1,12 +1,11 @@
-"""Machines of tests: their classes, and how they are joined, compared and asked for least numbers."""
+"""Machines of tests: their classes, and how they are asked for least numbers."""
 
-from bitcounts.digit_rows import digit_row, own_rows, places_that_matter, rows_of_places, united
+from bitcounts.digit_rows import digit_row, places_that_matter, rows_of_places
 from bitcounts.errors import TooManyClasses
 from bitcounts.limits import CLASSES
 
-GREATEST_PAIRS = 4096
-# Whether the second one holds, or the first one does not, by both.
-ONLY_IF = ((True, True), (False, True))
+# What stands beside a machine of which nothing else is told.
+ALONE = ((), ())
 
 
 class Machine:
@@ -15,22 +14,26 @@ class Machine:
     `variables` are the ascending names on which the test hangs, `ways` has for each state the tuple of the
     states that follow by each digit row, from the lowest place on, and `marks` whether the states hold at 0.
     The states are numbered as they come, by the digit rows of each state in their order, state by state.
+
+    `beside` is a pair of tuples of other machines: where it holds, all of the first ones do; where it does not, all of
+    the second ones do. There may be none.
     """
 
-    def __init__(self, variables, ways, marks):
+    def __init__(self, variables, ways, marks, beside):
         self.variables = variables
         self.ways = ways
         self.marks = marks
+        self.beside = beside
 
 
 def everywhere():
     """The machine of the test that holds everywhere."""
-    return Machine((), ((0,),), (True,))
+    return Machine((), ((0,),), (True,), ALONE)
 
 
 def never():
     """The machine of the test that holds nowhere."""
-    return Machine((), ((0,),), (False,))
+    return Machine((), ((0,),), (False,), ALONE)
 
 
 def leading(ways, bound):
@@ -121,8 +124,8 @@ def without_idle(names, ways, marks):
     kept = rows_of_places(len(names), places)
     used = tuple([names[place] for place in places])
     if len(places) == len(names):
-        return Machine(names, tuple([tuple(row) for row in ways]), tuple(marks))
-    return Machine(used, tuple([tuple([row[index] for index in kept]) for row in ways]), tuple(marks))
+        return Machine(names, tuple([tuple(row) for row in ways]), tuple(marks), ALONE)
+    return Machine(used, tuple([tuple([row[index] for index in kept]) for row in ways]), tuple(marks), ALONE)
 
 
 def least_machine(names, ways, marks, groups):
@@ -147,115 +150,9 @@ def least_machine(names, ways, marks, groups):
     return without_idle(names, links, [marks[at] for at in found])
 
 
-def settled_states(machine, table):
-    """The states that hold or do not hold wherever they come up, if the table's row for that says the same for both."""
-    if not table:
-        return {}
-    found = {}
-    for state, (way, mark) in enumerate(zip(machine.ways, machine.marks)):
-        row = table[int(mark)]
-        if row[0] == row[1] and all([follower == state for follower in way]):
-            found[state] = True
-    return found
-
-
-class Pairs:
-    """The pairs of states, one of each of two machines, that come of the first ones.
-
-    The code of a pair is that of the second state and the first one times how many there are of the second; that of
-    all pairs that are settled is the product of both numbers. `codes` are those that come up, as they come, `rows`
-    has for each of them the codes that follow it, and `places` the place of each code.
-    """
-
-    def __init__(self, codes, rows, places):
-        self.codes = codes
-        self.rows = rows
-        self.places = places
-
-
-def pairs_of(machine, other, names, table):
-    """The pairs that come up; by the table, those are settled by one state for which the other one does not matter.
-
-    If there is no table, none are settled, and TooManyClasses is raised if there are more than 4096 pairs.
-    """
-    own, beside = own_rows(machine.variables, names), own_rows(other.variables, names)
-    size = len(other.marks)
-    many = size * len(machine.marks)
-    first = [[way[index] * size for index in own] for way in machine.ways]
-    second = [[way[index] for index in beside] for way in other.ways]
-    settled = settled_states(machine, table)
-    settled_beside = settled_states(other, tuple(zip(table[0], table[1])) if table else None)
-    codes = [many if 0 in settled or 0 in settled_beside else 0]
-    places = {0: 0, codes[0]: 0}
-    rows = []
-    while len(rows) < len(codes):
-        code = codes[len(rows)]
-        if code == many:
-            rows.append([many for _ in own])
-            continue
-        row = [way + ahead for way, ahead in zip(first[code // size], second[code % size])]
-        rows.append(row)
-        fresh = [then for then in row if then not in places]
-        for follower in fresh:
-            if follower // size in settled or follower % size in settled_beside:
-                if many not in places:
-                    places[many] = len(codes)
-                    codes.append(many)
-                places[follower] = places[many]
-            elif follower not in places:
-                places[follower] = len(codes)
-                codes.append(follower)
-        if not table and len(codes) > GREATEST_PAIRS:
-            raise TooManyClasses()
-    return Pairs(codes, rows, places)
-
-
-def paired(machine, other, names):
-    """The pairs of states, one of each machine, that come of the first ones, and those that follow them."""
-    size = len(other.marks)
-    pairs = pairs_of(machine, other, names, None)
-    return [(code // size, code % size) for code in pairs.codes], linked(pairs)
-
-
-def linked(pairs):
-    """For each pair the places of those that follow."""
-    return [[pairs.places[code] for code in row] for row in pairs.rows]
-
-
-def joined_marks(machine, other, codes, table):
-    """Whether both joined hold at the pairs with these codes."""
-    size = len(other.marks)
-    many = size * len(machine.marks)
-    settled = any([row[0] and row[1] for row in table])
-    return [settled if code == many else
-            table[int(machine.marks[code // size])][int(other.marks[code % size])] for code in codes]
-
-
-def joined(machine, other, table):
-    """The machine that holds where the table says so, by whether the one and whether the other one holds."""
-    names = united(machine.variables, other.variables)
-    if len(machine.marks) * len(other.marks) > GREATEST_PAIRS:
-        # All pairs are to be counted, also those that are settled.
-        _ = pairs_of(machine, other, names, None)
-    pairs = pairs_of(machine, other, names, table)
-    marks = joined_marks(machine, other, pairs.codes, table)
-    if not any(marks):
-        return never()
-    if all(marks):
-        return everywhere()
-    ways = linked(pairs)
-    return least_machine(names, ways, marks, grouped(ways, marks))
-
-
 def opposite(machine):
-    return Machine(machine.variables, machine.ways, tuple([not mark for mark in machine.marks]))
-
-
-def is_within(machine, other):
-    """Whether the other one holds wherever the first one does."""
-    names = united(machine.variables, other.variables)
-    pairs = pairs_of(machine, other, names, ONLY_IF)
-    return all(joined_marks(machine, other, pairs.codes, ONLY_IF))
+    marks = tuple([not mark for mark in machine.marks])
+    return Machine(machine.variables, machine.ways, marks, (machine.beside[1], machine.beside[0]))
 
 
 def same_machines(machine, other):

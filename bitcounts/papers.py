@@ -1,7 +1,8 @@
 """Claims about rules and machines and the certificates for them, as plain tuples."""
 
 from bitcounts.digit_rows import united
-from bitcounts.machines import GREATEST_PAIRS, Machine, least_numbers, paired
+from bitcounts.joins import GREATEST_PAIRS, paired
+from bitcounts.machines import ALONE, Machine, least_numbers
 from bitcounts.points import points_of, rows_between, tuples_of
 from bitcounts.rows import fractions
 from bitcounts.rules import rule_equations
@@ -53,7 +54,7 @@ def states_paper(machine, other):
     found, ways = paired(machine, other, names)
     claim = plain_states(machine), plain_states(other)
     marks = [machine.marks[state] and not other.marks[against] for state, against in found]
-    least = least_numbers(Machine(names, ways, marks))
+    least = least_numbers(Machine(names, ways, marks, ALONE))
     if least is None:
         return ("within", *claim), pairs_in_order(found)
     return ("outside", *claim, tuple(zip(names, least))), ()

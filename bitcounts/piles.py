@@ -11,23 +11,66 @@ from bitcounts.measuring import measured_numbers
 from bitcounts.mixed_rules import mixture_block, mixture_rule, mixture_system
 from bitcounts.mixtures import Mixture, mixed, mixture_names, same_mixtures, scaled_mixture
 from bitcounts.rules import (
-    Rule, multiplied, rows_system, rule_block, rule_value, same_rules, scaled, solved_rule, sum_system,
+    Rule, rows_system, rule_block, rule_value, same_rules, scaled, solved_rule, sum_system,
 )
-from bitcounts.solving import vanishes
-from bitcounts.systems import several_system
+from bitcounts.solving import Columns, more_columns, rank_of, some_columns, vanishes
+from bitcounts.systems import as_grid, several_system, system_of_product, width_of
+from bitcounts.walks import is_linear
 
 # With more lines than these, least rules tell it more quickly.
 MOST_LINES = 40
 MOST_PRODUCTS = 100
+FEW_PRODUCTS = 16
+# Numbers for each name by which it is tried whether values differ.
+SOME_NUMBERS = ((5, 12), (6, 1), (10, 3))
 
 
 class Source:
-    """What a least rule is worked out of when it is asked for: as `solved_rule` takes it."""
+    """What a least rule is worked out of when it is asked for: a system, its columns if they are known, and names.
 
-    def __init__(self, system, known, names):
+    `factors` are the sources of two formulas without a common name if it is that of their product, or None.
+    """
+
+    def __init__(self, system, known, names, factors):
         self.system = system
         self.known = known
         self.letters = names
+        self.factors = factors
+        self._columns = None
+
+    @property
+    def columns(self):
+        if self._columns is None:
+            self._columns = columns_of_source(self.system, self.known, self.factors)
+        return self._columns
+
+
+def columns_of_source(system, known, factors):
+    if known is not None:
+        return known
+    if factors is None:
+        return some_columns(system)
+    return Columns((every_column(factors[0]), every_column(factors[1])), None, [])
+
+
+def every_column(source):
+    """All columns of the source, one by one."""
+    columns = source.columns
+    if source.factors is not None:
+        return [(column, beside) for column in columns.found[0] for beside in columns.found[1]]
+    return more_columns(source.system, columns, width_of(source.system)).found if columns.waiting else columns.found
+
+
+def solving_system(source):
+    return source.system if source.factors is None else as_grid(source.system)
+
+
+def source_rank(source):
+    return rank_of(solving_system(source), source.columns, len(source.letters))
+
+
+def source_rule(source):
+    return solved_rule(solving_system(source), source.columns, source.letters)
 
 
 class Term:
@@ -35,24 +78,31 @@ class Term:
 
     The `shape` tells its values quickly, or is None. It is a pair of a kind and what it is about: a mixture that is
     measured, for "held" a machine, for "added" the lines of a sum over a range, for "sum" a pile, and for "times" a
-    pair of piles, so `deep` within each other. The `source` is a Rule, a Source, or None if the shape tells the rule.
+    pair of piles, so `deep` within each other. The `origin` is a Rule, a Source, or None if the shape tells the rule.
     The names on which the formula hangs, and those of the shape, are among its `letters`; its rank is not above `most`.
     `integer_lines` are its lines, alone in a tuple, which is empty if it is not told by few integer lines.
     """
 
-    def __init__(self, source, names, most, shape, deep):
-        self.source = source
+    def __init__(self, origin, names, most, shape, deep):
+        self.origin = origin
         self.letters = names
         self.most = most
         self.shape = shape
         self.deep = deep
         self._told = None
+        self._source = None
         self._integer_lines = None
+
+    @property
+    def source(self):
+        if self._source is None:
+            self._source = source_of(self.origin, self.shape)
+        return self._source
 
     @property
     def told(self):
         if self._told is None:
-            self._told = rule_of_term(self)
+            self._told = self.origin if isinstance(self.origin, Rule) else source_rule(self.source)
         return self._told
 
     @property
@@ -62,16 +112,31 @@ class Term:
         return self._integer_lines
 
 
-def rule_of_term(term):
-    source = term.source
-    if isinstance(source, Rule):
-        return source
-    if source is not None:
-        return solved_rule(source.system, source.known, source.letters)
-    if term.integer_lines:
-        lines = term.integer_lines[0]
-        return solved_rule(lines_system(lines), None, lines.letters)
-    return multiplied(pile_rule(term.shape[1][0]), pile_rule(term.shape[1][1]))
+def source_of(origin, shape):
+    """The source of a term."""
+    if isinstance(origin, Rule):
+        return source_of_system(rows_system(origin), origin.variables)
+    if origin is not None:
+        return origin
+    if shape[0] == "times":
+        return source_of_product(shape[1][0], shape[1][1])
+    lines = lines_of_shape(shape)[0]
+    return source_of_system(lines_system(lines), lines.letters)
+
+
+def source_of_system(system, names):
+    return Source(system, None, names, None)
+
+
+def source_of_product(pile, beside):
+    """The source of a product by those of its factors, or by its lines if they seem to be fewer."""
+    one, other = pile_source(pile), pile_source(beside)
+    names = all_letters([one.letters, other.letters])
+    system = system_of_product(one.system, one.letters, other.system, other.letters, names)
+    if len(names) == len(one.letters) + len(other.letters):
+        return Source(system, None, names, (one, other))
+    lines = lines_of_shape(("times", (pile, beside))) if width_of(system) > FEW_PRODUCTS else ()
+    return source_of_system(lines_system(lines[0]) if lines else system, names)
 
 
 def lines_of_shape(shape):
@@ -214,6 +279,17 @@ def pile_names(pile):
     return all_letters([mixture_names(pile.mixture), *[term.letters for _, term in pile.terms]])
 
 
+def pile_source(pile):
+    """What the least rule is worked out of."""
+    if len(pile.terms) == 1 and not pile.mixture.parts and pile.mixture.constant == 0 and pile.terms[0][0] == 1:
+        return pile.terms[0][1].source
+    names = pile_names(pile)
+    pieces = [piece_of_term(by, term) for by, term in pile.terms]
+    if pile.mixture.parts or pile.mixture.constant or not pieces:
+        pieces.append((1, mixture_system(pile.mixture, names), names))
+    return source_of_system(several_system(pieces, names) if pile.terms else pieces[0][1], names)
+
+
 def pile_rule(pile):
     """The least rule; TooMany is raised if its rank is greater than 16."""
     if not pile.terms:
@@ -222,6 +298,16 @@ def pile_rule(pile):
         return scaled(pile.terms[0][1].told, pile.terms[0][0])
     system, names = pile_system(pile)
     return solved_rule(system, None, names)
+
+
+def pile_rank(pile):
+    """The rank; TooMany is raised if it is greater than 16."""
+    if len(pile.terms) == 1 and not pile.mixture.parts and pile.mixture.constant == 0:
+        term = pile.terms[0][1]
+        return len(term.told.starts) if isinstance(term.origin, Rule) else source_rank(term.source)
+    if not pile.terms and is_linear(pile.mixture):
+        return 2 if pile.mixture.parts else int(pile.mixture.constant != 0)
+    return source_rank(pile_source(pile))
 
 
 def pile_system(pile):
@@ -238,24 +324,15 @@ def is_nothing(pile):
 
 def piece_of_term(by, term):
     """What `several_system` takes for so many times the term."""
-    lines, source = term.integer_lines, term.source
-    if lines and len(lines[0].starts) <= MOST_LINES:
-        return by, lines_system(lines[0]), lines[0].letters
-    if isinstance(source, Source) and source.system.kind not in ("product", "grid"):
-        if len(source.system.first) <= MOST_LINES:
-            return by, source.system, source.letters
+    source = term.source
+    if width_of(source.system) <= MOST_LINES:
+        return by, source.system, source.letters
     return by, rows_system(term.told), term.told.variables
 
 
 def is_zero(pile):
     """Whether the pile, of no more than three names, is 0 everywhere."""
-    if is_nothing(pile):
-        return True
-    names = pile_names(pile)
-    pieces = [piece_of_term(by, term) for by, term in pile.terms]
-    if pile.mixture.parts or pile.mixture.constant:
-        pieces.append((1, mixture_system(pile.mixture, names), names))
-    return vanishes(several_system(pieces, names) if len(pieces) > 1 else pieces[0][1])
+    return is_nothing(pile) or vanishes(pile_source(pile).system)
 
 
 def term_value(term, numbers):
@@ -280,3 +357,17 @@ def pile_value(pile, numbers):
     for by, term in pile.terms:
         value = value + by * term_value(term, numbers)
     return value
+
+
+def is_seen_to_hang(pile, names):
+    """Whether some values show that the pile hangs on each of these names, which are all of its own."""
+    if len(names) > len(SOME_NUMBERS):
+        return False
+    one = {name: pair[0] for name, pair in zip(names, SOME_NUMBERS)}
+    other = {name: pair[1] for name, pair in zip(names, SOME_NUMBERS)}
+    value, beside = pile_value(pile, one), pile_value(pile, other)
+    for letter in names:
+        if pile_value(pile, {**one, letter: other[letter]}) == value:
+            if pile_value(pile, {**other, letter: one[letter]}) == beside:
+                return False
+    return True

@@ -5,7 +5,7 @@ from bitcounts.errors import TooMany
 from bitcounts.limits import TOGETHER
 from bitcounts.rows import applied, crossed, fractions, moved, row_of
 from bitcounts.solving import Columns, all_columns, least_lines, links_solved
-from bitcounts.systems import System
+from bitcounts.systems import System, as_grid, system_of_product
 
 HIGHEST_POWER = 3
 
@@ -197,12 +197,11 @@ def rows_system(rule):
 def product_system(rule, other):
     """The system of the product of two rules that hang on some names, its columns if they are known, and all names."""
     names = united(rule.variables, other.variables)
-    moves = list(zip(widened(rule, names), widened(other, names)))
-    part = told_first(rule.starts), told_first(other.starts)
+    one, two = rows_system(rule), rows_system(other)
+    system = system_of_product(one, rule.variables, two, other.variables, names)
     if len(names) < len(rule.variables) + len(other.variables):
-        return System("product", (rule.starts, other.starts), moves, part, None), None, names
-    columns = all_columns(rows_system(rule)), all_columns(rows_system(other))
-    return System("grid", None, moves, part, None), Columns(columns, None, []), names
+        return system, None, names
+    return as_grid(system), Columns((all_columns(one), all_columns(two)), None, []), names
 
 
 def check_product(rule, other):

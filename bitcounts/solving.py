@@ -118,7 +118,9 @@ def some_columns(system):
 def vanishes(system):
     """Whether what the system tells is 0 everywhere: it is if it is 0 at all columns that are told apart."""
     known = first_column(system)
-    found, waiting, table = list(known.found), [0], known.table
+    found = list(known.found)
+    waiting = [0]
+    table = known.table
     if part_values(system, system.part, found)[0] != 0:
         return False
     while waiting and table.others:
@@ -267,6 +269,26 @@ def least_parts(system, known, size):
         parts = parts_of(system, columns.found, size)
         most = MORE * most
     return parts
+
+
+def rank_of(system, columns, size):
+    """The rank, for so many names, by the columns; TooMany is raised if it is greater than 16."""
+    if columns.waiting:
+        return len(least_parts(system, columns, size).codes)
+    vector = part_values(system, system.part, columns.found)
+    table = empty_table(len(vector))
+    # No more parts are told apart than columns, so it is not asked what follows the last ones.
+    most = len(vector) if columns.table is None else len(columns.table.pivots)
+    waiting = [system.part]
+    while waiting and len(table.pivots) < most:
+        part = waiting.pop()
+        rests = rests_of(part_values(system, part, columns.found), table)
+        if any(rests):
+            if len(table.pivots) == RANK:
+                raise TooMany()
+            table = widened_table(table, rests)
+            waiting.extend([part_behind(system, part, move) for move in system.moves])
+    return len(table.pivots)
 
 
 def least_lines(system, known, names):

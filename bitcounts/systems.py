@@ -12,7 +12,7 @@ sides of rows as moves, and their parts are rows.
 
 from bitcounts.digit_rows import own_rows
 from bitcounts.measuring import lines_measured, measured_numbers
-from bitcounts.rows import applied, combined, row_behind
+from bitcounts.rows import applied, row_behind
 
 # How many lines are looked at where some of them will do.
 SOME_LINES = 40
@@ -25,7 +25,8 @@ class System:
     are to be looked at, or what is measured of their sums. What is measured hangs on the `marks` of lines besides, as
     `lines_measured` takes them. For a "product" of two formulas there are pairs of columns, moves and parts; for a
     "grid", whose names are different ones, a pair of lists of columns, each of the one belonging to each of the other.
-    For a sum of "several" formulas there are lists of them, and the `marks` are pairs of a factor and a system.
+    The `marks` of both are the two systems and whether they are alike but for their parts. For a sum of "several"
+    formulas there are lists of columns, moves and parts, and the `marks` are pairs of a factor and a system.
     """
 
     def __init__(self, kind, first, moves, part, marks):
@@ -46,6 +47,31 @@ def several_system(pieces, names):
     return System("several", first, moves, part, [(by, one) for by, one, _ in pieces])
 
 
+def alike_systems(system, other):
+    """Whether it is seen at once that both have the same lines, which are told apart by their values alone."""
+    if system.kind != other.kind or system.kind != "sum" and system.kind != "lines":
+        return False
+    return system.first == other.first and system.moves == other.moves
+
+
+def system_of_product(system, own, other, beside, names):
+    """The system of the product of both, which have these names."""
+    rows = list(zip(own_rows(own, names), own_rows(beside, names)))
+    moves = [(system.moves[index], other.moves[index_beside]) for index, index_beside in rows]
+    first, part = (system.first, other.first), (system.part, other.part)
+    return System("product", first, moves, part, (system, other, own == beside and alike_systems(system, other)))
+
+
+def as_grid(system):
+    """The system of a product whose names are different ones, as that of a grid."""
+    return System("grid", None, system.moves, system.part, system.marks)
+
+
+def width_of(system):
+    """How many numbers tell columns apart."""
+    return len(told_apart(system, system.first))
+
+
 def moved_column(system, column, move):
     kind = system.kind
     if kind == "lines":
@@ -53,7 +79,8 @@ def moved_column(system, column, move):
     if kind == "rows":
         return applied(move, column)
     if kind == "product":
-        return applied(move[0], column[0]), applied(move[1], column[1])
+        one, other, _ = system.marks
+        return moved_column(one, column[0], move[0]), moved_column(other, column[1], move[1])
     if kind == "several":
         return [moved_column(one, own, own_move) for (_, one), own, own_move in zip(system.marks, column, move)]
     return [factor * column[place] + addend for factor, place, addend in move]
@@ -68,7 +95,11 @@ def told_apart(system, column):
     if system.kind == "some":
         return column[:SOME_LINES]
     if system.kind == "product":
-        return [number * beside for number in column[0] for beside in column[1]]
+        one, other, alike = system.marks
+        first, second = told_apart(one, column[0]), told_apart(other, column[1])
+        if alike:
+            return [number * beside for at, number in enumerate(first) for beside in second[at:]]
+        return [number * beside for number in first for beside in second]
     return lines_measured(system.kind, column, system.marks)
 
 
@@ -91,7 +122,8 @@ def part_behind(system, part, move):
     if kind == "rows":
         return row_behind(part, move)
     if kind == "product" or kind == "grid":
-        return row_behind(part[0], move[0]), row_behind(part[1], move[1])
+        one, other, _ = system.marks
+        return part_behind(one, part[0], move[0]), part_behind(other, part[1], move[1])
     if kind == "several":
         return [part_behind(one, own, own_move) for (_, one), own, own_move in zip(system.marks, part, move)]
     addend, pairs = part
@@ -113,6 +145,16 @@ def row_values(row, columns):
     return [sum([top * column[place] for place, top in pairs]) for column in columns]
 
 
+def values_of_product(system, part, columns):
+    one, other, _ = system.marks
+    if system.kind == "grid":
+        beside = part_values(other, part[1], columns[1])
+        return [number * by for number in part_values(one, part[0], columns[0]) for by in beside]
+    beside = part_values(other, part[1], [column[1] for column in columns])
+    numbers = part_values(one, part[0], [column[0] for column in columns])
+    return [number * by for number, by in zip(numbers, beside)]
+
+
 def values_of_several(system, parts, columns):
     values = [0 for _ in columns]
     for at, (by, one) in enumerate(system.marks):
@@ -130,11 +172,8 @@ def part_values(system, part, columns):
         return row_values(part, columns)
     if kind == "several":
         return values_of_several(system, part, columns)
-    if kind == "product":
-        return [combined(part[0], column[0]) * combined(part[1], column[1]) for column in columns]
-    if kind == "grid":
-        beside = row_values(part[1], columns[1])
-        return [number * other for number in row_values(part[0], columns[0]) for other in beside]
+    if kind == "product" or kind == "grid":
+        return values_of_product(system, part, columns)
     addend, pairs = part
     if len(pairs) == 1:
         factor, first = pairs[0]

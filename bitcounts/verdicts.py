@@ -3,7 +3,7 @@
 from bitcounts.atoms import SILENT
 from bitcounts.errors import TooManyClasses
 from bitcounts.limits import CLASSES
-from bitcounts.machines import Machine, everywhere, grouped, least_machine, never, without_idle
+from bitcounts.machines import ALONE, Machine, everywhere, grouped, least_machine, never, without_idle
 from bitcounts.mixtures import Mixture, common_zeros, is_silent, mixture_names
 from bitcounts.rows import common_divisor
 from bitcounts.walks import (
@@ -156,14 +156,14 @@ def states_of_zero(mixture):
         bounds = Bounds(mixture, True)
         first = kept_within(mixture.constant, bounds)
         found, ways = linear_ways(tops_of_rows(mixture, 0, names), first, bounds, ALL)
-        return Machine(names, ways, linear_marks(found, True))
+        return Machine(names, ways, linear_marks(found, True), ALONE)
     zeros, silent = common_zeros(mixture), is_silent(mixture)
     if mixture.constant & ((1 << zeros) - 1):
         return never()
     parts = weighed(mixture, zeros, names)
     found, ways = digit_ways(first_state(mixture, zeros, silent), parts, 1 << len(names), silent, True, ALL)
     values = [None if state is None else value_at_zero(state, mixture, zeros, silent) for state in found]
-    return Machine(names, ways, linear_marks(values, True))
+    return Machine(names, ways, linear_marks(values, True), ALONE)
 
 
 def compared(mixture, equal):

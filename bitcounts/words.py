@@ -16,7 +16,7 @@ from bitcounts.mixtures import (
     Mixture, is_bulky, is_spread, many_lines, mixed, mixture_lag, mixture_names, scaled_mixture, zeros_below,
 )
 from bitcounts.pairings import joined_mixtures
-from bitcounts.piles import Pile, pile_of_rule
+from bitcounts.piles import Pile, is_seen_to_hang, pile_of_rule, pile_rank
 from bitcounts.readings import below_zero, equal_to_zero, machine_of, with_rest
 from bitcounts.rules import (
     added, is_variable, rule_equations, scaled, side_by_side, told_both, told_first,
@@ -151,12 +151,27 @@ def rest_test(one, modulus, rest):
     return Test(machine_of(rule.variables, rule.sides, rule.starts, told, mixture_lag(mixture), reading))
 
 
+def names_of_word(one):
+    """The names on which the word hangs; its least rule is asked for them only if values do not show them."""
+    mixture = one._mixture
+    names = mixture_names(mixture)
+    if is_spread(mixture) or not is_bulky(mixture) and is_seen_to_hang(Pile(mixture, ()), names):
+        return names
+    return one.rule.variables
+
+
+def rank_of_word(one):
+    return len(one.rule.parts) if is_bulky(one._mixture) else pile_rank(Pile(one._mixture, ()))
+
+
 class Word:
     """A word is kept as a mixture; its least rule is worked out when it is asked for."""
 
     def __init__(self, mixture):
         self._mixture = mixture
         self._word_rule = None
+        self._word_rank = None
+        self._word_names = None
 
     @property
     def rule(self):
@@ -166,11 +181,15 @@ class Word:
 
     @property
     def names(self):
-        return mixture_names(self._mixture) if is_spread(self._mixture) else self.rule.variables
+        if self._word_names is None:
+            self._word_names = names_of_word(self)
+        return self._word_names
 
     @property
     def rank(self):
-        return len(self.rule.parts)
+        if self._word_rank is None:
+            self._word_rank = rank_of_word(self)
+        return self._word_rank
 
     @property
     def basis(self):
@@ -311,7 +330,7 @@ class Word:
         return bool(formula(self))
 
     def __repr__(self):
-        return f"Word({len(self.rule.parts)})"
+        return f"Word({self.rank})"
 
 
 def var(name):
