@@ -9,17 +9,19 @@ from bitcounts.lines import (
 from bitcounts.mixtures import many_lines
 from bitcounts.piles import (
     Source, Term, all_letters, depth_of, is_nothing, pile_lines, pile_names, pile_of_integer, pile_of_rule,
-    pile_of_shape, pile_rank, pile_rule, pile_system, scaled_pile, single_pile, source_of_product, source_of_system,
+    pile_of_shape, pile_system, scaled_pile, single_pile, source_of_product, source_of_system,
     source_rank,
 )
 from bitcounts.rules import solved_rule
-from bitcounts.solving import least_parts, some_columns
+from bitcounts.solving import least_basis, some_columns
 from bitcounts.systems import SOME_LINES, System, told_apart
 
 MOST_TERMS = 6
 # With more states than these most ranks of what is measured of words of one name are too great.
 MANY_LINES = 21
 DEEPEST = 6
+# More lines than any product has.
+ALL_LINES = 1 << 60
 
 
 def most_rank(pile, exact):
@@ -34,7 +36,7 @@ def pile_of_product(pile, beside):
     """The pile of the product of two piles of no more than three names; TooMany is raised if a limit is exceeded."""
     most = most_rank(pile, False) * most_rank(beside, False)
     if most > RANK:
-        most = pile_rank(pile) * pile_rank(beside)
+        most = pile.rank * beside.rank
         if most > TOGETHER:
             raise TooMany()
     deep = 1 + depth_of(pile) + depth_of(beside)
@@ -114,12 +116,12 @@ def machine_rank(machine):
 def check_summand(pile, machine, lines):
     """TooMany is raised if a limit does not allow the product of the pile, by its lines, and what the machine tells."""
     if many_holding(machine) * most_rank(pile, False) > TOGETHER:
-        if machine_rank(machine) * len(pile_rule(pile).starts) > TOGETHER:
+        if machine_rank(machine) * pile.rank > TOGETHER:
             raise TooMany()
-    product = product_of_lines(lines_of_machine(machine), lines)
+    product = product_of_lines(lines_of_machine(machine), lines, ALL_LINES)[0]
     known = some_columns(lines_system(product))
     if known.waiting or len(known.found) > RANK:
-        _ = least_parts(lines_system(product), known, len(product.letters))
+        _ = least_basis(lines_system(product), known, len(product.letters))
 
 
 def pile_of_sum(pile, machine, lines, name):

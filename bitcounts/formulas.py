@@ -6,8 +6,7 @@ from bitcounts.digit_rows import united
 from bitcounts.limits import NAMES
 from bitcounts.mixtures import is_spread
 from bitcounts.piles import (
-    all_letters, is_seen_to_hang, is_zero, pile_names, pile_of_integer, pile_of_rule, pile_rank, pile_rule, pile_value,
-    piled, scaled_pile,
+    all_letters, is_seen_to_hang, is_zero, pile_names, pile_of_integer, pile_of_rule, pile_value, piled, scaled_pile,
 )
 from bitcounts.rules import HIGHEST_POWER, rule_equations, same_rules
 
@@ -82,15 +81,11 @@ class Formula:
 
     def __init__(self, pile):
         self._pile = pile
-        self._formula_rule = None
-        self._formula_rank = None
         self._formula_names = None
 
     @property
     def rule(self):
-        if self._formula_rule is None:
-            self._formula_rule = pile_rule(self._pile)
-        return self._formula_rule
+        return self._pile.rule
 
     @property
     def names(self):
@@ -100,9 +95,7 @@ class Formula:
 
     @property
     def rank(self):
-        if self._formula_rank is None:
-            self._formula_rank = pile_rank(self._pile)
-        return self._formula_rank
+        return self._pile.rank
 
     @property
     def basis(self):

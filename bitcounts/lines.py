@@ -138,8 +138,11 @@ def by_rows(table, many):
     return [[row[index] for row in table] for index in range(many)]
 
 
-def product_of_lines(lines, other):
-    """The lines of the product: products of lines, as far as they come up."""
+def product_of_lines(lines, other, most):
+    """The lines of the product, alone in a tuple: products of lines, as far as they come up.
+
+    The tuple is empty if there are more than `most` lines.
+    """
     names = united(lines.letters, other.letters)
     rows = list(zip(own_rows(lines.letters, names), own_rows(other.letters, names)))
     alike = lines.letters == other.letters and lines.starts == other.starts and lines.moves == other.moves
@@ -159,8 +162,11 @@ def product_of_lines(lines, other):
                     codes.append(code)
             told.append(tuple([(places[code], sums[code]) for code in sums]))
         table.append(told)
+        if len(codes) > most:
+            return ()
     starts = [lines.starts[code // size] * other.starts[code % size] for code in codes]
-    return Lines(names, starts, by_rows(table, len(rows)), tuple([(places[code], first[code]) for code in first]))
+    part = tuple([(places[code], first[code]) for code in first])
+    return (Lines(names, starts, by_rows(table, len(rows)), part),)
 
 
 def both_digits(names, name):

@@ -11,16 +11,19 @@ from bitcounts.measuring import measured_numbers
 from bitcounts.mixed_rules import mixture_block, mixture_rule, mixture_system
 from bitcounts.mixtures import Mixture, mixed, mixture_names, same_mixtures, scaled_mixture
 from bitcounts.rules import (
-    Rule, rows_system, rule_block, rule_value, same_rules, scaled, solved_rule, sum_system,
+    Rule, rows_system, rule_block, rule_value, same_rules, rule_of_basis, scaled, sum_system,
 )
-from bitcounts.solving import Columns, more_columns, rank_of, some_columns, vanishes
+from bitcounts.solving import Columns, least_basis, more_columns, some_columns, vanishes
 from bitcounts.systems import as_grid, several_system, system_of_product, width_of
 from bitcounts.walks import is_linear
 
 # With more lines than these, least rules tell it more quickly.
 MOST_LINES = 40
-MOST_PRODUCTS = 100
+FEW_MEASURED = 12
+FEW_LINES = 6
+FEWEST_LINES = 3
 FEW_PRODUCTS = 16
+KINDS_OF_LINES = ("lines", "sum", "rows", "product")
 # Numbers for each name by which it is tried whether values differ.
 SOME_NUMBERS = ((5, 12), (6, 1), (10, 3))
 
@@ -37,12 +40,19 @@ class Source:
         self.letters = names
         self.factors = factors
         self._columns = None
+        self._basis = None
 
     @property
     def columns(self):
         if self._columns is None:
             self._columns = columns_of_source(self.system, self.known, self.factors)
         return self._columns
+
+    @property
+    def least_parts(self):
+        if self._basis is None:
+            self._basis = least_basis(solving_system(self), self.columns, len(self.letters))
+        return self._basis
 
 
 def columns_of_source(system, known, factors):
@@ -66,11 +76,11 @@ def solving_system(source):
 
 
 def source_rank(source):
-    return rank_of(solving_system(source), source.columns, len(source.letters))
+    return len(source.least_parts.parts.codes)
 
 
 def source_rule(source):
-    return solved_rule(solving_system(source), source.columns, source.letters)
+    return rule_of_basis(solving_system(source), source.least_parts, source.letters)
 
 
 class Term:
@@ -128,15 +138,28 @@ def source_of_system(system, names):
     return Source(system, None, names, None)
 
 
+def compact_source(pile, most):
+    """The source of the pile, by its least rule if more numbers than `most`, and than its rank, tell columns apart."""
+    source = pile.source
+    if width_of(source.system) <= most or width_of(source.system) <= pile.rank + 1:
+        return source
+    return source_of_system(rows_system(pile.rule), pile.rule.variables)
+
+
 def source_of_product(pile, beside):
-    """The source of a product by those of its factors, or by its lines if they seem to be fewer."""
-    one, other = pile_source(pile), pile_source(beside)
+    """The source of a product by those of its factors, or by its lines."""
+    apart = len(all_letters([pile_names(pile), pile_names(beside)])) == len(pile_names(pile)) + len(pile_names(beside))
+    one, other = pile.source, beside.source
+    if apart:
+        one, other = compact_source(pile, FEW_LINES), compact_source(beside, FEW_LINES)
+    elif width_of(one.system) * width_of(other.system) > FEW_PRODUCTS:
+        lines = lines_of_shape(("times", (pile, beside)))
+        if lines:
+            return source_of_system(lines_system(lines[0]), lines[0].letters)
+        one, other = compact_source(pile, FEWEST_LINES), compact_source(beside, FEWEST_LINES)
     names = all_letters([one.letters, other.letters])
     system = system_of_product(one.system, one.letters, other.system, other.letters, names)
-    if len(names) == len(one.letters) + len(other.letters):
-        return Source(system, None, names, (one, other))
-    lines = lines_of_shape(("times", (pile, beside))) if width_of(system) > FEW_PRODUCTS else ()
-    return source_of_system(lines_system(lines[0]) if lines else system, names)
+    return Source(system, None, names, (one, other) if apart else None)
 
 
 def lines_of_shape(shape):
@@ -151,8 +174,7 @@ def lines_of_shape(shape):
         return pile_lines(about)
     if kind == "times":
         one, other = pile_lines(about[0]), pile_lines(about[1])
-        if one and other and len(one[0].starts) * len(other[0].starts) <= MOST_PRODUCTS:
-            return (product_of_lines(one[0], other[0]),)
+        return product_of_lines(one[0], other[0], MOST_LINES) if one and other else ()
     return ()
 
 
@@ -202,11 +224,35 @@ def depth_of(pile):
 
 
 class Pile:
-    """A mixture and the pairs of a factor, not 0, and a term."""
+    """A mixture and the pairs of a factor, not 0, and a term.
+
+    The `source` is what its least `rule` and its `rank` are worked out of; TooMany is raised if that is above 16.
+    """
 
     def __init__(self, mixture, terms):
         self.mixture = mixture
         self.terms = terms
+        self._pile_source = None
+        self._pile_rule = None
+        self._pile_rank = None
+
+    @property
+    def source(self):
+        if self._pile_source is None:
+            self._pile_source = source_of_pile(self)
+        return self._pile_source
+
+    @property
+    def rule(self):
+        if self._pile_rule is None:
+            self._pile_rule = rule_of_pile(self)
+        return self._pile_rule
+
+    @property
+    def rank(self):
+        if self._pile_rank is None:
+            self._pile_rank = rank_of_pile(self)
+        return self._pile_rank
 
 
 def pile_of_integer(number):
@@ -279,9 +325,8 @@ def pile_names(pile):
     return all_letters([mixture_names(pile.mixture), *[term.letters for _, term in pile.terms]])
 
 
-def pile_source(pile):
-    """What the least rule is worked out of."""
-    if len(pile.terms) == 1 and not pile.mixture.parts and pile.mixture.constant == 0 and pile.terms[0][0] == 1:
+def source_of_pile(pile):
+    if is_single(pile) and pile.terms[0][0] == 1:
         return pile.terms[0][1].source
     names = pile_names(pile)
     pieces = [piece_of_term(by, term) for by, term in pile.terms]
@@ -290,24 +335,26 @@ def pile_source(pile):
     return source_of_system(several_system(pieces, names) if pile.terms else pieces[0][1], names)
 
 
-def pile_rule(pile):
-    """The least rule; TooMany is raised if its rank is greater than 16."""
+def is_single(pile):
+    """Whether the pile is a multiple of one term."""
+    return len(pile.terms) == 1 and not pile.mixture.parts and pile.mixture.constant == 0
+
+
+def rule_of_pile(pile):
     if not pile.terms:
         return mixture_rule(pile.mixture)
-    if len(pile.terms) == 1 and not pile.mixture.parts and pile.mixture.constant == 0:
+    if is_single(pile):
         return scaled(pile.terms[0][1].told, pile.terms[0][0])
-    system, names = pile_system(pile)
-    return solved_rule(system, None, names)
+    return source_rule(pile.source)
 
 
-def pile_rank(pile):
-    """The rank; TooMany is raised if it is greater than 16."""
-    if len(pile.terms) == 1 and not pile.mixture.parts and pile.mixture.constant == 0:
+def rank_of_pile(pile):
+    if is_single(pile):
         term = pile.terms[0][1]
         return len(term.told.starts) if isinstance(term.origin, Rule) else source_rank(term.source)
     if not pile.terms and is_linear(pile.mixture):
         return 2 if pile.mixture.parts else int(pile.mixture.constant != 0)
-    return source_rank(pile_source(pile))
+    return source_rank(pile.source)
 
 
 def pile_system(pile):
@@ -325,14 +372,18 @@ def is_nothing(pile):
 def piece_of_term(by, term):
     """What `several_system` takes for so many times the term."""
     source = term.source
-    if width_of(source.system) <= MOST_LINES:
+    most = MOST_LINES if source.system.kind in KINDS_OF_LINES else FEW_MEASURED
+    if width_of(source.system) << len(source.letters) <= most:
         return by, source.system, source.letters
     return by, rows_system(term.told), term.told.variables
 
 
 def is_zero(pile):
     """Whether the pile, of no more than three names, is 0 everywhere."""
-    return is_nothing(pile) or vanishes(pile_source(pile).system)
+    if is_nothing(pile):
+        return True
+    numbers = {name: pair[0] for name, pair in zip(pile_names(pile), SOME_NUMBERS)}
+    return pile_value(pile, numbers) == 0 and vanishes(pile.source.system)
 
 
 def term_value(term, numbers):

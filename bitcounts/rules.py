@@ -4,7 +4,7 @@ from bitcounts.digit_rows import digit_indexes, digit_row, own_rows, united
 from bitcounts.errors import TooMany
 from bitcounts.limits import TOGETHER
 from bitcounts.rows import applied, crossed, fractions, moved, row_of
-from bitcounts.solving import Columns, all_columns, least_lines, links_solved
+from bitcounts.solving import Columns, all_columns, least_basis, least_lines, links_solved
 from bitcounts.systems import System, as_grid, system_of_product
 
 HIGHEST_POWER = 3
@@ -118,7 +118,12 @@ def minimal_rule(names, sides, starts, told):
 
 def solved_rule(system, known, names):
     """The least rule that the system tells, by its columns if they are known."""
-    used, labels, links, starts = least_lines(system, known, names)
+    return rule_of_basis(system, least_basis(system, known, len(names)), names)
+
+
+def rule_of_basis(system, basis, names):
+    """The least rule that the system tells, by its basic parts."""
+    used, labels, links, starts = least_lines(system, basis, names)
     return Rule(used, labels, links, starts)
 
 

@@ -155,6 +155,20 @@ class Parts:
         self.links = links
 
 
+class Basis:
+    """The basic parts and the columns by which they are told apart.
+
+    Some of what links them may still be to be worked out, as it is no basic part: for the tuples `left` of the number
+    of a part, that of a digit row and the part that follows, and behind the `last` parts, pairs of a number and a part.
+    """
+
+    def __init__(self, parts, columns, left, last):
+        self.parts = parts
+        self.columns = columns
+        self.left = left
+        self.last = last
+
+
 def next_parts(system, parts, fresh, codes, steps):
     """What comes of the fresh parts, by the codes of the tuples."""
     table = {}
@@ -165,21 +179,33 @@ def next_parts(system, parts, fresh, codes, steps):
     return table
 
 
-def parts_of(system, columns, size):
+def most_parts(columns):
+    """How many parts may be told apart by the columns."""
+    if columns.table is None:
+        return len(columns.found[0]) * len(columns.found[1])
+    return len(columns.table.pivots)
+
+
+def basis_of(system, columns, size):
     """The basic parts, as far as the columns tell; TooMany is raised if there are more than 16."""
     steps = [code_of(digit_row(index, size)) for index in range(1 << size)]
     codes = []
     parts = []
     vectors = []
     links = {}
-    known = empty_table(len(part_values(system, system.part, columns)))
+    most = most_parts(columns)
+    known = empty_table(most if columns.table is None else len(columns.found))
     waiting = {0: (-1, 0, system.part)}
-    level = 0
+    left = []
+    fresh = []
     while waiting:
         fresh = []
         for code in sorted([int(key) for key in waiting]):
+            if len(parts) == most:
+                left.append(waiting[code])
+                continue
             source, index, part = waiting[code]
-            vector = part_values(system, part, columns)
+            vector = part_values(system, part, columns.found)
             rests = rests_of(vector, known) if known.others else []
             if not any(rests):
                 links[source, index] = (None, vector)
@@ -189,12 +215,21 @@ def parts_of(system, columns, size):
             known = widened_table(known, rests)
             links[source, index] = (len(parts), vector)
             fresh.append(len(parts))
-            codes.append((level, code))
+            codes.append((codes[source][0] + 1 if source >= 0 else 0, code))
             parts.append(part)
             vectors.append(vector)
-        waiting = next_parts(system, parts, fresh, codes, steps)
-        level += 1
-    return Parts(codes, vectors, known.pivots, links)
+        waiting = next_parts(system, parts, fresh, codes, steps) if len(parts) < most else {}
+    last = [(at, parts[at]) for at in fresh] if len(parts) == most else []
+    return Basis(Parts(codes, vectors, known.pivots, links), columns, left, last)
+
+
+def linked_parts(system, basis):
+    """The basic parts with all that links them."""
+    parts, columns = basis.parts, basis.columns.found
+    left = [*basis.left, *[(at, index, part_behind(system, part, move))
+                           for at, part in basis.last for index, move in enumerate(system.moves)]]
+    more = {(at, index): (None, part_values(system, part, columns)) for at, index, part in left}
+    return Parts(parts.codes, parts.vectors, parts.places, {**parts.links, **more})
 
 
 def code_of(numbers):
@@ -259,42 +294,22 @@ def links_solved(links):
                   for index in links.kept])
 
 
-def least_parts(system, known, size):
+def least_basis(system, known, size):
     """The basic parts, for so many names, by the columns if they are known; TooMany is raised if there are too many."""
     columns = some_columns(system) if known is None else known
-    parts = parts_of(system, columns.found, size)
+    basis = basis_of(system, columns, size)
     most = SOME
     while columns.waiting:
         columns = more_columns(system, columns, most)
-        parts = parts_of(system, columns.found, size)
+        basis = basis_of(system, columns, size)
         most = MORE * most
-    return parts
+    return basis
 
 
-def rank_of(system, columns, size):
-    """The rank, for so many names, by the columns; TooMany is raised if it is greater than 16."""
-    if columns.waiting:
-        return len(least_parts(system, columns, size).codes)
-    vector = part_values(system, system.part, columns.found)
-    table = empty_table(len(vector))
-    # No more parts are told apart than columns, so it is not asked what follows the last ones.
-    most = len(vector) if columns.table is None else len(columns.table.pivots)
-    waiting = [system.part]
-    while waiting and len(table.pivots) < most:
-        part = waiting.pop()
-        rests = rests_of(part_values(system, part, columns.found), table)
-        if any(rests):
-            if len(table.pivots) == RANK:
-                raise TooMany()
-            table = widened_table(table, rests)
-            waiting.extend([part_behind(system, part, move) for move in system.moves])
-    return len(table.pivots)
-
-
-def least_lines(system, known, names):
+def least_lines(system, basis, names):
     """The names on which the formula hangs, its basic parts, what links them, and their values at 0."""
     size = len(names)
-    parts = least_parts(system, known, size)
+    parts = linked_parts(system, basis)
     many = range(len(parts.vectors))
     followers = [[parts.links[at, index][1] for at in many] for index in range(1 << size)]
     places = places_that_matter(followers)

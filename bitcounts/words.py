@@ -16,7 +16,7 @@ from bitcounts.mixtures import (
     Mixture, is_bulky, is_spread, many_lines, mixed, mixture_lag, mixture_names, scaled_mixture, zeros_below,
 )
 from bitcounts.pairings import joined_mixtures
-from bitcounts.piles import Pile, is_seen_to_hang, pile_of_rule, pile_rank
+from bitcounts.piles import Pile, is_seen_to_hang, pile_of_rule
 from bitcounts.readings import below_zero, equal_to_zero, machine_of, with_rest
 from bitcounts.rules import (
     added, is_variable, rule_equations, scaled, side_by_side, told_both, told_first,
@@ -161,7 +161,7 @@ def names_of_word(one):
 
 
 def rank_of_word(one):
-    return len(one.rule.parts) if is_bulky(one._mixture) else pile_rank(Pile(one._mixture, ()))
+    return len(one.rule.parts) if is_bulky(one._mixture) else Pile(one._mixture, ()).rank
 
 
 class Word:
