@@ -97,6 +97,36 @@ def without_idle_names(names, steps):
     return tuple([names[place] for place in places]), tuple([tuple([row[index] for index in kept]) for row in steps])
 
 
+def height_of(row, at, heights):
+    """On how many lowest digits a state hangs by this row of steps, if all that follow it are higher; None if on more."""
+    followers = [follower for follower, _ in row]
+    alike = all([step == row[0] for step in row])
+    if all([follower == at for follower in followers]):
+        return 0 if alike else None
+    if any([follower <= at for follower in followers]):
+        return None
+    most = max([int(heights[follower]) for follower in followers])
+    return 0 if alike and most == 0 else most + 1
+
+
+def rank_by_heights(atom):
+    """The rank of a multiple of the atom and an integer if its states hang on different numbers of digits, else None.
+
+    States that hang on different numbers of lowest digits are no combinations of others and 1; all of them are parts,
+    and so are some integers, which are what is left behind all digits.
+    """
+    if atom.lag > 0 or atom.bulk is not None:
+        return None
+    found = [0 for _ in atom.steps]
+    for at in reversed(range(len(atom.steps))):
+        height = height_of(atom.steps[at], at, found)
+        if height is None:
+            return None
+        found[at] = height
+    known = {height: True for height in found if height > 0}
+    return 1 + len(known) if len(known) == len([height for height in found if height > 0]) else None
+
+
 def atom_of(names, steps, starts, lag, shape, cost):
     """The atom with these states, each word only once."""
     steps, starts = merged(steps, starts)

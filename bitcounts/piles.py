@@ -1,5 +1,6 @@
 """Piles: sums of a mixture and of multiples of terms, which all formulas are."""
 
+from bitcounts.atoms import rank_by_heights
 from bitcounts.digit_rows import digit_indexes
 from bitcounts.evaluations import mixture_value
 from bitcounts.lines import (
@@ -352,9 +353,12 @@ def rank_of_pile(pile):
     if is_single(pile):
         term = pile.terms[0][1]
         return len(term.told.starts) if isinstance(term.origin, Rule) else source_rank(term.source)
-    if not pile.terms and is_linear(pile.mixture):
+    if pile.terms:
+        return source_rank(pile.source)
+    if is_linear(pile.mixture):
         return 2 if pile.mixture.parts else int(pile.mixture.constant != 0)
-    return source_rank(pile.source)
+    known = rank_by_heights(pile.mixture.parts[0][1]) if len(pile.mixture.parts) == 1 else None
+    return source_rank(pile.source) if known is None else known
 
 
 def pile_system(pile):
