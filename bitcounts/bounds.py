@@ -4,16 +4,17 @@ from bitcounts.errors import TooMany
 from bitcounts.glances import look_at_line
 from bitcounts.limits import NAMES, RANK, TOGETHER
 from bitcounts.lines import (
-    lines_of_machine, lines_system, lost_state, product_of_lines, summed_lines, without_factor,
+    lines_of_machine, lines_system, lost_state, product_of_lines, summed_lines,
 )
+from bitcounts.mixed_rules import mixture_block
 from bitcounts.mixtures import many_lines
 from bitcounts.piles import (
-    Source, Term, all_letters, depth_of, is_nothing, pile_lines, pile_names, pile_of_integer, pile_of_rule,
-    pile_of_shape, pile_system, scaled_pile, single_pile, source_of_product, source_of_system,
-    source_rank,
+    Term, added_over, all_letters, depth_of, is_nothing, pile_lines, pile_names, pile_of_integer, pile_of_rule, pile_of_shape,
+    single_pile, source_of_product,
 )
-from bitcounts.rules import solved_rule
+from bitcounts.rules import rule_block, solved_rule, sum_system
 from bitcounts.solving import least_basis, some_columns
+from bitcounts.sources import Source, source_of_system, source_rank
 from bitcounts.systems import SOME_LINES, System, told_apart
 
 MOST_TERMS = 6
@@ -93,6 +94,14 @@ def pile_of_system(system, names, shape):
     return pile_of_shape(Source(system, known, names, None), names, len(known.found), shape, 0)
 
 
+def pile_system(pile):
+    """The system of the sum of the terms and the mixture, and all names."""
+    blocks = [rule_block(term.told, by) for by, term in pile.terms]
+    if pile.mixture.parts or pile.mixture.constant:
+        return sum_system([*blocks, mixture_block(pile.mixture)])
+    return sum_system(blocks)
+
+
 def limited_pile(pile):
     """The pile, or one of a single term instead; TooMany is raised if its rank is greater than 16."""
     if len(pile.terms) <= MOST_TERMS and (most_rank(pile, False) <= RANK or most_rank(pile, True) <= RANK):
@@ -130,9 +139,8 @@ def pile_of_sum(pile, machine, lines, name):
     many = len(made.starts)
     if many > RANK or many_holding(machine) * most_rank(pile, False) > TOGETHER:
         check_summand(pile, machine, lines)
-    factor, told = without_factor(made)
-    shape = "added", told
-    return scaled_pile(pile_of_shape(None, told.letters, many if many <= RANK else RANK, shape, 0), factor)
+    shape = "added", added_over(pile, machine, name, made)
+    return pile_of_shape(None, made.letters, many if many <= RANK else RANK, shape, 0)
 
 
 def pile_of_total(pile, machine, name):

@@ -6,9 +6,10 @@ from bitcounts.digit_rows import united
 from bitcounts.limits import NAMES
 from bitcounts.mixtures import is_spread
 from bitcounts.piles import (
-    all_letters, is_seen_to_hang, is_zero, pile_names, pile_of_integer, pile_of_rule, pile_value, piled, scaled_pile,
+    all_letters, is_seen_to_hang, pile_names, pile_of_integer, pile_of_rule, pile_value, piled, scaled_pile,
 )
 from bitcounts.rules import HIGHEST_POWER, rule_equations, same_rules
+from bitcounts.zeros import is_zero
 
 
 def formula_operand(operand):

@@ -91,24 +91,15 @@ def lost_state(machine):
 def lines_of_machine(machine):
     """The lines that are 1 where the states hold, 0 elsewhere."""
     lost = lost_state(machine)
-    moves = []
-    for index in range(len(machine.ways[0])):
-        moves.append([() if way[index] == lost else ((way[index], 1),) for way in machine.ways])
-    return Lines(machine.variables, [int(mark) for mark in machine.marks], moves, () if lost == 0 else ((0, 1),))
+    # The state that never holds has no line.
+    lines = [() if at == lost else ((at - int(at > lost >= 0), 1),) for at in range(len(machine.ways))]
+    kept = [at for at in range(len(machine.ways)) if at != lost]
+    moves = [[lines[machine.ways[at][index]] for at in kept] for index in range(len(machine.ways[0]))]
+    return Lines(machine.variables, [int(machine.marks[at]) for at in kept], moves, lines[0])
 
 
 def scaled_lines(lines, factor):
     return Lines(lines.letters, lines.starts, lines.moves, tuple([(place, factor * by) for place, by in lines.part]))
-
-
-def without_factor(lines):
-    """The common factor of the multiples of lines, below 0 if the first factor is, and the lines without it."""
-    common = common_divisor([by for _, by in lines.part])
-    factor = -common if lines.part[0][1] < 0 else common
-    if factor == 1:
-        return 1, lines
-    part = tuple([(place, by // factor) for place, by in lines.part])
-    return factor, Lines(lines.letters, lines.starts, lines.moves, part)
 
 
 def lines_behind(lines, other, factor):

@@ -9,13 +9,11 @@ from bitcounts.lines import (
 )
 from bitcounts.machines import holds_at, same_machines
 from bitcounts.measuring import measured_numbers
-from bitcounts.mixed_rules import mixture_block, mixture_rule, mixture_system
+from bitcounts.mixed_rules import mixture_rule, mixture_system
 from bitcounts.mixtures import Mixture, mixed, mixture_names, same_mixtures, scaled_mixture
-from bitcounts.rules import (
-    Rule, rows_system, rule_block, rule_value, same_rules, rule_of_basis, scaled, sum_system,
-)
-from bitcounts.solving import Columns, least_basis, more_columns, some_columns, vanishes
-from bitcounts.systems import as_grid, several_system, system_of_product, width_of
+from bitcounts.rules import Rule, rows_system, rule_value, same_rules, scaled
+from bitcounts.sources import Source, source_of_system, source_rank, source_rule
+from bitcounts.systems import several_system, system_of_product, width_of
 from bitcounts.walks import is_linear
 
 # With more lines than these, least rules tell it more quickly.
@@ -29,66 +27,35 @@ KINDS_OF_LINES = ("lines", "sum", "rows", "product")
 SOME_NUMBERS = ((5, 12), (6, 1), (10, 3))
 
 
-class Source:
-    """What a least rule is worked out of when it is asked for: a system, its columns if they are known, and names.
+class Added:
+    """A pile, the `summand`, added up over `ranges`, pairs of a name and a machine that holds for finitely many numbers.
 
-    `factors` are the sources of two formulas without a common name if it is that of their product, or None.
+    The names ascend, and no machine hangs on another one's name. `lines` tell the sum.
     """
 
-    def __init__(self, system, known, names, factors):
-        self.system = system
-        self.known = known
-        self.letters = names
-        self.factors = factors
-        self._columns = None
-        self._basis = None
-
-    @property
-    def columns(self):
-        if self._columns is None:
-            self._columns = columns_of_source(self.system, self.known, self.factors)
-        return self._columns
-
-    @property
-    def least_parts(self):
-        if self._basis is None:
-            self._basis = least_basis(solving_system(self), self.columns, len(self.letters))
-        return self._basis
+    def __init__(self, pile, ranges, lines):
+        self.summand = pile
+        self.ranges = ranges
+        self.lines = lines
 
 
-def columns_of_source(system, known, factors):
-    if known is not None:
-        return known
-    if factors is None:
-        return some_columns(system)
-    return Columns((every_column(factors[0]), every_column(factors[1])), None, [])
-
-
-def every_column(source):
-    """All columns of the source, one by one."""
-    columns = source.columns
-    if source.factors is not None:
-        return [(column, beside) for column in columns.found[0] for beside in columns.found[1]]
-    return more_columns(source.system, columns, width_of(source.system)).found if columns.waiting else columns.found
-
-
-def solving_system(source):
-    return source.system if source.factors is None else as_grid(source.system)
-
-
-def source_rank(source):
-    return len(source.least_parts.parts.codes)
-
-
-def source_rule(source):
-    return rule_of_basis(solving_system(source), source.least_parts, source.letters)
+def added_over(pile, machine, name, lines):
+    """The pile added up over the numbers of the name for which the machine holds, which these lines tell."""
+    if is_single(pile) and pile.terms[0][1].shape is not None and pile.terms[0][1].shape[0] == "added":
+        by, inner = pile.terms[0][0], pile.terms[0][1].shape[1]
+        hung = [other for letter, way in inner.ranges for other in (letter, *way.variables)]
+        if name not in hung and not any([letter in machine.variables for letter, _ in inner.ranges]):
+            before = [pair for pair in inner.ranges if pair[0] < name]
+            behind = [pair for pair in inner.ranges if pair[0] > name]
+            return Added(scaled_pile(inner.summand, by), (*before, (name, machine), *behind), lines)
+    return Added(pile, ((name, machine),), lines)
 
 
 class Term:
     """A formula that is told by its shape, by its least rule, or by the source of it.
 
     The `shape` tells its values quickly, or is None. It is a pair of a kind and what it is about: a mixture that is
-    measured, for "held" a machine, for "added" the lines of a sum over a range, for "sum" a pile, and for "times" a
+    measured, for "held" a machine, for "added" an Added, for "sum" a pile, and for "times" a
     pair of piles, so `deep` within each other. The `origin` is a Rule, a Source, or None if the shape tells the rule.
     The names on which the formula hangs, and those of the shape, are among its `letters`; its rank is not above `most`.
     `integer_lines` are its lines, alone in a tuple, which is empty if it is not told by few integer lines.
@@ -135,10 +102,6 @@ def source_of(origin, shape):
     return source_of_system(lines_system(lines), lines.letters)
 
 
-def source_of_system(system, names):
-    return Source(system, None, names, None)
-
-
 def compact_source(pile, most):
     """The source of the pile, by its least rule if more numbers than `most`, and than its rank, tell columns apart."""
     source = pile.source
@@ -170,7 +133,7 @@ def lines_of_shape(shape):
     if kind == "held":
         return (lines_of_machine(about),)
     if kind == "added":
-        return (about,)
+        return (about.lines,)
     if kind == "sum":
         return pile_lines(about)
     if kind == "times":
@@ -198,7 +161,7 @@ def same_terms(term, other):
     if term.shape[0] == "held":
         return same_machines(term.shape[1], other.shape[1])
     if term.shape[0] == "added":
-        return same_lines(term.shape[1], other.shape[1])
+        return same_lines(term.shape[1].lines, other.shape[1].lines)
     if term.shape[0] == "sum":
         return same_piles(term.shape[1], other.shape[1])
     if term.shape[0] == "times":
@@ -268,7 +231,7 @@ def shape_names(shape):
     if kind == "held":
         return about.variables
     if kind == "added":
-        return about.letters
+        return about.lines.letters
     if kind == "sum":
         return pile_names(about)
     if kind == "times":
@@ -361,14 +324,6 @@ def rank_of_pile(pile):
     return source_rank(pile.source) if known is None else known
 
 
-def pile_system(pile):
-    """The system of the sum of the terms and the mixture, and all names."""
-    blocks = [rule_block(term.told, by) for by, term in pile.terms]
-    if pile.mixture.parts or pile.mixture.constant:
-        return sum_system([*blocks, mixture_block(pile.mixture)])
-    return sum_system(blocks)
-
-
 def is_nothing(pile):
     return not pile.terms and not pile.mixture.parts and pile.mixture.constant == 0
 
@@ -382,14 +337,6 @@ def piece_of_term(by, term):
     return by, rows_system(term.told), term.told.variables
 
 
-def is_zero(pile):
-    """Whether the pile, of no more than three names, is 0 everywhere."""
-    if is_nothing(pile):
-        return True
-    numbers = {name: pair[0] for name, pair in zip(pile_names(pile), SOME_NUMBERS)}
-    return pile_value(pile, numbers) == 0 and vanishes(pile.source.system)
-
-
 def term_value(term, numbers):
     """The value of the term at the numbers by their names."""
     if term.shape is None:
@@ -398,7 +345,7 @@ def term_value(term, numbers):
     if kind == "held":
         return int(holds_at(about, digit_indexes([numbers[name] for name in about.variables])))
     if kind == "added":
-        return lines_value(about, [numbers[name] for name in about.letters])
+        return lines_value(about.lines, [numbers[name] for name in about.lines.letters])
     if kind == "sum":
         return pile_value(about, numbers)
     if kind == "times":

@@ -75,7 +75,8 @@ def width_of(system):
 def moved_column(system, column, move):
     kind = system.kind
     if kind == "lines":
-        return [sum([by * column[place] for place, by in row]) for row in move]
+        return [row[0][1] * column[row[0][0]] if len(row) == 1 else sum([by * column[place] for place, by in row])
+                for row in move]
     if kind == "rows":
         return applied(move, column)
     if kind == "product":
