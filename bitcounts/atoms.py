@@ -98,7 +98,7 @@ def without_idle_names(names, steps):
 
 
 def height_of(row, at, heights):
-    """On how many lowest digits a state hangs by this row of steps, if all that follow it are higher; None if on more."""
+    """On how many lowest digits a state hangs by this row of steps, None if on all; those that follow are higher."""
     followers = [follower for follower, _ in row]
     alike = all([step == row[0] for step in row])
     if all([follower == at for follower in followers]):

@@ -35,7 +35,7 @@ def points_of(system, size, last):
             if end is not None and (level if code else 0, code) >= end:
                 continue
             source, index, column = waiting[code]
-            rests = rests_of(column, known) if known.others else []
+            rests = rests_of(column, known) if not known.full else []
             if not any(rests):
                 links[source, index] = (None, column)
                 continue

@@ -10,7 +10,7 @@ from bitcounts.errors import TooMany
 from bitcounts.limits import RANK
 from bitcounts.rows import row_of, shortest
 from bitcounts.systems import moved_column, part_behind, part_values, told_apart
-from math import lcm
+from math import gcd, lcm
 
 # With more columns than the greatest rank, how many are found before the rank is looked at, and how many times more
 # before it is looked at again.
@@ -23,51 +23,44 @@ WIDTH = 80
 class Table:
     """What is known of some vectors that are no combinations of others.
 
-    At the places `pivots` these vectors tell all of their combinations: the number of a combination at each place
-    of `others`, pairs of a place and factors, times the `divisor` is the sum of its numbers at the pivots times
-    these factors.
+    The `rows` are as many combinations of them, and for each of them there is a place in `pivots`: there it is not 0,
+    and all later ones are. All vectors are combinations of them if the table is `full`.
     """
 
-    def __init__(self, divisor, pivots, others):
-        self.divisor = divisor
+    def __init__(self, pivots, rows, full):
         self.pivots = pivots
-        self.others = others
+        self.rows = rows
+        self.full = full
 
 
 def empty_table(width):
-    return Table(1, [], [(place, []) for place in range(width)])
+    return Table([], [], width == 0)
 
 
 def rests_of(vector, table):
-    """For each of the other places how far the vector is from a combination."""
-    head = [vector[place] for place in table.pivots]
-    divisor = table.divisor
-    some = [at for at, number in enumerate(head) if number]
-    if 2 * len(some) < len(head):
-        return [divisor * vector[place] - sum([head[at] * told[at] for at in some]) for place, told in table.others]
-    return [divisor * vector[place] - sum([number * by for number, by in zip(head, told)])
-            for place, told in table.others]
+    """The vector, or a multiple, without the multiples of the table's rows: 0 if it is a combination of them."""
+    for place, row in zip(table.pivots, table.rows):
+        top = vector[place]
+        if top:
+            pivot = row[place]
+            if top % pivot == 0:
+                by = top // pivot
+                vector = [number - by * beside for number, beside in zip(vector, row)]
+            else:
+                common = gcd(top, pivot)
+                kept, by = pivot // common, top // common
+                vector = [kept * number - by * beside for number, beside in zip(vector, row)]
+    return vector
 
 
 def widened_table(table, rests):
-    """The table with a vector more, by its rests, not all of which are 0; all divisions leave no rest."""
-    places = [at for at, rest in enumerate(rests) if rest]
-    least = places[0]
-    for at in places:
-        if abs(rests[at]) < abs(rests[least]):
+    """The table with a vector more, by its rests, not all of which are 0."""
+    row = shortest(rests)
+    least = -1
+    for at, number in enumerate(row):
+        if number and (least < 0 or abs(number) < abs(row[least])):
             least = at
-    pivot, divisor = rests[least], table.divisor
-    place, own = table.others[least]
-    others = []
-    for at, (other, told) in enumerate(table.others):
-        rest = rests[at]
-        if at == least:
-            continue
-        if rest:
-            others.append((other, [*[(pivot * by - rest * beside) // divisor for by, beside in zip(told, own)], rest]))
-        else:
-            others.append((other, [*[pivot * by // divisor for by in told], 0]))
-    return Table(pivot, [*table.pivots, place], others)
+    return Table([*table.pivots, least], [*table.rows, row], len(table.pivots) + 1 == len(row))
 
 
 class Columns:
@@ -105,7 +98,7 @@ def more_columns(system, known, most):
                 table = widened_table(table, rests)
                 waiting.append(len(found))
                 found.append(column)
-        if not table.others:
+        if table.full:
             waiting.clear()
     return Columns(found, table, waiting)
 
@@ -123,7 +116,7 @@ def vanishes(system):
     table = known.table
     if part_values(system, system.part, found)[0] != 0:
         return False
-    while waiting and table.others:
+    while waiting and not table.full:
         at = waiting.pop()
         for move in system.moves:
             column = moved_column(system, found[at], move)
@@ -206,7 +199,7 @@ def basis_of(system, columns, size):
                 continue
             source, index, part = waiting[code]
             vector = part_values(system, part, columns.found)
-            rests = rests_of(vector, known) if known.others else []
+            rests = rests_of(vector, known) if not known.full else []
             if not any(rests):
                 links[source, index] = (None, vector)
                 continue

@@ -20,7 +20,7 @@ class Source:
         self._basis = None
 
     @property
-    def columns(self):
+    def known_columns(self):
         if self._columns is None:
             self._columns = columns_of_source(self.system, self.known, self.factors)
         return self._columns
@@ -28,7 +28,7 @@ class Source:
     @property
     def least_parts(self):
         if self._basis is None:
-            self._basis = least_basis(solving_system(self), self.columns, len(self.letters))
+            self._basis = least_basis(solving_system(self), self.known_columns, len(self.letters))
         return self._basis
 
 
@@ -42,7 +42,7 @@ def columns_of_source(system, known, factors):
 
 def every_column(source):
     """All columns of the source, one by one."""
-    columns = source.columns
+    columns = source.known_columns
     if source.factors is not None:
         return [(column, beside) for column in columns.found[0] for beside in columns.found[1]]
     return more_columns(source.system, columns, width_of(source.system)).found if columns.waiting else columns.found
