@@ -3,7 +3,7 @@
 from bitcounts.digit_rows import own_rows, united
 from bitcounts.errors import TooManyClasses
 from bitcounts.evaluations import joined_value
-from bitcounts.limits import CLASSES
+from bitcounts.limits import CLASSES, RANK
 from bitcounts.machines import Machine, everywhere, grouped, least_machine, never, opposite
 
 GREATEST_PAIRS = 4096
@@ -171,6 +171,21 @@ def signs_of(machine, names):
         signs = [sum([signs[way[index]] << at * width for at, index in enumerate(rows)]) for way in machine.ways]
         width = width * len(rows)
     return signs
+
+
+def binary_rank(signs):
+    """At most the rank: how many of these rows of binary digits are no sums, modulo 2, of others; no more than 17."""
+    rows = []
+    for sign in signs:
+        rest = sign
+        for row, place in rows:
+            if rest >> place & 1:
+                rest = rest ^ row
+        if rest:
+            rows.append((rest, rest.bit_length() - 1))
+            if len(rows) > RANK:
+                break
+    return len(rows)
 
 
 def look_at_classes(machine, other, names, sign):

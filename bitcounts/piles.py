@@ -28,9 +28,9 @@ SOME_NUMBERS = ((5, 12), (6, 1), (10, 3))
 
 
 class Added:
-    """A pile, the `summand`, added up over `ranges`, pairs of a name and a machine that holds for finitely many numbers.
+    """A pile, the `summand`, added up over `ranges`: pairs of a name and a machine that holds for few of its numbers.
 
-    The names ascend, and no machine hangs on another one's name. `lines` tell the sum.
+    The names ascend, and no machine hangs on another one's name. The `lines` tell the sum; the summand may be None.
     """
 
     def __init__(self, pile, ranges, lines):
@@ -43,6 +43,8 @@ def added_over(pile, machine, name, lines):
     """The pile added up over the numbers of the name for which the machine holds, which these lines tell."""
     if is_single(pile) and pile.terms[0][1].shape is not None and pile.terms[0][1].shape[0] == "added":
         by, inner = pile.terms[0][0], pile.terms[0][1].shape[1]
+        if inner.summand is None:
+            return Added(pile, ((name, machine),), lines)
         hung = [other for letter, way in inner.ranges for other in (letter, *way.variables)]
         if name not in hung and not any([letter in machine.variables for letter, _ in inner.ranges]):
             before = [pair for pair in inner.ranges if pair[0] < name]

@@ -14,19 +14,16 @@ from bitcounts.digit_rows import own_rows
 from bitcounts.measuring import lines_measured, measured_numbers
 from bitcounts.rows import applied, row_behind
 
-# How many lines are looked at where some of them will do.
-SOME_LINES = 40
-
 
 class System:
     """What tells a formula: its `kind`, the column at 0, the moves for each digit row, and its first part.
 
-    The kind is "rows" for fraction lines, "lines" for integer lines, and for words "sum", "some" if only some lines
-    are to be looked at, or what is measured of their sums. What is measured hangs on the `marks` of lines besides, as
-    `lines_measured` takes them. For a "product" of two formulas there are pairs of columns, moves and parts; for a
-    "grid", whose names are different ones, a pair of lists of columns, each of the one belonging to each of the other.
-    The `marks` of both are the two systems and whether they are alike but for their parts. For a sum of "several"
-    formulas there are lists of columns, moves and parts, and the `marks` are pairs of a factor and a system.
+    The kind is "rows" for fraction lines, "lines" for integer lines, and for words "sum" or what is measured of their
+    sums. What is measured hangs on the `marks` of lines besides, as `lines_measured` takes them. For a "product" of two
+    formulas there are pairs of columns, moves and parts; for a "grid", whose names are different ones, a pair of lists
+    of columns, each of the one belonging to each of the other. The `marks` of both are the two systems and whether they
+    are alike but for their parts. For a sum of "several" formulas there are lists of columns, moves and parts, and the
+    `marks` are pairs of a factor and a system.
     """
 
     def __init__(self, kind, first, moves, part, marks):
@@ -93,8 +90,6 @@ def told_apart(system, column):
         return column
     if system.kind == "several":
         return [number for (_, one), own in zip(system.marks, column) for number in told_apart(one, own)]
-    if system.kind == "some":
-        return column[:SOME_LINES]
     if system.kind == "product":
         one, other, alike = system.marks
         first, second = told_apart(one, column[0]), told_apart(other, column[1])

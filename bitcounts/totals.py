@@ -1,6 +1,6 @@
 """Formulas added up, and tests counted, over the numbers of a variable below a word."""
 
-from bitcounts.bounds import pile_of_machine, pile_of_total
+from bitcounts.bounds import look_at_ranks, pile_of_machine, pile_of_total
 from bitcounts.checks import check_name
 from bitcounts.conditions import Test
 from bitcounts.counting import one_if
@@ -54,4 +54,5 @@ def count(t, name, below):
     if not are_few(t.names, bound, name):
         united(united(t.names, bound.names), (name,))
     machine = difference_machine(var(name), bound, False)
+    look_at_ranks(machine, t._machine)
     return added_up(one_if(t), machine, name)

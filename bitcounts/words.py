@@ -1,17 +1,17 @@
 """Words: what is made of variables and integers by the operators of integers."""
 
-from bitcounts.atoms import bulky_atom, halved_atom, narrowed, variable_atom
+from bitcounts.atoms import bulky_atom, halved_atom, narrowed, rank_by_heights, variable_atom
 from bitcounts.blends import blended
 from bitcounts.checks import check_name, check_within, is_integer, numbers_by_name, numbers_by_pairs
 from bitcounts.conditions import Test
 from bitcounts.digit_rows import united
-from bitcounts.errors import NotAFormula, NotAVariable, NotAWord
+from bitcounts.errors import NotAFormula, NotAVariable, NotAWord, TooMany
 from bitcounts.evaluations import mixture_value
 from bitcounts.formulas import Formula, are_same, power_of, times
 from bitcounts.glances import look_at_line
 from bitcounts.limits import NAMES, RANK
 from bitcounts.machines import opposite
-from bitcounts.mixed_rules import mixture_system, word_rule
+from bitcounts.mixed_rules import mixture_system
 from bitcounts.mixtures import (
     Mixture, is_bulky, is_spread, many_lines, mixed, mixture_lag, mixture_names, scaled_mixture, zeros_below,
 )
@@ -48,18 +48,28 @@ def bulky_word(rule, lag):
     return Word(Mixture(0, ((1, bulky_atom(rule, lag)),)))
 
 
+def with_width(mixture, width):
+    """The mixture of a single atom, of which it is known that it has no more than this width."""
+    by, atom = mixture.parts[0]
+    return Mixture(mixture.constant, ((by, narrowed(atom, width)),))
+
+
 def within_rank(mixture):
     """The word; TooMany is raised if its rank is greater than 16."""
     if many_lines(mixture) <= RANK:
         return Word(mixture)
+    rank = rank_by_heights(mixture.parts[0][1]) if len(mixture.parts) == 1 else None
+    if rank is not None:
+        if rank > RANK:
+            raise TooMany()
+        return Word(with_width(mixture, rank))
     names = mixture_names(mixture)
     system = mixture_system(mixture, names)
     if len(names) == 1 and many_lines(mixture) > MANY_LINES:
         look_at_line(system)
     columns = some_columns(system)
     if not columns.waiting and len(mixture.parts) == 1:
-        by, atom = mixture.parts[0]
-        mixture = Mixture(mixture.constant, ((by, narrowed(atom, len(columns.found))),))
+        mixture = with_width(mixture, len(columns.found))
     made = Word(mixture)
     if columns.waiting or len(columns.found) > RANK:
         _ = made.rule
@@ -155,29 +165,33 @@ def names_of_word(one):
     """The names on which the word hangs; its least rule is asked for them only if values do not show them."""
     mixture = one._mixture
     names = mixture_names(mixture)
-    if is_spread(mixture) or not is_bulky(mixture) and is_seen_to_hang(Pile(mixture, ()), names):
+    if is_spread(mixture) or not is_bulky(mixture) and is_seen_to_hang(one.pile, names):
         return names
     return one.rule.variables
 
 
-def rank_of_word(one):
-    return len(one.rule.parts) if is_bulky(one._mixture) else Pile(one._mixture, ()).rank
+def pile_of_word(mixture):
+    """The pile of a word that is kept as this mixture; a bulky atom stands alone in it."""
+    return pile_of_rule(mixture.parts[0][1].bulk, None) if is_bulky(mixture) else Pile(mixture, ())
 
 
 class Word:
-    """A word is kept as a mixture; its least rule is worked out when it is asked for."""
+    """A word is kept as a mixture; its least rule is worked out when it is asked for, by its pile."""
 
     def __init__(self, mixture):
         self._mixture = mixture
-        self._word_rule = None
-        self._word_rank = None
+        self._word_pile = None
         self._word_names = None
 
     @property
+    def pile(self):
+        if self._word_pile is None:
+            self._word_pile = pile_of_word(self._mixture)
+        return self._word_pile
+
+    @property
     def rule(self):
-        if self._word_rule is None:
-            self._word_rule = word_rule(self._mixture)
-        return self._word_rule
+        return self.pile.rule
 
     @property
     def names(self):
@@ -187,9 +201,7 @@ class Word:
 
     @property
     def rank(self):
-        if self._word_rank is None:
-            self._word_rank = rank_of_word(self)
-        return self._word_rank
+        return self.pile.rank
 
     @property
     def basis(self):
@@ -350,7 +362,7 @@ def formula(f):
     if isinstance(f, Formula):
         return f
     if isinstance(f, Word):
-        return Formula(pile_of_rule(f.rule, None) if is_bulky(f._mixture) else Pile(f._mixture, ()))
+        return Formula(f.pile)
     if is_integer(f):
         return Formula(Pile(Mixture(f, ()), ()))
     raise NotAFormula(f)

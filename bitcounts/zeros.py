@@ -33,7 +33,7 @@ def sums_of(pile):
     others = []
     found = []
     for by, term in pile.terms:
-        if term.shape is None or term.shape[0] != "added":
+        if term.shape is None or term.shape[0] != "added" or term.shape[1].summand is None:
             others.append((by, term))
             continue
         about = term.shape[1]
