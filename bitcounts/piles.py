@@ -307,7 +307,7 @@ def is_single(pile):
 
 
 def rule_of_pile(pile):
-    if not pile.terms:
+    if not pile.terms and is_linear(pile.mixture):
         return mixture_rule(pile.mixture)
     if is_single(pile):
         return scaled(pile.terms[0][1].told, pile.terms[0][0])

@@ -21,7 +21,7 @@ from bitcounts.readings import below_zero, equal_to_zero, machine_of, with_rest
 from bitcounts.rules import (
     added, is_variable, rule_equations, scaled, side_by_side, told_both, told_first,
 )
-from bitcounts.solving import some_columns
+from bitcounts.solving import least_basis, some_columns
 from bitcounts.verdicts import compared, rest_machine
 
 GREATEST_WORD = 10 ** 6
@@ -70,10 +70,9 @@ def within_rank(mixture):
     columns = some_columns(system)
     if not columns.waiting and len(mixture.parts) == 1:
         mixture = with_width(mixture, len(columns.found))
-    made = Word(mixture)
     if columns.waiting or len(columns.found) > RANK:
-        _ = made.rule
-    return made
+        _ = least_basis(system, columns, len(names))
+    return Word(mixture)
 
 
 def compacted(one, other):

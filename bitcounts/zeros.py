@@ -120,9 +120,9 @@ def is_zero(pile):
     left = Pile(pile.mixture, (*others, *[pair for one in sums for pair in one.members]))
     if is_nothing(left):
         return True
-    numbers = {name: pair[0] for name, pair in zip(pile_names(left), SOME_NUMBERS)}
-    if pile_value(left, numbers) != 0:
-        return False
+    for at in (0, 1):
+        if pile_value(left, {name: pair[at] for name, pair in zip(pile_names(left), SOME_NUMBERS)}) != 0:
+            return False
     sums = [one for one in sums if len(one.members) < 2 or not is_zero_summand(one.summand)]
     left = Pile(pile.mixture, (*others, *[pair for one in sums for pair in one.members]))
     return is_nothing(left) or is_zero_by_marks(left) or vanishes(left.source.system)
