@@ -24,9 +24,9 @@ COMPREHENSIONS = (ast.ListComp, ast.DictComp)
 BARRED_WORDS = set("""register mro elements open input law version_info with_traceback add_note type typing enum Enum
     Flag Generic Protocol ABC namedtuple NamedTuple eval exec compile globals locals vars id exit hash""".split())
 # What properties keep as they have worked it out, by the class that has the attribute.
-KEPT = {"_word_pile": "Word", "_pile_rule": "Pile", "_pile_rank": "Pile", "_pile_source": "Pile", "_told": "Term", "_integer_lines": "Term", "_source": "Term",
-        "_columns": "Source", "_basis": "Source", "_formula_names": "Formula",
-        "_word_names": "Word", "_sides": "Rule"}
+KEPT = {"_word_pile": "Word", "_word_names": "Word", "_formula_names": "Formula", "_pile_rule": "Pile",
+        "_pile_rank": "Pile", "_pile_source": "Pile", "_told": "Term", "_integer_lines": "Term", "_source": "Term",
+        "_columns": "Source", "_basis": "Source", "_sides": "Rule"}
 CHANGING = {"append", "clear", "extend", "insert", "pop", "remove", "reverse", "setdefault", "update"}
 
 

@@ -193,7 +193,8 @@ class RanksAndNames(unittest.TestCase):
 
     def test_names_that_some_values_do_not_show(self):
         for made, names in ((one_if(same(M, 7)), ("m",)), (one_if(same(M, 7)) * N, ("m", "n")),
-                            ((M & 64) + (N & 0), ("m",)), (formula(M & 128) * (N & 32), ("m", "n")), (one_if(M > 60) + N * P, ("m", "n", "p")),
+                            ((M & 64) + (N & 0), ("m",)), (formula(M & 128) * (N & 32), ("m", "n")),
+                            (one_if(M > 60) + N * P, ("m", "n", "p")),
                             (ones(M + N) - ones(M + N), ()), (formula(N - 6) * (M - 5) * (M - 12), ("m", "n")),
                             (one_if(same(M, 2)) * one_if(same(M, 3)), ())):
             self.assertEqual(made.names, names)

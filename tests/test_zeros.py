@@ -164,7 +164,8 @@ class Ways(unittest.TestCase):
     def test_by_marks(self):
         t, s = M < N, rests(M, 3, 1)
         for made, seen in ((one_if(t | s) + one_if(t & s) - one_if(t) - one_if(s), True),
-                           (one_if(t) + one_if(~t) - 1, True), (formula(M) * one_if(t) + M * one_if(~t) - M, True), (one_if(t) * one_if(~t), True),
+                           (one_if(t) + one_if(~t) - 1, True), (one_if(t) * one_if(~t), True),
+                           (formula(M) * one_if(t) + M * one_if(~t) - M, True),
                            (one_if(t) - one_if(s), False), (ones(M) - ones(M + 0), False), (one_if(t) * M, False),
                            (power(-1, M) * one_if(t) + power(-1, M) * one_if(~t) - power(-1, M), True)):
             self.assertIs(is_zero_by_marks(made._pile), seen)
