@@ -142,7 +142,7 @@ def seen_together(machine, other, names, table, most):
     rows = list(zip(own_rows(machine.variables, names), columns))
     seen = [{against: True for against in settled_beside} for _ in machine.ways]
     fresh = {} if 0 in settled or 0 in settled_beside else {0: [0]}
-    seen[0][0] = True
+    seen[0] = {**seen[0], 0: True}
     many = 1
     parts = False
     while fresh and many <= most and not parts:
@@ -153,11 +153,11 @@ def seen_together(machine, other, names, table, most):
                 known = seen[way[index]]
                 new = [then for then in [column[against] for against in pairs] if then not in known]
                 if new and way[index] not in settled:
-                    for found in new:
-                        seen[way[index]][found] = True
                     after[way[index]] = [*after.get(way[index], []), *new]
         parts = bool(table) and is_parting(machine, other, fresh)
         fresh = {state: list({against: True for against in after[state]}) for state in after}
+        for state in fresh:
+            seen[state] = {**seen[state], **{against: True for against in fresh[state]}}
         many = many + sum([len(fresh[state]) for state in fresh])
     return Together([list(row) for row in seen], bool(fresh), parts)
 

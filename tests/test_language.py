@@ -65,21 +65,6 @@ def created(function):
     return new - other
 
 
-def nested(function):
-    """The local names that are given a list of new lists or dicts by a comprehension, and only indexed or iterated."""
-    found = set()
-    for node in ast.walk(function):
-        if isinstance(node, ast.Assign) and isinstance(node.value, ast.ListComp):
-            if isinstance(node.value.elt, (ast.List, ast.Dict, ast.ListComp, ast.DictComp)):
-                found |= {target.id for target in node.targets if isinstance(target, ast.Name)}
-    for node in ast.walk(function):
-        for child in ast.iter_child_nodes(node):
-            if isinstance(child, ast.Name) and isinstance(child.ctx, ast.Load):
-                if not isinstance(node, (ast.Subscript, ast.comprehension, ast.For)):
-                    found.discard(child.id)
-    return found & created(function)
-
-
 class Files(unittest.TestCase):
     def test_sizes_and_characters(self):
         for path in files():
@@ -275,8 +260,7 @@ class Statements(unittest.TestCase):
                 if isinstance(node, ast.Subscript) and isinstance(node.ctx, ast.Store):
                     # A line of the console keeps a formula at its desk.
                     kept = (name, function.name) == ("console.py", "_keep")
-                    inner = isinstance(node.value, ast.Subscript) and ast.unparse(node.value.value) in nested(function)
-                    self.assertTrue(kept or inner or ast.unparse(node.value) in own, (name, function.name))
+                    self.assertTrue(kept or ast.unparse(node.value) in own, (name, function.name))
                 if isinstance(node, ast.Attribute) and isinstance(node.ctx, ast.Store):
                     self.assertEqual(ast.unparse(node.value), "self", name)
                     deed = name == "desks.py" and function.name in ("do_all", "undo", "_do")
