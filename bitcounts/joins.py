@@ -4,12 +4,14 @@ from bitcounts.digit_rows import own_rows, united
 from bitcounts.errors import TooManyClasses
 from bitcounts.evaluations import joined_value
 from bitcounts.limits import CLASSES, RANK
-from bitcounts.machines import Machine, everywhere, grouped, least_machine, never, opposite
+from bitcounts.machines import Machine, everywhere, grouped, least_machine, never, numbered, opposite
 
 GREATEST_PAIRS = 4096
 # With more pairs than these it is seen first whether they settle something at once, and with more than some of them.
 MANY_PAIRS = 500
-SOME_PAIRS = 1500
+SOME_PAIRS = 2000
+# With more classes that are seen at once than these, it is seen by those that follow whether there are too many.
+SOME_CLASSES = 100
 # For how many tuples it is seen whether states hold.
 SOME_TUPLES = 4096
 # More pairs than any machines have.
@@ -141,24 +143,28 @@ def seen_together(machine, other, names, table, most):
     columns = [[row[place] for row in other.ways] for place in own_rows(other.variables, names)]
     rows = list(zip(own_rows(machine.variables, names), columns))
     seen = [{against: True for against in settled_beside} for _ in machine.ways]
-    fresh = {} if 0 in settled or 0 in settled_beside else {0: [0]}
+    fresh = {} if 0 in settled or 0 in settled_beside else {0: {0: True}}
     seen[0] = {**seen[0], 0: True}
     many = 1
     parts = False
     while fresh and many <= most and not parts:
+        parts = bool(table) and is_parting(machine, other, fresh)
         after = {}
         for state in fresh:
-            way, pairs = machine.ways[state], fresh[state]
+            way, pairs = machine.ways[state], list(fresh[state])
             for index, column in rows:
-                known = seen[way[index]]
-                new = [then for then in [column[against] for against in pairs] if then not in known]
-                if new and way[index] not in settled:
-                    after[way[index]] = [*after.get(way[index], []), *new]
-        parts = bool(table) and is_parting(machine, other, fresh)
-        fresh = {state: list({against: True for against in after[state]}) for state in after}
-        for state in fresh:
-            seen[state] = {**seen[state], **{against: True for against in fresh[state]}}
-        many = many + sum([len(fresh[state]) for state in fresh])
+                then = way[index]
+                known = seen[then]
+                new = {found: True for found in [column[against] for against in pairs] if found not in known}
+                if new and then not in settled:
+                    before = after.get(then, {})
+                    after[then] = {**before, **new}
+                    many = many + len(after[then]) - len(before)
+            if many > most:
+                break
+        for state in after:
+            seen[state] = {**seen[state], **after[state]}
+        fresh = after
     return Together([list(row) for row in seen], bool(fresh), parts)
 
 
@@ -188,6 +194,30 @@ def binary_rank(signs):
     return len(rows)
 
 
+def by_states(seen, groups):
+    """For each state of the one machine the numbers of its pairs by the states of the other one."""
+    found = []
+    for row in seen:
+        at = sum([len(known) for known in found])
+        found.append({against: group for against, group in zip(row, groups[at:at + len(row)])})
+    return found
+
+
+def many_behind(machine, other, names, groups):
+    """How many of all pairs are told apart by the classes of the pairs that follow them.
+
+    `groups` has for each state of the machine the classes of the pairs with the states of the other one, by these.
+    """
+    own, beside = own_rows(machine.variables, names), own_rows(other.variables, names)
+    ways_beside = [[way[index] for index in beside] for way in other.ways]
+    rows = {}
+    for way, pairs in zip(machine.ways, groups):
+        behind = [groups[way[index]] for index in own]
+        for against in pairs:
+            rows[tuple([group[then] for group, then in zip(behind, ways_beside[against])])] = True
+    return len(rows)
+
+
 def look_at_classes(machine, other, names, sign):
     """TooManyClasses is raised if pairs, joined, are seen to be more than 256 different tests, or if they are too many.
 
@@ -199,8 +229,12 @@ def look_at_classes(machine, other, names, sign):
         if pairs.waiting and most == GREATEST_PAIRS:
             raise TooManyClasses()
         told = [joined_value(sign, one, beside[against]) for one, row in zip(signs, pairs.seen) for against in row]
-        if len({bits: True for bits in told}) > CLASSES:
+        found = len({bits: True for bits in told})
+        if found > CLASSES:
             raise TooManyClasses()
+        if found > SOME_CLASSES and not pairs.waiting:
+            if many_behind(machine, other, names, by_states(pairs.seen, numbered(told)[0])) > CLASSES:
+                raise TooManyClasses()
         if not pairs.waiting or len(signs) * len(beside) <= GREATEST_PAIRS:
             return
 
