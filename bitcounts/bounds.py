@@ -25,7 +25,7 @@ MANY_LINES = 21
 DEEPEST = 6
 # More lines than any product has.
 ALL_LINES = 1 << 60
-# With no more pairs of states than these, and some, it is seen which of them are the same.
+# How many pairs of states, and some, are looked at to see that a rank is too great.
 MOST_PAIRS = 100
 
 

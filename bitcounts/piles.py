@@ -16,12 +16,14 @@ from bitcounts.sources import Source, source_of_system, source_rank, source_rule
 from bitcounts.systems import several_system, system_of_product, width_of
 from bitcounts.walks import is_linear
 
-# With more lines than these, least rules tell it more quickly.
+# With more lines than these, least rules tell it more quickly: lines of one formula, of one that is measured among
+# several ones (for all digit rows together), of factors without a common name, of other factors, and of their products.
 MOST_LINES = 40
 FEW_MEASURED = 12
 FEW_LINES = 6
 FEWEST_LINES = 3
 FEW_PRODUCTS = 16
+# All others are measured.
 KINDS_OF_LINES = ("lines", "sum", "rows", "product")
 # Numbers for each name by which it is tried whether values differ.
 SOME_NUMBERS = ((5, 12), (6, 1), (10, 3))
@@ -57,9 +59,9 @@ class Term:
     """A formula that is told by its shape, by its least rule, or by the source of it.
 
     The `shape` tells its values quickly, or is None. It is a pair of a kind and what it is about: a mixture that is
-    measured, for "held" a machine, for "added" an Added, for "sum" a pile, and for "times" a
-    pair of piles, so `deep` within each other. The `origin` is a Rule, a Source, or None if the shape tells the rule.
-    The names on which the formula hangs, and those of the shape, are among its `letters`; its rank is not above `most`.
+    measured, for "held" a machine, for "added" an Added, for "sum" a pile, and for "times" a pair of piles. They stand
+    so `deep` within each other. The `origin` is a Rule, a Source, or None where the shape tells the rule. The names on
+    which the formula hangs, and those of the shape, are among its `letters`; its rank is not above `most`.
     `integer_lines` are its lines, alone in a tuple, which is empty if it is not told by few integer lines.
     """
 
