@@ -16,8 +16,8 @@ from bitcounts.sources import Source, source_of_system, source_rank, source_rule
 from bitcounts.systems import several_system, system_of_product, width_of
 from bitcounts.walks import is_linear
 
-# With more lines than these, least rules tell it more quickly: lines of one formula, of one that is measured among
-# several ones (for all digit rows together), of factors without a common name, of other factors, and of their products.
+# With more lines than these, least rules tell it more quickly: lines of one formula, or for all digit rows of one among
+# several, or of one of these that is measured; of factors without a common name, of other factors, and of products.
 MOST_LINES = 40
 FEW_MEASURED = 12
 FEW_LINES = 6
@@ -296,6 +296,9 @@ def pile_names(pile):
 def source_of_pile(pile):
     if is_single(pile) and pile.terms[0][0] == 1:
         return pile.terms[0][1].source
+    lines = pile_lines(pile) if pile.terms else ()
+    if lines and len(lines[0].starts) << len(lines[0].letters) <= MOST_LINES:
+        return source_of_system(lines_system(lines[0]), lines[0].letters)
     names = pile_names(pile)
     pieces = [piece_of_term(by, term) for by, term in pile.terms]
     if pile.mixture.parts or pile.mixture.constant or not pieces:

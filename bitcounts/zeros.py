@@ -11,6 +11,8 @@ from bitcounts.solving import vanishes
 
 # How many tuples of states are looked at.
 MOST_TUPLES = 50
+# The kinds of terms that are told by integer lines, or by piles.
+KINDS_BY_LINES = ("held", "added", "sum", "times")
 
 
 def same_ranges(ranges, others):
@@ -84,8 +86,17 @@ def marked_pile(pile, machines, marks):
     return made
 
 
+def kinds_of(pile):
+    """The kinds of the terms, each once."""
+    return {None if term.shape is None else term.shape[0]: True for _, term in pile.terms}
+
+
 def is_zero_by_marks(pile):
     """Whether it is seen that the pile is 0 by where its tests hold together."""
+    kinds = kinds_of(pile)
+    if "times" not in kinds and "sum" not in kinds and (pile.mixture.parts or len(kinds) > 1):
+        # Nothing is there with which what is no test could add up to 0.
+        return False
     machines = held_machines(pile)
     if not machines:
         return False
@@ -120,7 +131,8 @@ def is_zero(pile):
     left = Pile(pile.mixture, (*others, *[pair for one in sums for pair in one.members]))
     if is_nothing(left):
         return True
-    for at in (0, 1):
+    # What is measured is compared slowly.
+    for at in (0, 1) if any([kind not in KINDS_BY_LINES for kind in kinds_of(left)]) else (0,):
         if pile_value(left, {name: pair[at] for name, pair in zip(pile_names(left), SOME_NUMBERS)}) != 0:
             return False
     sums = [one for one in sums if len(one.members) < 2 or not is_zero_summand(one.summand)]
